@@ -1,0 +1,1 @@
+"""Lastprices: is one price enough for all texts that a machine takes?"""

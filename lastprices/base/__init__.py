@@ -1,0 +1,1 @@
+"""What all else is built on: words and machines."""

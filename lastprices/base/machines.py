@@ -1,0 +1,153 @@
+"""Machines: states, some of them first or last ones, and arcs with prices between them."""
+
+from lastprices.base.lines import lines_of, told_by_lines
+from lastprices.base.parts import is_ends, is_place, letters_of, states_of
+from lastprices.base.words import is_integer, is_letter, is_name
+from lastprices.errors import InvalidMachine, InvalidOperation, InvalidText, UnknownName
+
+MAX_STATES = 24
+MAX_PRICE = 9
+
+
+def is_price(value):
+    """Whether the value is the price of an arc."""
+    return is_integer(value) and 0 <= value <= MAX_PRICE
+
+
+def is_arcs(value):
+    """Whether the value is a dict from the places of arcs to prices."""
+    if not isinstance(value, dict):
+        return False
+    return all([is_place(place) and is_price(value[place]) for place in value])
+
+
+def makes_machine(firsts, lasts, arcs):
+    """Whether there is a machine with these first states, last states and arcs."""
+    if not is_ends(firsts) or not is_ends(lasts) or not is_arcs(arcs):
+        return False
+    return len(states_of(firsts, lasts, arcs)) <= MAX_STATES
+
+
+def is_naming(states, value):
+    """Whether the value is a dict from just these states to different names."""
+    if not isinstance(value, dict) or len(value) != len(states):
+        return False
+    if not all([state in value and is_name(value[state]) for state in states]):
+        return False
+    return len(set([value[state] for state in states])) == len(states)
+
+
+class Machine:
+    """A machine, which never changes."""
+
+    def __init__(self, firsts, lasts, arcs):
+        if not makes_machine(firsts, lasts, arcs):
+            raise InvalidMachine("these ends and arcs make no machine")
+        self._firsts = firsts
+        self._lasts = lasts
+        self._arcs = {place: arcs[place] for place in sorted(arcs)}
+        self._states = states_of(firsts, lasts, arcs)
+        self._letters = letters_of(arcs)
+        self._lines = lines_of(firsts, lasts, self._arcs)
+
+    @classmethod
+    def from_lines(cls, *lines):
+        """The machine with these lines, in any order."""
+        arcs = told_by_lines(lines)
+        # Without such a line there are no such ends, which no machine has.
+        firsts = arcs.pop("first", ())
+        lasts = arcs.pop("last", ())
+        return cls(firsts, lasts, arcs)
+
+    @property
+    def firsts(self):
+        """The ascending tuple of the first states."""
+        return self._firsts
+
+    @property
+    def lasts(self):
+        """The ascending tuple of the last states."""
+        return self._lasts
+
+    @property
+    def arcs(self):
+        """A dict from the triples (state, letter, next state) to the prices of the arcs."""
+        # A copy, so that changes of it do not reach the machine.
+        return {place: self._arcs[place] for place in self._arcs}
+
+    @property
+    def states(self):
+        """The ascending tuple of all states."""
+        return self._states
+
+    @property
+    def letters(self):
+        """The ascending tuple of the letters of the arcs."""
+        return self._letters
+
+    @property
+    def lines(self):
+        """The tuple of the lines of the machine."""
+        return self._lines
+
+    def steps(self, state, letter):
+        """The ascending tuple of the pairs (next state, price) of the arcs from a state with a letter."""
+        if state not in self._states:
+            raise UnknownName(state)
+        if not is_letter(letter):
+            raise InvalidText("this is no letter")
+        laters = [later for later in self._states if (state, letter, later) in self._arcs]
+        return tuple([(later, self._arcs[state, letter, later]) for later in laters])
+
+    def with_arc(self, state, letter, later, price):
+        """The machine with one more arc, or with another price of this one."""
+        place = (state, letter, later)
+        # Judged before it becomes a key, since not every value can be one.
+        if not is_place(place):
+            raise InvalidMachine("this is no arc")
+        arcs = self.arcs
+        arcs[place] = price
+        return Machine(self._firsts, self._lasts, arcs)
+
+    def without_arc(self, state, letter, later):
+        """The machine without an arc, and without the states that were there for it only."""
+        place = (state, letter, later)
+        # Judged before it is looked up, since not every value can be a key.
+        if not is_place(place) or place not in self._arcs:
+            raise UnknownName(place)
+        arcs = self.arcs
+        del arcs[place]
+        return Machine(self._firsts, self._lasts, arcs)
+
+    def renamed(self, names):
+        """The machine with other names of states, by a dict from just its states to different names."""
+        if not is_naming(self._states, names):
+            raise InvalidOperation("these are not different names for just the states")
+        firsts = sorted([names[state] for state in self._firsts])
+        lasts = sorted([names[state] for state in self._lasts])
+        arcs = {}
+        for state, letter, later in self._arcs:
+            arcs[names[state], letter, names[later]] = self._arcs[state, letter, later]
+        return Machine(tuple(firsts), tuple(lasts), arcs)
+
+    def with_ends(self, *, firsts=None, lasts=None):
+        """The machine with other first or last states; None leaves them."""
+        if firsts is None:
+            firsts = self._firsts
+        if lasts is None:
+            lasts = self._lasts
+        return Machine(firsts, lasts, self._arcs)
+
+    def __len__(self):
+        return len(self._states)
+
+    def __iter__(self):
+        return iter(self._lines)
+
+    def __eq__(self, other):
+        if not isinstance(other, Machine):
+            return False
+        return self._firsts == other._firsts and self._lasts == other._lasts and self._arcs == other._arcs
+
+    def __str__(self):
+        return f"machine with {len(self._states)} states, {len(self._arcs)} arcs"

@@ -1,0 +1,46 @@
+"""Machines and wrong values that several tests use."""
+
+from lastprices.base.machines import Machine
+from lastprices.errors import InvalidMachine, ParseError, UnknownName
+
+BLOCK = Machine.from_lines("first p", "last r", "arc p a 0 p", "arc p b 0 p", "arc p b 0 q", "arc q a 1 q",
+    "arc q b 0 r", "arc r a 0 r", "arc r b 0 r")
+COUNT = Machine.from_lines("first c", "last c", "arc c a 0 c", "arc c b 1 c")
+
+NAMES_24 = tuple("q" + letter for letter in "abcdefghijklmnopqrstuvwx")
+NAMES_25 = NAMES_24 + ("qy",)
+
+# Values of every kind that can be passed, other than strings.
+NO_STRINGS = [
+    0, 1, -1, 9, 10, 10 ** 59, 10 ** 60, 10 ** 99, -(10 ** 99), True, False, None,
+    (), (None,), ("a",), ("p", "a", "p"), ("p", ["a"], {}), ((((((((1,),),),),),),),),
+    [], ["a"], ["p", "a", "p"], [[[[[[[["a"]]]]]]]],
+    {}, {"a": "b"}, {("p", "a", "p"): 0}, {1: {2: {3: {4: {5: {6: {7: {8: 9}}}}}}}},
+    BLOCK, COUNT, InvalidMachine("p"), ParseError(None), UnknownName("p"),
+]
+
+# Strings without a letter among them, and without a name or a text.
+NO_LETTERS_ONLY = [
+    "A", "P", "Queue", "quEue", "0", "1", " ", " a", "a ", "a b", "\n", "a\n", "\na", "a\tb", "-", "a-b", "_", "a_b",
+    "#", "(a)#", "`", "{", "@", "[", "ab1", "1ab", "a" * 3999 + "!", "\n" * 4000,
+    "\u00e9", "\u00df", "a\u00e9b", "\u00aa", "\u03b1", "\uff41",
+]
+
+NO_NAMES = NO_STRINGS + NO_LETTERS_ONLY + ["", "abcdefghi", "a" * 100000, "a" * 100001]
+NO_LETTERS = NO_STRINGS + NO_LETTERS_ONLY + ["", "ab", "abcdefgh", "a" * 100000, "a" * 100001]
+NO_TEXTS = NO_STRINGS + NO_LETTERS_ONLY + ["a" * 100001]
+
+# Whatever is none of the integers from 0 to 9.
+NO_PRICES = [value for value in NO_STRINGS if value not in (0, 1, 9) or isinstance(value, bool)] + [
+    -2, 11, 99, "", "0", "1", "a"]
+
+
+def shown(value):
+    """A short text of a value, for the message of a failure."""
+    return repr(value)[:80]
+
+
+def told_of(machine):
+    """All that a machine tells of itself."""
+    return (machine.firsts, machine.lasts, list(machine.arcs.items()), machine.states, machine.letters, machine.lines,
+        len(machine), list(machine), str(machine))
