@@ -4,43 +4,36 @@ import unittest
 
 from lastprices.base import words
 from lastprices.base.words import is_count, is_integer, is_letter, is_name, is_text
-from tests.values import NO_LETTERS, NO_NAMES, NO_STRINGS, NO_TEXTS, shown
+from tests.values import NO_LETTERS, NO_NAMES, NO_STRINGS, NO_TEXTS, check_judge
 
 LETTERS = "abcdefghijklmnopqrstuvwxyz"
 LONGEST = 10 ** 60 - 1
 
 
 class WordsTest(unittest.TestCase):
-    def check(self, function, good, bad):
-        """The results are True and False themselves, not only like them."""
-        for value in good:
-            self.assertIs(function(value), True, shown(value))
-        for value in bad:
-            self.assertIs(function(value), False, shown(value))
-
     def test_constants(self):
         self.assertEqual((words.MAX_LETTERS, words.MAX_FIGURES, words.MAX_TEXT), (8, 60, 100000))
 
     def test_integers(self):
         bad = [value for value in NO_STRINGS if not isinstance(value, int)]
         bad += [True, False, "", "0", "-7", "a", LONGEST + 1, -LONGEST - 1, 10 ** 99, -(10 ** 99)]
-        self.check(is_integer, [0, -1, 1, -7, 9, 10, 10 ** 59, -(10 ** 59), LONGEST, -LONGEST], bad)
+        check_judge(self, is_integer, [0, -1, 1, -7, 9, 10, 10 ** 59, -(10 ** 59), LONGEST, -LONGEST], bad)
 
     def test_counts(self):
         bad = [value for value in NO_STRINGS if not isinstance(value, int)]
         bad += [True, False, "", "0", "1", -1, -7, -LONGEST, LONGEST + 1, -LONGEST - 1, 10 ** 99]
-        self.check(is_count, [0, 1, 9, 10 ** 59, LONGEST], bad)
+        check_judge(self, is_count, [0, 1, 9, 10 ** 59, LONGEST], bad)
 
     def test_names(self):
         good = [*LETTERS, "ab", "queue", "abcdefgh", "zzzzzzzz", "first", "last", "arc"]
-        self.check(is_name, good, NO_NAMES)
+        check_judge(self, is_name, good, NO_NAMES)
 
     def test_letters(self):
-        self.check(is_letter, LETTERS, NO_LETTERS)
+        check_judge(self, is_letter, LETTERS, NO_LETTERS)
 
     def test_texts(self):
         good = ["", *LETTERS, "abcdefghi", LETTERS * 100, "a" * 100000, "z" * 99999]
-        self.check(is_text, good, NO_TEXTS)
+        check_judge(self, is_text, good, NO_TEXTS)
 
     def test_signs_beside_the_letters(self):
         for function in (is_name, is_letter, is_text):

@@ -44,3 +44,11 @@ def told_of(machine):
     """All that a machine tells of itself."""
     return (machine.firsts, machine.lasts, list(machine.arcs.items()), machine.states, machine.letters, machine.lines,
         len(machine), list(machine), str(machine))
+
+
+def check_judge(case, function, good, bad):
+    """Checks that a function whose name begins with `is_` tells True and False themselves, not only values like them."""
+    for value in good:
+        case.assertIs(function(value), True, shown(value))
+    for value in bad:
+        case.assertIs(function(value), False, shown(value))
