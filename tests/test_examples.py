@@ -3,6 +3,8 @@
 import unittest
 
 from lastprices.base import machines, words
+from lastprices.read import combined, prices
+from lastprices.signs import costs, squares
 from tests.examples import check_examples
 
 MACHINES = '''
@@ -23,15 +25,43 @@ STAGE_2 = '''
 [2, ('b',), ('only',)]
 '''
 
+STAGE_3 = '''
+>>> [price_of(BLOCK, "abaabab"), price_of(BLOCK, "ab"), runs_of(BLOCK, "bbb"), cheapest(BLOCK, "baab"), run_price(COUNT, "bab", ("c",) * 4)]
+[1, None, 2, ('p', 'q', 'q', 'q', 'r'), 2]
+>>> [count_taken(BLOCK, 3), list(each_taken(BLOCK, 3)), price_of(COUNT, ""), is_taken(COUNT, "abc")]
+[4, ['abb', 'bab', 'bba', 'bbb'], 0, False]
+'''
+
+STAGE_4 = '''
+>>> deal = BLOCK | COUNT
+>>> [len(deal), deal("babab"), deal("baaaab"), (~BLOCK)("abaab"), both(COUNT, BLOCK).states[-1], "ab" in deal]
+[4, 1, 2, 2, 'qc', True]
+>>> odd = Machine.from_lines("first s", "last t", "arc s a 3 t", "arc t a 0 s")
+>>> [pieces(odd)("aaaa"), pieces(odd)(""), (COUNT * odd)("bba"), len(trimmed(odd.with_arc("s", "b", "u", 0))), stepped(odd)("aaa")]
+[2, 0, 5, 2, 3]
+'''
+
+STAGE_5 = '''
+>>> a, b = Square.of_text(BLOCK, "a"), Square.of_text(BLOCK, "b")
+>>> [str(a), str(b), a.is_stable, str(a.repeated()), str(b * a.repeated() * b), (b * a * b).between(BLOCK), b[0, 1]]
+['0../.1./..0', '00./..0/..0', True, '0../.n./..0', '00n/..0/..0', '1', '0']
+>>> steps = Costs.of_text(BLOCK, "a")
+>>> [steps.rows, (steps ** 10 ** 50)[1, 1] == 10 ** 50, Costs.of_text(BLOCK, "baab").between(BLOCK), str(steps.signs)]
+[((0, -1, -1), (-1, 1, -1), (-1, -1, 0)), True, 2, '0../.1./..0']
+'''
+
+# Stages of which each uses what an earlier one has made.
+STAGES = (STAGE_1, STAGE_2, STAGE_3, STAGE_4, STAGE_5)
+
 
 class ExamplesTest(unittest.TestCase):
-    def test_stage_1(self):
-        check_examples(self, dict(vars(words)), STAGE_1)
-
-    def test_stage_2(self):
-        names = {"Machine": machines.Machine}
+    def test_stages(self):
+        names = {}
+        for module in (words, machines, prices, combined, costs, squares):
+            names.update(vars(module))
         exec(MACHINES, names)
-        check_examples(self, names, STAGE_2)
+        for text in STAGES:
+            check_examples(self, names, text)
 
     def test_machines_of_the_examples(self):
         names = {"Machine": machines.Machine}

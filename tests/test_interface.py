@@ -1,64 +1,103 @@
 """Where names are defined, and what classes have."""
 
+import importlib
 import inspect
 import unittest
 
 from lastprices import errors
-from lastprices.base import machines, words
 from tests.values import BLOCK
 
-DEFINED = {
-    errors: ("PriceError", "InvalidMachine", "InvalidText", "InvalidPattern", "InvalidSquare", "InvalidCosts",
-        "InvalidRow", "InvalidPaper", "InvalidOperation", "ParseError", "UnknownName", "NotTaken", "InvalidNumber",
-        "NothingToUndo", "TooMany", "Unstable", "Refused"),
-    words: ("is_integer", "is_count", "is_name", "is_letter", "is_text"),
-    machines: ("Machine",),
+FUNCTIONS = {
+    "lastprices.base.words": (
+        "is_integer(value)", "is_count(value)", "is_name(value)", "is_letter(value)", "is_text(value)"),
+    "lastprices.read.prices": (
+        "price_of(machine, text)", "is_taken(machine, text)", "runs_of(machine, text)", "cheapest(machine, text)",
+        "is_cheapest(machine, text, value)", "run_price(machine, text, run)", "count_taken(machine, length)",
+        "each_taken(machine, length)"),
+    "lastprices.read.combined": (
+        "choice(one, other)", "both(one, other)", "joined(one, other)", "turned(machine)", "free(machine)",
+        "stepped(machine)", "pieces(machine)", "trimmed(machine)"),
+    "lastprices.signs.squares": ("least_sign(*signs)", "greatest_sign(*signs)"),
+}
+
+# For each class its module, its methods, its properties and what else it has.
+CLASSES = {
+    "Machine": (
+        "lastprices.base.machines",
+        ("__init__(self, firsts, lasts, arcs)", "from_lines(*lines)", "steps(self, state, letter)",
+            "with_arc(self, state, letter, later, price)", "without_arc(self, state, letter, later)",
+            "renamed(self, names)", "with_ends(self, *, firsts=None, lasts=None)", "__call__(self, text)"),
+        ("firsts", "lasts", "arcs", "states", "letters", "lines"),
+        ("__len__", "__iter__", "__eq__", "__str__", "__or__", "__add__", "__mul__", "__invert__", "__contains__")),
+    "Costs": (
+        "lastprices.signs.costs",
+        ("__init__(self, rows)", "of_text(machine, text)", "powered(self, number)", "between(self, machine)"),
+        ("rows", "signs"),
+        ("__mul__", "__pow__", "__getitem__", "__len__", "__eq__", "__str__")),
+    "Square": (
+        "lastprices.signs.squares",
+        ("__init__(self, rows)", "of_text(machine, text)", "repeated(self)", "between(self, machine)"),
+        ("rows", "is_stable"),
+        ("__mul__", "__getitem__", "__len__", "__eq__", "__str__")),
+}
+
+ERRORS = ("PriceError", "InvalidMachine", "InvalidText", "InvalidPattern", "InvalidSquare", "InvalidCosts", "InvalidRow",
+    "InvalidPaper", "InvalidOperation", "ParseError", "UnknownName", "NotTaken", "InvalidNumber", "NothingToUndo",
+    "TooMany", "Unstable", "Refused")
+
+CONSTANTS = {
+    "lastprices.base.words": {"MAX_LETTERS": 8, "MAX_FIGURES": 60, "MAX_TEXT": 100000},
+    "lastprices.base.machines": {"MAX_STATES": 24, "MAX_PRICE": 9},
+    "lastprices.read.prices": {"MAX_LENGTH": 200},
 }
 
 
-class InterfaceTest(unittest.TestCase):
-    def test_names_of_modules(self):
-        self.assertEqual([module.__name__ for module in DEFINED],
-            ["lastprices.errors", "lastprices.base.words", "lastprices.base.machines"])
+def found(module, name):
+    """What has a name in a module."""
+    return getattr(importlib.import_module(module), name)
 
-    def test_defined_where_they_are_listed(self):
-        for module, names in DEFINED.items():
-            for name in names:
-                self.assertEqual(getattr(module, name).__module__, module.__name__, name)
+
+class InterfaceTest(unittest.TestCase):
+    def test_errors_are_defined_where_they_are_listed(self):
+        for name in ERRORS:
+            self.assertEqual(getattr(errors, name).__module__, "lastprices.errors", name)
+
+    def test_constants(self):
+        for module, told in CONSTANTS.items():
+            for name, value in told.items():
+                self.assertEqual(found(module, name), value, name)
+
+    def test_functions(self):
+        for module, told in FUNCTIONS.items():
+            for line in told:
+                function = found(module, line.partition("(")[0])
+                self.assertEqual(function.__module__, module, line)
+                self.assertEqual(function.__name__ + str(inspect.signature(function)), line)
 
     def test_methods_stand_in_the_class_itself(self):
-        for name in ("__init__", "from_lines", "steps", "with_arc", "without_arc", "renamed", "with_ends", "__len__",
-                "__iter__", "__eq__", "__str__"):
-            self.assertIn(name, vars(machines.Machine))
-        self.assertEqual(machines.Machine.__bases__, (object,))
+        for name, (module, methods, _, others) in CLASSES.items():
+            kind = found(module, name)
+            self.assertEqual([kind.__module__, kind.__bases__], [module, (object,)], name)
+            for line in methods:
+                method = line.partition("(")[0]
+                self.assertIn(method, vars(kind), name)
+                self.assertEqual(method + str(inspect.signature(getattr(kind, method))), line, name)
+            for method in others:
+                self.assertIn(method, vars(kind), name)
 
     def test_properties(self):
-        for name in ("firsts", "lasts", "arcs", "states", "letters", "lines"):
-            self.assertIsInstance(vars(machines.Machine)[name], property, name)
-            with self.assertRaises(AttributeError, msg=name):
-                setattr(BLOCK, name, ())
-
-    def test_names_of_parameters(self):
-        for function, told in (
-                (machines.Machine, "(firsts, lasts, arcs)"),
-                (machines.Machine.from_lines, "(*lines)"),
-                (machines.Machine.steps, "(self, state, letter)"),
-                (machines.Machine.with_arc, "(self, state, letter, later, price)"),
-                (machines.Machine.without_arc, "(self, state, letter, later)"),
-                (machines.Machine.renamed, "(self, names)"),
-                (machines.Machine.with_ends, "(self, *, firsts=None, lasts=None)"),
-                (words.is_integer, "(value)"),
-                (words.is_count, "(value)"),
-                (words.is_name, "(value)"),
-                (words.is_letter, "(value)"),
-                (words.is_text, "(value)")):
-            self.assertEqual(str(inspect.signature(function)), told, function)
+        for name, (module, _, properties, _) in CLASSES.items():
+            for told in properties:
+                self.assertIsInstance(vars(found(module, name))[told], property, told)
+        for told in CLASSES["Machine"][2]:
+            with self.assertRaises(AttributeError, msg=told):
+                setattr(BLOCK, told, ())
 
     def test_ends_are_passed_by_keyword_only(self):
         with self.assertRaises(TypeError):
             BLOCK.with_ends(("p",))
 
-    def test_only_machines_are_iterated_over(self):
+    def test_what_is_iterated_over(self):
         self.assertEqual(list(iter(BLOCK)), list(BLOCK.lines))
         with self.assertRaises(TypeError):
             iter(errors.ParseError(1))

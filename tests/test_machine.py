@@ -5,7 +5,8 @@ import unittest
 from lastprices.base import machines
 from lastprices.base.machines import Machine
 from lastprices.errors import InvalidMachine, InvalidText, UnknownName
-from tests.values import BLOCK, COUNT, NAMES_24, NAMES_25, NO_LETTERS, NO_NAMES, NO_PRICES, NO_STRINGS, shown, told_of
+from tests.values import (BLOCK, COUNT, NAMES_24, NAMES_25, NO_LETTERS, NO_NAMES, NO_PRICES, NO_STRINGS, can_be_key,
+    shown, told_of)
 
 NO_ENDS = [value for value in NO_STRINGS if value != ("a",)] + [
     "a", "ab", ("b", "a"), ("a", "a"), ("a", "b", "b"), ("a", "c", "b"), ["a", "b"], {"a": "b"}, ("A",), ("",),
@@ -89,11 +90,11 @@ class MachineTest(unittest.TestCase):
 
     def test_wrong_places_of_arcs(self):
         for value in NO_NAMES:
-            if not isinstance(value, (list, dict, Machine, tuple)):
+            if can_be_key(value):
                 self.refused(("a",), ("a",), {(value, "a", "a"): 0})
                 self.refused(("a",), ("a",), {("a", "a", value): 0})
         for value in NO_LETTERS:
-            if not isinstance(value, (list, dict, Machine, tuple)):
+            if can_be_key(value):
                 self.refused(("a",), ("a",), {("a", value, "a"): 0})
 
     def test_one_wrong_arc_among_good_ones(self):

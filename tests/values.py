@@ -1,7 +1,9 @@
 """Machines and wrong values that several tests use."""
 
 from lastprices.base.machines import Machine
-from lastprices.errors import InvalidMachine, ParseError, UnknownName
+from lastprices.errors import InvalidMachine, InvalidNumber, ParseError, UnknownName
+from lastprices.signs.costs import Costs
+from lastprices.signs.squares import Square
 
 BLOCK = Machine.from_lines("first p", "last r", "arc p a 0 p", "arc p b 0 p", "arc p b 0 q", "arc q a 1 q",
     "arc q b 0 r", "arc r a 0 r", "arc r b 0 r")
@@ -16,7 +18,7 @@ NO_STRINGS = [
     (), (None,), ("a",), ("p", "a", "p"), ("p", ["a"], {}), ((((((((1,),),),),),),),),
     [], ["a"], ["p", "a", "p"], [[[[[[[["a"]]]]]]]],
     {}, {"a": "b"}, {("p", "a", "p"): 0}, {1: {2: {3: {4: {5: {6: {7: {8: 9}}}}}}}},
-    BLOCK, COUNT, InvalidMachine("p"), ParseError(None), UnknownName("p"),
+    BLOCK, COUNT, InvalidMachine("p"), ParseError(None), UnknownName("p"), Costs(((0,),)), Square(("0",)),
 ]
 
 # Strings without a letter among them, and without a name or a text.
@@ -35,9 +37,25 @@ NO_PRICES = [value for value in NO_STRINGS if value not in (0, 1, 9) or isinstan
     -2, 11, 99, "", "0", "1", "a"]
 
 
+NO_MACHINES = [value for value in NO_STRINGS if not isinstance(value, Machine)] + ["", "first p", *BLOCK.lines, "a"]
+
+# Whatever is none of the integers from 0 to 200.
+NO_NUMBERS = [value for value in NO_STRINGS if value not in (0, 1, 9, 10) or isinstance(value, bool)] + [
+    -2, 201, 10 ** 30, "", "0", "1", "a"]
+
+
 def shown(value):
     """A short text of a value, for the message of a failure."""
     return repr(value)[:80]
+
+
+def can_be_key(value):
+    """Whether the value can be hashed."""
+    try:
+        hash(value)
+    except TypeError:
+        return False
+    return True
 
 
 def told_of(machine):
@@ -52,3 +70,14 @@ def check_judge(case, function, good, bad):
         case.assertIs(function(value), True, shown(value))
     for value in bad:
         case.assertIs(function(value), False, shown(value))
+
+
+def check_refused(case, error, calls, values):
+    """Checks that each of some functions raises an error for each of some values; InvalidNumber keeps the value."""
+    for value in values:
+        for call in calls:
+            with case.assertRaises(error, msg=shown(value)) as caught:
+                call(value)
+            case.assertIs(caught.exception.__class__, error, shown(value))
+            if error is InvalidNumber:
+                case.assertIs(caught.exception.value, value)

@@ -1,9 +1,11 @@
 """Machines: states, some of them first or last ones, and arcs with prices between them."""
 
 from lastprices.base.lines import lines_of, told_by_lines
+from lastprices.base.making import backwards, chosen, greatest_sum, linked, named_arcs, named_ends, summed
 from lastprices.base.parts import is_ends, is_place, letters_of, states_of
-from lastprices.base.words import is_integer, is_letter, is_name
-from lastprices.errors import InvalidMachine, InvalidOperation, InvalidText, UnknownName
+from lastprices.base.ways import price_along
+from lastprices.base.words import is_integer, is_letter, is_name, is_text
+from lastprices.errors import InvalidMachine, InvalidOperation, InvalidText, TooMany, UnknownName
 
 MAX_STATES = 24
 MAX_PRICE = 9
@@ -35,6 +37,12 @@ def is_naming(states, value):
     if not all([state in value and is_name(value[state]) for state in states]):
         return False
     return len(set([value[state] for state in states])) == len(states)
+
+
+def check_states(many):
+    """Raises TooMany if a machine that is made would have so many states."""
+    if many > MAX_STATES:
+        raise TooMany(MAX_STATES)
 
 
 class Machine:
@@ -123,12 +131,9 @@ class Machine:
         """The machine with other names of states, by a dict from just its states to different names."""
         if not is_naming(self._states, names):
             raise InvalidOperation("these are not different names for just the states")
-        firsts = sorted([names[state] for state in self._firsts])
-        lasts = sorted([names[state] for state in self._lasts])
-        arcs = {}
-        for state, letter, later in self._arcs:
-            arcs[names[state], letter, names[later]] = self._arcs[state, letter, later]
-        return Machine(tuple(firsts), tuple(lasts), arcs)
+        firsts = named_ends(self._firsts, names)
+        lasts = named_ends(self._lasts, names)
+        return Machine(firsts, lasts, named_arcs(self._arcs, names))
 
     def with_ends(self, *, firsts=None, lasts=None):
         """The machine with other first or last states; None leaves them."""
@@ -137,6 +142,41 @@ class Machine:
         if lasts is None:
             lasts = self._lasts
         return Machine(firsts, lasts, self._arcs)
+
+    def __or__(self, other):
+        if not isinstance(other, Machine):
+            return NotImplemented
+        check_states(len(self._states) + len(other._states))
+        firsts, lasts, arcs = chosen(self, other)
+        return Machine(firsts, lasts, arcs)
+
+    def __add__(self, other):
+        if not isinstance(other, Machine):
+            return NotImplemented
+        if greatest_sum(self, other) > MAX_PRICE:
+            raise InvalidOperation("the sum of two prices is too great for an arc")
+        check_states(len(self._states) * len(other._states))
+        firsts, lasts, arcs = summed(self, other)
+        return Machine(firsts, lasts, arcs)
+
+    def __mul__(self, other):
+        if not isinstance(other, Machine):
+            return NotImplemented
+        check_states(len(self._states) + len(other._states))
+        firsts, lasts, arcs = linked(self, other)
+        return Machine(firsts, lasts, arcs)
+
+    def __invert__(self):
+        firsts, lasts, arcs = backwards(self)
+        return Machine(firsts, lasts, arcs)
+
+    def __call__(self, text):
+        if not is_text(text):
+            raise InvalidText("this is no text")
+        return price_along(self, text)
+
+    def __contains__(self, x):
+        return is_text(x) and price_along(self, x) is not None
 
     def __len__(self):
         return len(self._states)

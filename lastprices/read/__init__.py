@@ -1,0 +1,1 @@
+"""What machines do with texts, and machines that are made of machines."""

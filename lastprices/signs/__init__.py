@@ -1,0 +1,1 @@
+"""Computations with squares of signs, with costs, and with patterns of texts."""

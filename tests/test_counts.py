@@ -1,0 +1,143 @@
+"""How many texts are taken, and which."""
+
+import inspect
+import itertools
+import unittest
+from unittest import mock
+
+from lastprices.base.machines import Machine
+from lastprices.errors import InvalidMachine, InvalidNumber, TooMany
+from lastprices.read import prices, subsets
+from lastprices.read.combined import free
+from lastprices.read.prices import count_taken, each_taken
+from tests.force import least_price, some_machines, texts_up_to
+from tests.values import BLOCK, COUNT, NAMES_24, NO_MACHINES, NO_NUMBERS, check_refused, told_of
+
+ALPHABET = "abcdefghijklmnopqrstuvwxyz"
+
+
+def shifting(many):
+    """A machine in which the last letters of a text tell in which of so many states it is: `b` adds one, and all move."""
+    arcs = {("qa", "a", "qa"): 0, ("qa", "b", "qa"): 0, ("qa", "b", "qb"): 0}
+    for at in range(1, many - 1):
+        for letter in "ab":
+            arcs[NAMES_24[at], letter, NAMES_24[at + 1]] = 0
+    return Machine(("qa",), (NAMES_24[many - 1],), arcs)
+
+
+def sets_by_force(machine):
+    """All sets of states to which texts lead, those of letters that no arc has, too."""
+    seen = [frozenset(machine.firsts)]
+    for states in seen:
+        for letter in ALPHABET:
+            after = frozenset(later for state in states for later, _ in machine.steps(state, letter))
+            if after not in seen:
+                seen.append(after)
+    return seen
+
+
+class CountTest(unittest.TestCase):
+    def test_against_all_texts(self):
+        for machine in some_machines(60):
+            for length in range(5):
+                taken = [text for text in texts_up_to("ab", length) if len(text) == length
+                    and least_price(machine, text) is not None]
+                self.assertEqual(list(each_taken(machine, length)), taken, machine.lines)
+                self.assertEqual(count_taken(machine, length), len(taken), machine.lines)
+
+    def test_no_letters_at_all(self):
+        self.assertEqual([count_taken(COUNT, 0), list(each_taken(COUNT, 0))], [1, [""]])
+        self.assertEqual([count_taken(BLOCK, 0), list(each_taken(BLOCK, 0))], [0, []])
+
+    def test_machines_that_take_no_text(self):
+        nothing = Machine(("a",), ("b",), {("a", "a", "a"): 1, ("b", "b", "b"): 1})
+        for length in (0, 1, 2, 200):
+            self.assertEqual([count_taken(nothing, length), list(each_taken(nothing, length))], [0, []])
+        self.assertEqual([count_taken(Machine(("a",), ("a",), {}), length) for length in (0, 1, 200)], [1, 0, 0])
+
+    def test_texts_with_several_runs_count_once(self):
+        arcs = {(one, letter, other): 0 for one in "st" for letter in "xyz" for other in "st"}
+        self.assertEqual(count_taken(Machine(("s", "t"), ("s", "t"), arcs), 7), 3 ** 7)
+
+    def test_ascending(self):
+        arcs = {("s", letter, "s"): 0 for letter in "zmaq"}
+        machine = Machine(("s",), ("s",), arcs)
+        self.assertEqual(list(each_taken(machine, 2)), sorted(one + other for one in "amqz" for other in "amqz"))
+
+    def test_the_greatest_length(self):
+        self.assertEqual(count_taken(COUNT, 200), 2 ** 200)
+        self.assertEqual(count_taken(BLOCK, 200), 2 ** 200 - 201)
+        ring = Machine(("s",), ("s",), {("s", "a", "t"): 0, ("t", "a", "u"): 0, ("u", "a", "v"): 0, ("v", "a", "s"): 0})
+        self.assertEqual([list(each_taken(ring, length)) for length in (199, 200)], [[], ["a" * 200]])
+        self.assertEqual(list(itertools.islice(each_taken(BLOCK, 200), 3)),
+            ["a" * 198 + "bb", "a" * 197 + "bab", "a" * 197 + "bba"])
+
+    def test_wrong_machines(self):
+        check_refused(self, InvalidMachine, [lambda value: count_taken(value, 0), lambda value: count_taken(value, None),
+            lambda value: list(each_taken(value, 0)), lambda value: list(each_taken(value, -1))], NO_MACHINES)
+
+    def test_wrong_lengths(self):
+        calls = [lambda value: count_taken(COUNT, value), lambda value: list(each_taken(COUNT, value)),
+            lambda value: count_taken(shifting(24), value), lambda value: list(each_taken(shifting(24), value))]
+        check_refused(self, InvalidNumber, calls, NO_NUMBERS)
+
+    def test_machines_stay_as_they_are(self):
+        before = told_of(BLOCK)
+        for _ in range(2):
+            self.assertEqual([count_taken(BLOCK, 3), len(list(each_taken(BLOCK, 4)))], [4, 11])
+        self.assertEqual(told_of(BLOCK), before)
+
+    def test_constant(self):
+        self.assertEqual(prices.MAX_LENGTH, 200)
+
+
+class TooManySetsTest(unittest.TestCase):
+    def test_more_than_20000_sets(self):
+        for many in (16, 24):
+            for length in (0, 1, 200):
+                for call in (lambda: count_taken(shifting(many), length),
+                        lambda: list(each_taken(shifting(many), length))):
+                    with self.assertRaises(TooMany) as caught:
+                        call()
+                    self.assertEqual(caught.exception.limit, 20000)
+
+    def test_just_below(self):
+        # 2 ** 14 sets with the first state in them, and the empty one.
+        self.assertEqual(count_taken(shifting(15), 200), 2 ** 199)
+        self.assertEqual(next(each_taken(shifting(15), 200)), "a" * 186 + "b" + "a" * 13)
+
+    def test_the_limit_itself(self):
+        self.assertEqual(subsets.MAX_SETS, 20000)
+        for machine in some_machines(20) + [shifting(5), shifting(6)]:
+            many = len(sets_by_force(machine))
+            with mock.patch.object(subsets, "MAX_SETS", many):
+                count_taken(machine, 2)
+                list(each_taken(machine, 2))
+            with mock.patch.object(subsets, "MAX_SETS", many - 1):
+                with self.assertRaises(TooMany):
+                    count_taken(machine, 0)
+                with self.assertRaises(TooMany):
+                    next(each_taken(machine, 0))
+
+    def test_machines_with_all_letters_have_no_empty_set(self):
+        every = Machine(("s",), ("s",), {("s", letter, "s"): 0 for letter in ALPHABET})
+        self.assertEqual(len(sets_by_force(every)), 1)
+        with mock.patch.object(subsets, "MAX_SETS", 1):
+            self.assertEqual(count_taken(every, 2), 26 ** 2)
+            with self.assertRaises(TooMany):
+                count_taken(every.without_arc("s", "q", "s"), 2)
+
+
+class GeneratorTest(unittest.TestCase):
+    def test_results_come_one_by_one(self):
+        told = each_taken(free(COUNT), 200)
+        self.assertTrue(inspect.isgenerator(told))
+        self.assertEqual([next(told), next(told), next(told)], ["a" * 200, "a" * 199 + "b", "a" * 198 + "ba"])
+        again = each_taken(free(COUNT), 200)
+        self.assertEqual([next(again), next(told)], ["a" * 200, "a" * 198 + "bb"])
+
+    def test_errors_come_with_the_first_result(self):
+        for told, error in ((each_taken(None, 0), InvalidMachine), (each_taken(COUNT, 201), InvalidNumber),
+                (each_taken(COUNT, -1), InvalidNumber), (each_taken(shifting(24), 3), TooMany)):
+            with self.assertRaises(error):
+                next(told)
