@@ -8,7 +8,7 @@ from lastprices.errors import InvalidMachine, InvalidOperation, InvalidText, Too
 from lastprices.read.combined import both, choice, free, joined, pieces, stepped, trimmed, turned
 from lastprices.read.prices import price_of
 from tests.force import least_price, runs_along, some_machines, texts_up_to
-from tests.values import (BLOCK, COUNT, NAMES_24, NO_MACHINES, NO_STRINGS, NO_TEXTS, check_refused, shown, told_of)
+from tests.values import BLOCK, COUNT, NAMES_24, NO_MACHINES, NO_TEXTS, check_refused, shown, told_of
 
 ODD = Machine.from_lines("first s", "last t", "arc s a 3 t", "arc t a 0 s")
 TEXTS = texts_up_to("ab", 4)

@@ -36,6 +36,21 @@ def sets_by_force(machine):
     return seen
 
 
+def at_the_limit():
+    """A machine with just 20000 sets of states, the empty one among them: 5 * 5 * 5 * 5 * 2 * 2 * 2 * 2 * 2."""
+    places = []
+    names = []
+    for letter in "abcd":
+        names += [f"s{letter}{other}" for other in "abcd"]
+        # This letter moves what is left of four states, and the others leave it where it is.
+        places += [(f"s{letter}{one}", letter, f"s{letter}{other}") for one, other in zip("abc", "bcd")]
+        places += [(name, other, name) for name in names[-4:] for other in "abcdefghi" if other != letter]
+    for letter in "efghi":
+        names.append(f"k{letter}")
+        places += [(names[-1], other, names[-1]) for other in "abcdefghi" if other != letter]
+    return Machine(tuple(sorted(names)), tuple(sorted(names)), {place: 0 for place in places})
+
+
 class CountTest(unittest.TestCase):
     def test_against_all_texts(self):
         for machine in some_machines(60):
@@ -105,6 +120,20 @@ class TooManySetsTest(unittest.TestCase):
         # 2 ** 14 sets with the first state in them, and the empty one.
         self.assertEqual(count_taken(shifting(15), 200), 2 ** 199)
         self.assertEqual(next(each_taken(shifting(15), 200)), "a" * 186 + "b" + "a" * 13)
+
+    def test_20000_and_20001_sets(self):
+        self.assertEqual(count_taken(at_the_limit(), 0), 1)
+        self.assertEqual(next(each_taken(at_the_limit(), 1)), "a")
+        more = at_the_limit().with_arc("ke", "z", "new", 0)
+        for call in (lambda: count_taken(more, 0), lambda: next(each_taken(more, 1))):
+            with self.assertRaises(TooMany) as caught:
+                call()
+            self.assertEqual(caught.exception.limit, 20000)
+
+    def test_what_leads_nowhere_takes_no_time(self):
+        machine = Machine(("s",), ("s",), {("s", "a", "s"): 0, ("s", "b", "a"): 0, ("a", "a", "a"): 0, ("a", "b", "z"): 0,
+            ("z", "a", "z"): 0, ("z", "b", "a"): 0})
+        self.assertEqual(list(each_taken(machine, 200)), ["a" * 200])
 
     def test_the_limit_itself(self):
         self.assertEqual(subsets.MAX_SETS, 20000)

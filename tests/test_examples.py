@@ -2,9 +2,11 @@
 
 import unittest
 
+from lastprices import errors
 from lastprices.base import machines, words
 from lastprices.read import combined, prices
-from lastprices.signs import costs, squares
+from lastprices.rows import tables
+from lastprices.signs import costs, patterns, squares, webs
 from tests.examples import check_examples
 
 MACHINES = '''
@@ -50,17 +52,52 @@ STAGE_5 = '''
 [((0, -1, -1), (-1, 1, -1), (-1, -1, 0)), True, 2, '0../.1./..0']
 '''
 
+STAGE_6 = '''
+>>> one = Pattern("b(a)#b")
+>>> [one(3), one.depth, one.parts, one.is_growing(BLOCK), one.is_growing(COUNT), one.costs(BLOCK, 10 ** 40).between(BLOCK) == 10 ** 40]
+['baaab', 1, ('a',), True, False, True]
+>>> nested = Pattern("(b(a)#b(a)#)#")
+>>> [nested(2), nested.parts, nested.is_growing(deal), nested.weight, nested.length(10), str(one + one), len(nested)]
+['baabaabaabaa', ('a', 'a', 'b(a)#b(a)#'), True, 12, 220, 'b(a)#bb(a)#b', 4]
+>>> Pattern("(b(a)#)#").square(deal)
+raises Unstable
+'''
+
+STAGE_7 = '''
+>>> web = Web(COUNT)
+>>> [str(web), web.squares, web.growing, web.stable]
+['web of 3 squares, 1 growing', (('0',), ('1',), ('n',)), (('n',),), (('0',), ('1',), ('n',))]
+'''
+
+STAGE_8 = '''
+>>> table = Table(COUNT, 1)
+>>> [str(table), table.rows, table.wrong, table.text_to((2,)), table.after((1,), "a")]
+['table of 3 rows up to 1, 1 wrong', ((0,), (1,), (2,)), ((2,),), 'bb', (1,)]
+>>> [row_of(BLOCK, 3, "ba"), price_in(BLOCK, 3, row_of(BLOCK, 3, "baaaaab")), first_row(BLOCK, 0), len(Table(odd, 9))]
+[(0, 1, -1), 4, (0, -1, -1), 9]
+'''
+
 # Stages of which each uses what an earlier one has made.
-STAGES = (STAGE_1, STAGE_2, STAGE_3, STAGE_4, STAGE_5)
+STAGES = (STAGE_1, STAGE_2, STAGE_3, STAGE_4, STAGE_5, STAGE_6, STAGE_7, STAGE_8)
+
+# What is said of the machines of the examples beside these.
+WORDS = '''
+>>> [text for text in ("", "b", "aba", "bb", "abab", "baaab") if text in BLOCK]
+['bb', 'abab', 'baaab']
+>>> [BLOCK("baaabab"), BLOCK("abaaaba"), COUNT("abba"), deal("baaaab"), deal("baab")]
+[1, 3, 2, 2, 2]
+>>> [Web(BLOCK).growing != (), Web(COUNT).growing != (), Web(deal).growing != (), Pattern("(b(a)#b(a)#)#").is_growing(deal)]
+[True, True, True, True]
+'''
 
 
 class ExamplesTest(unittest.TestCase):
     def test_stages(self):
         names = {}
-        for module in (words, machines, prices, combined, costs, squares):
+        for module in (errors, words, machines, prices, combined, costs, squares, patterns, webs, tables):
             names.update(vars(module))
         exec(MACHINES, names)
-        for text in STAGES:
+        for text in (*STAGES, WORDS):
             check_examples(self, names, text)
 
     def test_machines_of_the_examples(self):

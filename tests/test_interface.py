@@ -18,6 +18,11 @@ FUNCTIONS = {
         "choice(one, other)", "both(one, other)", "joined(one, other)", "turned(machine)", "free(machine)",
         "stepped(machine)", "pieces(machine)", "trimmed(machine)"),
     "lastprices.signs.squares": ("least_sign(*signs)", "greatest_sign(*signs)"),
+    "lastprices.signs.patterns": ("is_pattern(value)",),
+    "lastprices.signs.webs": ("is_web_of(machine, value)",),
+    "lastprices.rows.tables": (
+        "is_row(machine, cap, value)", "first_row(machine, cap)", "next_row(machine, cap, row, letter)",
+        "row_of(machine, cap, text)", "price_in(machine, cap, row)"),
 }
 
 # For each class its module, its methods, its properties and what else it has.
@@ -39,6 +44,22 @@ CLASSES = {
         ("__init__(self, rows)", "of_text(machine, text)", "repeated(self)", "between(self, machine)"),
         ("rows", "is_stable"),
         ("__mul__", "__getitem__", "__len__", "__eq__", "__str__")),
+    "Pattern": (
+        "lastprices.signs.patterns",
+        ("__init__(self, text)", "length(self, n)", "square(self, machine)", "is_growing(self, machine)",
+            "costs(self, machine, n)", "repeated(self)", "__call__(self, n)"),
+        ("text", "letters", "depth", "parts", "weight"),
+        ("__add__", "__len__", "__eq__", "__str__", "__contains__")),
+    "Web": (
+        "lastprices.signs.webs",
+        ("__init__(self, machine)", "pattern_of(self, rows)"),
+        ("machine", "squares", "stable", "growing", "letters"),
+        ("__contains__", "__len__", "__iter__", "__eq__", "__str__")),
+    "Table": (
+        "lastprices.rows.tables",
+        ("__init__(self, machine, cap)", "after(self, row, letter)", "text_to(self, row)"),
+        ("machine", "cap", "rows", "wrong", "is_good", "start"),
+        ("__contains__", "__len__", "__iter__", "__eq__", "__str__")),
 }
 
 ERRORS = ("PriceError", "InvalidMachine", "InvalidText", "InvalidPattern", "InvalidSquare", "InvalidCosts", "InvalidRow",
@@ -49,6 +70,9 @@ CONSTANTS = {
     "lastprices.base.words": {"MAX_LETTERS": 8, "MAX_FIGURES": 60, "MAX_TEXT": 100000},
     "lastprices.base.machines": {"MAX_STATES": 24, "MAX_PRICE": 9},
     "lastprices.read.prices": {"MAX_LENGTH": 200},
+    "lastprices.signs.patterns": {"MAX_SIGNS": 20000, "MAX_DEPTH": 24},
+    "lastprices.signs.webs": {"MAX_SQUARES": 3000},
+    "lastprices.rows.tables": {"MAX_CAP": 200, "MAX_TABLE": 20000},
 }
 
 

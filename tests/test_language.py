@@ -30,6 +30,15 @@ BARRED = re.compile(r"\b(type|typing|typing_extensions|enum|Enum|IntEnum|StrEnum
     r"|ABCMeta|namedtuple|NamedTuple|TypedDict|TYPE_CHECKING|abstractmethod|register|mro|elements|open|input|law"
     r"|version_info|with_traceback|add_note)\b")
 
+LIBRARY = {"heapq": ("heappush", "heappop", "heapify", "heapreplace", "heappushpop"),
+    "math": ("gcd", "lcm", "isqrt", "comb", "perm", "factorial")}
+
+MODIFYING = ("append", "clear", "extend", "insert", "pop", "remove", "reverse", "setdefault", "update", "sort", "add",
+    "discard")
+
+# What objects of the package are asked for by a sign, so that it has to change nothing.
+ASKED = tuple(sorted(DOUBLE - {"__init__", "__call__", "__iter__", "__enter__", "__exit__", "__setitem__"}))
+
 TAKING_LISTS = ("any", "all", "min", "max", "sum", "sorted")
 
 
@@ -51,6 +60,24 @@ def defined_in(tree):
         if isinstance(node, ast.Assign):
             names |= {target.id for target in node.targets}
     return names
+
+
+def calls_in(node):
+    """The calls in a function."""
+    return [part for part in ast.walk(node) if isinstance(part, ast.Call)]
+
+
+def own_lists(function):
+    """The names to which a function assigns only lists and dicts that it creates itself."""
+    made = {}
+    for node in ast.walk(function):
+        if isinstance(node, ast.Assign):
+            for target in node.targets:
+                if isinstance(target, ast.Name):
+                    literal = isinstance(node.value, (ast.List, ast.ListComp, ast.Dict))
+                    call = isinstance(node.value, ast.Call) and ast.unparse(node.value.func) in ("list", "dict", "sorted")
+                    made[target.id] = made.get(target.id, True) and (literal or call)
+    return [name for name, own in made.items() if own]
 
 
 class LanguageTest(unittest.TestCase):
@@ -95,11 +122,11 @@ class LanguageTest(unittest.TestCase):
             every = [node for node in ast.walk(tree) if isinstance(node, (ast.Import, ast.ImportFrom))]
             self.assertEqual(tops, every, name)
             for node in tops:
-                self.assertIn(node.module, trees, name)
+                told = LIBRARY.get(node.module) or defined_in(trees[node.module])
                 for alias in node.names:
                     self.assertIsNone(alias.asname, name)
-                    self.assertIn(alias.name, defined_in(trees[node.module]), name)
-            imported[name] = {node.module for node in tops}
+                    self.assertIn(alias.name, told, name)
+            imported[name] = {node.module for node in tops} - set(LIBRARY)
         done = set()
         while len(done) < len(imported):
             free = [name for name in imported if name not in done and imported[name] <= done]
@@ -184,3 +211,55 @@ class LanguageTest(unittest.TestCase):
                     names = isinstance(above, ast.Assign) or isinstance(above, ast.Compare)
                     calls = isinstance(above, ast.Call) and ast.unparse(above.func) in ("sorted", "len")
                     self.assertTrue(names or calls, f"{path.name}:{node.lineno}")
+
+    def test_names_of_properties(self):
+        properties = set()
+        methods = set()
+        for _, node in self.nodes(ast.ClassDef):
+            for part in node.body:
+                if isinstance(part, ast.FunctionDef):
+                    told = [ast.unparse(decorator) for decorator in part.decorator_list]
+                    (properties if "property" in told else methods).add(part.name)
+        assigned = {node.attr for _, node in self.nodes(ast.Attribute) if isinstance(node.ctx, ast.Store)}
+        self.assertGreater(len(properties), 0)
+        for names in (methods, assigned, METHODS):
+            self.assertEqual(properties & names, set())
+
+    def test_classes_with_items_say_that_they_are_not_iterated_over(self):
+        for place, node in self.nodes(ast.ClassDef):
+            names = {part.name for part in node.body if isinstance(part, ast.FunctionDef)}
+            self.assertTrue("__getitem__" not in names or "__iter__" in names, place)
+
+    def test_what_operators_and_properties_run_changes_nothing(self):
+        functions = {}
+        waiting = []
+        for place, node in self.nodes(ast.FunctionDef):
+            functions.setdefault(node.name, []).append((place, node))
+            if node.name in ASKED or "property" in [ast.unparse(part) for part in node.decorator_list]:
+                waiting.append((place, node))
+        for _, node in self.nodes(ast.ClassDef):
+            functions[node.name] = [("", part) for part in node.body
+                if isinstance(part, ast.FunctionDef) and part.name == "__init__"]
+        seen = []
+        while waiting:
+            place, node = waiting.pop()
+            if node in seen:
+                continue
+            seen.append(node)
+            own = own_lists(node)
+            for part in ast.walk(node):
+                changed = isinstance(getattr(part, "ctx", None), (ast.Store, ast.Del))
+                if changed and isinstance(part, ast.Subscript):
+                    self.assertIn(ast.unparse(part.value), own, place)
+                if changed and isinstance(part, ast.Attribute):
+                    self.assertEqual((node.name, ast.unparse(part.value)), ("__init__", "self"), place)
+                self.assertNotIsInstance(part, ast.AugAssign, place)
+            parameters = [argument.arg for argument in node.args.args]
+            for call in calls_in(node):
+                name = call.func.attr if isinstance(call.func, ast.Attribute) else ast.unparse(call.func)
+                if isinstance(call.func, ast.Attribute) and name in MODIFYING:
+                    self.assertIn(ast.unparse(call.func.value), own, place)
+                if isinstance(call.func, ast.Name):
+                    self.assertTrue(name == "cls" or name not in parameters, place)
+                waiting += functions.get(name, [])
+        self.assertGreater(len(seen), 20)

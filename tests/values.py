@@ -2,8 +2,11 @@
 
 from lastprices.base.machines import Machine
 from lastprices.errors import InvalidMachine, InvalidNumber, ParseError, UnknownName
+from lastprices.rows.tables import Table
 from lastprices.signs.costs import Costs
+from lastprices.signs.patterns import Pattern
 from lastprices.signs.squares import Square
+from lastprices.signs.webs import Web
 
 BLOCK = Machine.from_lines("first p", "last r", "arc p a 0 p", "arc p b 0 p", "arc p b 0 q", "arc q a 1 q",
     "arc q b 0 r", "arc r a 0 r", "arc r b 0 r")
@@ -19,6 +22,7 @@ NO_STRINGS = [
     [], ["a"], ["p", "a", "p"], [[[[[[[["a"]]]]]]]],
     {}, {"a": "b"}, {("p", "a", "p"): 0}, {1: {2: {3: {4: {5: {6: {7: {8: 9}}}}}}}},
     BLOCK, COUNT, InvalidMachine("p"), ParseError(None), UnknownName("p"), Costs(((0,),)), Square(("0",)),
+    Pattern("b(a)#b"), Web(COUNT), Table(COUNT, 1),
 ]
 
 # Strings without a letter among them, and without a name or a text.

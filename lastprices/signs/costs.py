@@ -1,9 +1,9 @@
 """Costs: the least prices of ways from all states to all states."""
 
-from lastprices.base.checks import check_machine, check_text
+from lastprices.base.checks import check_machine, check_positive, check_text
 from lastprices.base.ways import ends_along, entering_of
-from lastprices.base.words import is_count, is_integer
-from lastprices.errors import InvalidCosts, InvalidNumber
+from lastprices.base.words import is_integer
+from lastprices.errors import InvalidCosts
 from lastprices.signs.places import check_size, entries_between, entry_at, is_sized
 from lastprices.signs.squares import Square, sign_of
 
@@ -11,6 +11,28 @@ from lastprices.signs.squares import Square, sign_of
 def is_costs(value):
     """Whether the value is the rows of costs."""
     return is_sized(value) and all([_is_row(row, len(value)) for row in value])
+
+
+def unit_rows(many):
+    """The rows of the costs of the empty text for so many states, which change none in a product."""
+    return tuple([tuple([0 if number == start else -1 for number in range(many)]) for start in range(many)])
+
+
+def product_rows(one, other):
+    """The rows of the product of two costs, by their rows."""
+    columns = list(zip(*other))
+    return tuple([tuple([_least_sum(row, column) for column in columns]) for row in one])
+
+
+def power_of(rows, number):
+    """The rows of the product of so many of the same costs, at least one of them."""
+    # The number has a highest bit, from which on each bit doubles what those before it make.
+    made = rows
+    for digit in f"{number:b}"[1:]:
+        made = product_rows(made, made)
+        if digit == "1":
+            made = product_rows(made, rows)
+    return made
 
 
 class MadeRows:
@@ -35,10 +57,7 @@ class Costs:
         """The costs of all ways along a text."""
         check_machine(machine)
         check_text(text)
-        entering = entering_of(machine, text)
-        numbers = list(range(len(machine)))
-        starts = [tuple([0 if number == start else -1 for number in numbers]) for start in numbers]
-        return cls(tuple(ends_along(entering, starts, text)))
+        return cls(tuple(ends_along(entering_of(machine, text), unit_rows(len(machine)), text)))
 
     @property
     def rows(self):
@@ -52,15 +71,8 @@ class Costs:
 
     def powered(self, number):
         """The product of so many of these costs."""
-        if not is_count(number) or number == 0:
-            raise InvalidNumber(number)
-        # As it is at least 1, the number has a highest bit, from which on each bit doubles what the others make.
-        rows = self._rows
-        for digit in f"{number:b}"[1:]:
-            rows = _product(rows, rows)
-            if digit == "1":
-                rows = _product(rows, self._rows)
-        return Costs(MadeRows(rows))
+        check_positive(number)
+        return Costs(MadeRows(power_of(self._rows, number)))
 
     def between(self, machine):
         """The least price from a first to a last state of a machine, None if there is none."""
@@ -70,7 +82,7 @@ class Costs:
         if not isinstance(other, Costs):
             return NotImplemented
         check_size(len(other._rows), len(self._rows))
-        return Costs(MadeRows(_product(self._rows, other._rows)))
+        return Costs(MadeRows(product_rows(self._rows, other._rows)))
 
     def __pow__(self, other):
         return self.powered(other)
@@ -98,12 +110,6 @@ def _is_row(value, many):
     if not isinstance(value, tuple) or len(value) != many:
         return False
     return all([is_integer(entry) and entry >= -1 for entry in value])
-
-
-def _product(one, other):
-    """The rows of the product of two costs, by their rows."""
-    columns = list(zip(*other))
-    return tuple([tuple([_least_sum(row, column) for column in columns]) for row in one])
 
 
 def _least_sum(row, column):

@@ -2,8 +2,8 @@
 
 from lastprices.base.checks import check_machine, check_text
 from lastprices.errors import InvalidOperation, InvalidSquare, InvalidText
-from lastprices.signs.levels import SIGNS, levels_of, product_of, repeat_of, rows_of
 from lastprices.signs.places import check_size, entries_between, entry_at, is_sized
+from lastprices.signs.products import SIGNS, Factor, is_stable_square, product_of, repeat_of
 
 
 def least_sign(*signs):
@@ -21,14 +21,14 @@ def is_square(value):
     return is_sized(value) and all([_is_of_signs(row) and len(row) == len(value) for row in value])
 
 
-def letter_levels(machine, letter):
-    """The levels of the square of a letter in a machine."""
+def letter_rows(machine, letter):
+    """The rows of the square of a letter in a machine."""
     arcs = machine.arcs
     rows = []
     for state in machine.states:
         places = [(state, letter, later) for later in machine.states]
         rows.append("".join([sign_of(arcs.get(place, -1)) for place in places]))
-    return levels_of(tuple(rows))
+    return tuple(rows)
 
 
 class Square:
@@ -38,7 +38,6 @@ class Square:
         if not is_square(rows):
             raise InvalidSquare("these are not the rows of a square")
         self._rows = rows
-        self._levels = levels_of(rows)
 
     @classmethod
     def of_text(cls, machine, text):
@@ -47,12 +46,12 @@ class Square:
         check_text(text)
         if text == "":
             raise InvalidText("the empty text has no square")
-        many = len(machine)
-        letters = {letter: letter_levels(machine, letter) for letter in sorted(set(text))}
-        levels = letters[text[0]]
+        letters = {letter: letter_rows(machine, letter) for letter in sorted(set(text))}
+        factors = {letter: Factor(letters[letter]) for letter in letters}
+        rows = letters[text[0]]
         for letter in text[1:]:
-            levels = product_of(levels, letters[letter], many)
-        return cls(rows_of(levels, many))
+            rows = factors[letter].behind(rows)
+        return cls(rows)
 
     @property
     def rows(self):
@@ -62,14 +61,13 @@ class Square:
     @property
     def is_stable(self):
         """Whether the product of the square with itself is the square."""
-        return product_of(self._levels, self._levels, len(self._rows)) == self._levels
+        return is_stable_square(self._rows)
 
     def repeated(self):
         """The repeat of the square."""
         if not self.is_stable:
             raise InvalidOperation("the square is not stable")
-        many = len(self._rows)
-        return Square(rows_of(repeat_of(self._levels, many), many))
+        return Square(repeat_of(self._rows))
 
     def between(self, machine):
         """The least sign from a first to a last state of a machine."""
@@ -79,9 +77,8 @@ class Square:
     def __mul__(self, other):
         if not isinstance(other, Square):
             return NotImplemented
-        many = len(self._rows)
-        check_size(len(other._rows), many)
-        return Square(rows_of(product_of(self._levels, other._levels, many), many))
+        check_size(len(other._rows), len(self._rows))
+        return Square(product_of(self._rows, other._rows))
 
     def __getitem__(self, at):
         return entry_at(self._rows, at)

@@ -1,0 +1,1 @@
+"""Rows of prices up to a cap, and tables of them."""

@@ -1,0 +1,145 @@
+"""Rows of machines up to a cap, and the tables of all rows to which texts lead."""
+
+from lastprices.base.checks import check_letter, check_machine, check_number, check_text
+from lastprices.base.ways import ends_along, entering_of, least_of, numbers_of, row_after, start_of
+from lastprices.base.words import is_integer
+from lastprices.errors import InvalidOperation, InvalidRow, InvalidText
+from lastprices.rows.reached import capped, reached_from
+
+MAX_CAP = 200
+MAX_TABLE = 20000
+
+
+def is_row(machine, cap, value):
+    """Whether the value has the form of a row of a machine, capped."""
+    _check(machine, cap)
+    return _is_formed(len(machine), cap, value)
+
+
+def first_row(machine, cap):
+    """The row of the empty text."""
+    _check(machine, cap)
+    return start_of(machine)
+
+
+def next_row(machine, cap, row, letter):
+    """The row to which a letter leads from a row."""
+    _check_row(machine, cap, row)
+    check_letter(letter)
+    return capped(row_after(entering_of(machine, letter)[letter], row), cap)
+
+
+def row_of(machine, cap, text):
+    """The row of a text."""
+    _check(machine, cap)
+    check_text(text)
+    ends = ends_along(entering_of(machine, text), [start_of(machine)], text)
+    return capped(ends[0], cap)
+
+
+def price_in(machine, cap, row):
+    """The price in a row, one more than the cap if it is wrong, None if there is none."""
+    _check_row(machine, cap, row)
+    return least_of(row, numbers_of(machine, machine.lasts))
+
+
+class Table:
+    """The rows of a machine, capped, to which texts of its letters lead; it never changes."""
+
+    def __init__(self, machine, cap):
+        _check(machine, cap)
+        self._machine = machine
+        self._cap = cap
+        self._start = start_of(machine)
+        self._reached = reached_from(machine, cap, [self._start], MAX_TABLE)
+        self._rows = tuple(sorted(self._reached))
+        lasts = numbers_of(machine, machine.lasts)
+        self._wrong = tuple([row for row in self._rows if least_of(row, lasts) == cap + 1])
+
+    @property
+    def machine(self):
+        """The machine."""
+        return self._machine
+
+    @property
+    def cap(self):
+        """The number that the prices do not exceed by more than one."""
+        return self._cap
+
+    @property
+    def rows(self):
+        """The ascending tuple of all rows."""
+        return self._rows
+
+    @property
+    def wrong(self):
+        """The ascending tuple of the wrong rows."""
+        return self._wrong
+
+    @property
+    def is_good(self):
+        """Whether no row is wrong."""
+        return len(self._wrong) == 0
+
+    @property
+    def start(self):
+        """The first row."""
+        return self._start
+
+    def after(self, row, letter):
+        """The row to which a letter leads from a row of the table."""
+        if row not in self:
+            raise InvalidOperation("this is no row of the table")
+        letters = self._machine.letters
+        if letter not in letters:
+            raise InvalidText("this is no letter of the machine")
+        return self._reached[row][0][letters.index(letter)]
+
+    def text_to(self, row):
+        """The first one of the shortest texts that lead to a row."""
+        if row not in self:
+            raise InvalidOperation("this is no row of the table")
+        letters = []
+        before = self._reached[row][1]
+        while before is not None:
+            letters.append(before[1])
+            before = self._reached[before[0]][1]
+        return "".join(letters[::-1])
+
+    def __contains__(self, x):
+        return _is_formed(len(self._start), self._cap, x) and x in self._reached
+
+    def __len__(self):
+        return len(self._rows)
+
+    def __iter__(self):
+        return iter(self._rows)
+
+    def __eq__(self, other):
+        if not isinstance(other, Table):
+            return False
+        return self._machine == other._machine and self._cap == other._cap
+
+    def __str__(self):
+        return f"table of {len(self._rows)} rows up to {self._cap}, {len(self._wrong)} wrong"
+
+
+def _check(machine, cap):
+    """Raises an error if one of both is none."""
+    check_machine(machine)
+    check_number(cap, MAX_CAP)
+
+
+def _check_row(machine, cap, row):
+    """Raises an error if one of the three is none."""
+    _check(machine, cap)
+    if not _is_formed(len(machine), cap, row):
+        raise InvalidRow("this is no row")
+
+
+def _is_formed(many, cap, value):
+    """Whether the value has the form of a row for so many states."""
+    # Judged before it is looked up, too, as True is no 1 here.
+    if not isinstance(value, tuple) or len(value) != many:
+        return False
+    return all([is_integer(price) and -1 <= price <= cap + 1 for price in value])

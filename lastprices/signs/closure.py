@@ -1,0 +1,83 @@
+"""The squares of a web, each with a pattern of as few signs as possible.
+
+A pattern is a row of items, which are letters and repeated parts; so each square of a web is the square of an item, or
+it comes from another square by one more item behind it. This is followed in the order of the lengths of patterns: a
+square is settled with its shortest pattern, and is put together with each item that is settled, too.
+"""
+
+from heapq import heappop, heappush
+
+from lastprices.signs.patterns import MAX_SIGNS
+from lastprices.signs.products import Factor, is_stable_square, repeat_of
+from lastprices.signs.squares import letter_rows
+
+# In the place of the number of a square, where there is none.
+NONE = -1
+
+
+class Closure:
+    """The squares of the web of a machine, as long as there are no more of them than a limit."""
+
+    def __init__(self, machine, limit):
+        self._limit = limit
+        # The least known length and depth of a pattern, by the rows of its square.
+        self._least = {}
+        self._waiting = []
+        # By the numbers of settled squares: their rows, lengths and depths, and the texts of their patterns.
+        self._settled = []
+        self._texts = []
+        # By the numbers of those that are items: the squares as factors.
+        self._items = {}
+        for letter in machine.letters:
+            self._offer(1, 0, (NONE, NONE, letter), letter_rows(machine, letter))
+
+    def patterns(self):
+        """A dict from the rows of all squares to the texts of patterns, None if there are more than the limit."""
+        while self._waiting and len(self._least) <= self._limit:
+            self._settle(heappop(self._waiting))
+        if len(self._least) > self._limit:
+            return None
+        return {told[0]: text for told, text in zip(self._settled, self._texts)}
+
+    def _offer(self, length, depth, origin, rows):
+        """Keeps a pattern of a square, if none is known that is as short."""
+        known = self._least.get(rows)
+        if known is None or (length, depth) < known:
+            self._least[rows] = (length, depth)
+            heappush(self._waiting, (length, depth, origin, rows))
+
+    def _settle(self, found):
+        """Settles a square with its shortest pattern."""
+        length, depth, origin, rows = found
+        # An earlier pattern of the same square, which was longer, is waiting still.
+        if self._least[rows] != (length, depth):
+            return
+        number = len(self._settled)
+        self._settled.append((rows, length, depth))
+        self._texts.append(self._text(length, origin))
+        if is_stable_square(rows):
+            # Three more signs stand around what is repeated.
+            self._offer(length + 3, depth + 1, (NONE, number, ""), repeat_of(rows))
+        if origin[0] == NONE:
+            self._items[number] = Factor(rows)
+            for before in range(number):
+                self._put_together(before, number)
+        for item in list(self._items):
+            self._put_together(number, item)
+
+    def _put_together(self, number, item):
+        """Offers a settled square with an item behind it."""
+        rows, length, depth = self._settled[number]
+        _, more, inner = self._settled[item]
+        self._offer(length + more, max(depth, inner), (number, item, ""), self._items[item].behind(rows))
+
+    def _text(self, length, origin):
+        """The text of a pattern, empty if it is too long for one."""
+        if length > MAX_SIGNS:
+            return ""
+        number, item, letter = origin
+        if item == NONE:
+            return letter
+        if number == NONE:
+            return f"({self._texts[item]})#"
+        return self._texts[number] + self._texts[item]
