@@ -6,11 +6,12 @@ from unittest import mock
 
 from lastprices.base.machines import Machine
 from lastprices.errors import InvalidMachine, InvalidOperation, TooMany
-from lastprices.signs import webs
-from lastprices.signs.patterns import Pattern
+from lastprices.signs import closure, webs
+from lastprices.signs.patterns import Pattern, is_pattern
 from lastprices.signs.squares import Square
 from lastprices.signs.webs import Web, is_web_of
 from tests.force import some_machine, some_machines
+from tests.test_patterns import square_by_force
 from tests.test_squares import NO_SQUARES, product_by_force, repeat_by_force
 from tests.values import BLOCK, COUNT, NAMES_24, NO_MACHINES, NO_STRINGS, check_judge, check_refused, shown, told_of
 
@@ -96,6 +97,27 @@ class WebTest(unittest.TestCase):
                 self.assertEqual(Pattern(text).square(machine).rows, rows, (machine.lines, text))
         grows = Web(DEAL).pattern_of(Web(DEAL).growing[0])
         self.assertIs(Pattern(grows).is_growing(DEAL), True)
+
+    def test_patterns_are_as_short_as_possible(self):
+        texts = ["".join(told) for many in range(1, 8) for told in itertools.product("ab()#", repeat=many)]
+        texts = [text for text in texts if is_pattern(text)]
+        for machine in [COUNT, *[some_machine(seed) for seed in range(12)]]:
+            web = Web(machine)
+            shortest = {}
+            for text in texts:
+                rows = square_by_force(machine, text)
+                if rows is not None and set(text) <= set("()#").union(machine.letters):
+                    shortest.setdefault(rows, text)
+            for rows, text in shortest.items():
+                self.assertEqual(len(web.pattern_of(rows)), len(text), (machine.lines, text))
+
+    def test_patterns_are_not_made_longer_than_they_can_be(self):
+        machine = apart("ee")
+        texts = sorted(closure.Closure(machine, 3000).patterns().values())
+        self.assertEqual(texts, ["(a)#", "(ab)#", "(b)#", "a", "a(b)#", "ab", "b", "b(a)#"])
+        with mock.patch.object(closure, "MAX_SIGNS", 4):
+            texts = sorted(closure.Closure(machine, 3000).patterns().values())
+        self.assertEqual(texts, ["", "", "", "(a)#", "(b)#", "a", "ab", "b"])
 
     def test_what_has_no_pattern(self):
         web = Web(BLOCK)

@@ -50,12 +50,12 @@ def pieces(machine):
     names = made_names(machine.states, 1)
     firsts = named_ends(machine.firsts, names)
     lasts = named_ends(machine.lasts, names)
-    inner = {place: 0 for place in named_arcs(machine.arcs, names)}
-    for state, letter, later in list(inner):
+    arcs = {place: 0 for place in named_arcs(machine.arcs, names)}
+    for state, letter, later in list(arcs):
         if state in firsts:
-            inner[new, letter, later] = 0
-    arcs = {place: 0 for place in inner}
-    for state, letter, later in inner:
+            arcs[new, letter, later] = 0
+    # As yet no arc leads to the new state.
+    for state, letter, later in list(arcs):
         if later in lasts:
             arcs[state, letter, new] = 1
     return Machine((new,), (new,), arcs)

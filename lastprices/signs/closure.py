@@ -20,16 +20,17 @@ class Closure:
 
     def __init__(self, machine, limit):
         self._limit = limit
-        # The least known length and depth of a pattern, by the rows of its square.
+        # The least known length of a pattern, by the rows of its square.
         self._least = {}
         self._waiting = []
-        # By the numbers of settled squares: their rows, lengths and depths, and the texts of their patterns.
-        self._settled = []
+        # By the numbers of settled squares: their rows, and the lengths and texts of their patterns.
+        self._rows = []
+        self._lengths = []
         self._texts = []
         # By the numbers of those that are items: the squares as factors.
         self._items = {}
         for letter in machine.letters:
-            self._offer(1, 0, (NONE, NONE, letter), letter_rows(machine, letter))
+            self._offer(1, (NONE, NONE, letter), letter_rows(machine, letter))
 
     def patterns(self):
         """A dict from the rows of all squares to the texts of patterns, None if there are more than the limit."""
@@ -37,27 +38,27 @@ class Closure:
             self._settle(heappop(self._waiting))
         if len(self._least) > self._limit:
             return None
-        return {told[0]: text for told, text in zip(self._settled, self._texts)}
+        return {rows: text for rows, text in zip(self._rows, self._texts)}
 
-    def _offer(self, length, depth, origin, rows):
+    def _offer(self, length, origin, rows):
         """Keeps a pattern of a square, if none is known that is as short."""
-        known = self._least.get(rows)
-        if known is None or (length, depth) < known:
-            self._least[rows] = (length, depth)
-            heappush(self._waiting, (length, depth, origin, rows))
+        if rows not in self._least or length < self._least[rows]:
+            self._least[rows] = length
+            heappush(self._waiting, (length, origin, rows))
 
     def _settle(self, found):
         """Settles a square with its shortest pattern."""
-        length, depth, origin, rows = found
-        # An earlier pattern of the same square, which was longer, is waiting still.
-        if self._least[rows] != (length, depth):
+        length, origin, rows = found
+        # Where a shorter pattern of the same square was found later, the longer one is waiting still.
+        if self._least[rows] != length:
             return
-        number = len(self._settled)
-        self._settled.append((rows, length, depth))
+        number = len(self._rows)
+        self._rows.append(rows)
+        self._lengths.append(length)
         self._texts.append(self._text(length, origin))
         if is_stable_square(rows):
             # Three more signs stand around what is repeated.
-            self._offer(length + 3, depth + 1, (NONE, number, ""), repeat_of(rows))
+            self._offer(length + 3, (NONE, number, ""), repeat_of(rows))
         if origin[0] == NONE:
             self._items[number] = Factor(rows)
             for before in range(number):
@@ -67,9 +68,8 @@ class Closure:
 
     def _put_together(self, number, item):
         """Offers a settled square with an item behind it."""
-        rows, length, depth = self._settled[number]
-        _, more, inner = self._settled[item]
-        self._offer(length + more, max(depth, inner), (number, item, ""), self._items[item].behind(rows))
+        length = self._lengths[number] + self._lengths[item]
+        self._offer(length, (number, item, ""), self._items[item].behind(self._rows[number]))
 
     def _text(self, length, origin):
         """The text of a pattern, empty if it is too long for one."""

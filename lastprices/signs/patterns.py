@@ -67,7 +67,6 @@ class Pattern:
 
     def is_growing(self, machine):
         """Whether the pattern is stable and growing in a machine."""
-        check_machine(machine)
         try:
             square = self.square(machine)
         except Unstable:
