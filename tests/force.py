@@ -51,3 +51,18 @@ def some_machine(seed, most=9):
 def some_machines(many, most=9):
     """The machines of the document's examples, and so many other small ones."""
     return [BLOCK, COUNT, *[some_machine(seed, most) for seed in range(many)]]
+
+
+def rows_by_force(machine, cap):
+    """The list of all rows to which texts lead, capped, by plain steps along all arcs."""
+    arcs = machine.arcs
+    rows = [tuple(0 if state in machine.firsts else -1 for state in machine.states)]
+    seen = set(rows)
+    for row in rows:
+        for letter in machine.letters:
+            later = tuple(min([min(row[at] + arcs[one, letter, other], cap + 1) for at, one in enumerate(machine.states)
+                if row[at] >= 0 and (one, letter, other) in arcs], default=-1) for other in machine.states)
+            if later not in seen:
+                seen.add(later)
+                rows.append(later)
+    return rows

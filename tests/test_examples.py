@@ -4,9 +4,12 @@ import unittest
 
 from lastprices import errors
 from lastprices.base import machines, words
+from lastprices.decide import alike, dear, papers, powers, rings
 from lastprices.read import combined, prices
 from lastprices.rows import tables
 from lastprices.signs import costs, patterns, squares, webs
+from lastprices.text import shell, texts
+from lastprices.use import bench
 from tests.examples import check_examples
 
 MACHINES = '''
@@ -77,8 +80,71 @@ STAGE_8 = '''
 [(0, 1, -1), 4, (0, -1, -1), 9]
 '''
 
+STAGE_9 = '''
+>>> MARK = Machine.from_lines("first c", "last c d", "arc c b 0 c", "arc c a 1 d", "arc d a 0 d", "arc d b 0 d")
+>>> [last_price(MARK), worst_text(MARK), is_limited(deal), last_price(COUNT), last_price(free(BLOCK)), worst_text(free(BLOCK))]
+[1, 'a', False, None, 0, 'bb']
+>>> [is_paper(MARK, ("enough", 1, ((-1, 1), (0, -1)))), is_paper(MARK, ("enough", 0, ((-1, 1), (0, -1)))), is_paper(deal, ("grows", "(b(a)#b(a)#)#"))]
+[True, False, True]
+>>> [is_paper(deal, ("grows", "b(a)#b")), paper(deal)[0], paper(MARK)[:2], rows_from(MARK, 1, ((0, 1),))]
+[False, 'grows', ('enough', 1), ((-1, 1), (0, 1))]
+'''
+
+STAGE_10 = '''
+>>> [dear_text(BLOCK, 2), dear_text(MARK, 2), prices_of(BLOCK, 3), prices_of(COUNT, 4), dearest(BLOCK, 5)]
+['baab', None, {0: 3, 1: 1}, {0: 1, 1: 4, 2: 6, 3: 4, 4: 1}, 'baaab']
+>>> [list(each_priced(BLOCK, 3, 0)), count_priced(COUNT, 200, 1), priced_at(COUNT, 4, 2, 5), number_of(COUNT, "baab")]
+[['abb', 'bba', 'bbb'], 200, 'bbaa', 3]
+'''
+
+STAGE_11 = '''
+>>> [run_bound(MARK), run_bound(COUNT), dear_ring(COUNT), dear_ring(BLOCK), is_dear_ring(BLOCK, ("b", "aa", "ba"))]
+[1, None, ('', 'b', ''), ('b', 'a', 'b'), True]
+>>> [two_runs(BLOCK), is_unambiguous(deal), is_deterministic(COUNT), is_deterministic(BLOCK), dearest_run(odd), dearest_run(free(odd))[0] in odd]
+[('bbb', ('p', 'p', 'q', 'r'), ('p', 'q', 'r', 'r')), False, True, False, None, True]
+'''
+
+STAGE_12 = '''
+>>> [parting_text(COUNT, stepped(COUNT), up_to=3), parting_text(COUNT, deal, up_to=0), dearer_text(COUNT, BLOCK, up_to=1), dearer_text(deal, COUNT, up_to=9)]
+['a', 'bb', 'bb', None]
+>>> [are_alike(MARK, MARK | MARK), are_ordered(free(MARK), MARK), are_ordered(MARK, free(MARK)), takes_less(BLOCK, COUNT), takes_alike(MARK, COUNT)]
+[True, True, False, '', True]
+'''
+
+STAGE_13 = '''
+>>> ABS = Machine.from_lines("first s", "last t", "arc s a 0 s", "arc s b 0 t")
+>>> [power(odd), has_finite_power(ABS), power(free(BLOCK)), least_pieces(odd, "aaaa"), splits_of(odd, "aaaa"), powers_taken(odd, "aaaaa")]
+[2, False, 1, 2, 3, (1, 3, 5)]
+>>> [split(ABS, "abaab"), is_split(odd, "aaaa", ("a", "a", "a", "a")), is_split(odd, "aaaa", ("aa", "aa")), least_pieces(ABS, ""), least_pieces(ABS, "a")]
+[('ab', 'aab'), True, False, 0, None]
+'''
+
+STAGE_14 = '''
+>>> bench = Bench(MARK)
+>>> [bench.demand(("most", 3)), bench.draw("arc d a 2 c"), bench.undo(), str(bench), bench.during(lambda same: same.draw("arc c a 3 d"))]
+[(), (), (), 'bench with 6 lines, 1 pledges', (1, 3)]
+>>> bench.draw("arc d a 1 d")
+raises Refused
+>>> [bench.waive(("most", 3)), bench.draw("arc d a 1 d"), bench.last, "arc d a 0 d" in bench, bench.undo(many=2)]
+[(), (1, None), None, False, (None, 1)]
+'''
+
+STAGE_15 = '''
+>>> [write_row((0, 1, -1)), read_row("- 2"), write_paper(("enough", 1, ((-1, 1), (0, -1)))), read_paper("grows (b)#"), read_square("01/.n")]
+['0 1 -', (-1, 2), 'enough 1\\n- 1\\n0 -', ('grows', '(b)#'), ('01', '.n')]
+'''
+
+STAGE_16 = '''
+>>> shell = Shell(write_machine(MARK))
+>>> [shell("last"), shell("worst"), shell("price bb"), shell("demand costs ba 1"), shell("draw arc d a 1 d"), shell("grows a(a)#")]
+['1', 'a', '0', 'nothing', 'from 1 to none', 'yes']
+>>> [shell("paper")[:5], shell("undo"), shell("paper"), shell("square ab"), shell("row a 5"), shell("split aba"), shell("draw x"), len(shell)]
+['grows', 'from none to 1', 'enough 1', '.1/.0', '- 1', 'aba', 'line', 12]
+'''
+
 # Stages of which each uses what an earlier one has made.
-STAGES = (STAGE_1, STAGE_2, STAGE_3, STAGE_4, STAGE_5, STAGE_6, STAGE_7, STAGE_8)
+STAGES = (STAGE_1, STAGE_2, STAGE_3, STAGE_4, STAGE_5, STAGE_6, STAGE_7, STAGE_8, STAGE_9, STAGE_10, STAGE_11, STAGE_12,
+    STAGE_13, STAGE_14, STAGE_15, STAGE_16)
 
 # What is said of the machines of the examples beside these.
 WORDS = '''
@@ -94,7 +160,8 @@ WORDS = '''
 class ExamplesTest(unittest.TestCase):
     def test_stages(self):
         names = {}
-        for module in (errors, words, machines, prices, combined, costs, squares, patterns, webs, tables):
+        for module in (errors, words, machines, prices, combined, costs, squares, patterns, webs, tables, papers, dear, rings,
+                alike, powers, bench, texts, shell):
             names.update(vars(module))
         exec(MACHINES, names)
         for text in (*STAGES, WORDS):

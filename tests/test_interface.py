@@ -23,6 +23,26 @@ FUNCTIONS = {
     "lastprices.rows.tables": (
         "is_row(machine, cap, value)", "first_row(machine, cap)", "next_row(machine, cap, row, letter)",
         "row_of(machine, cap, text)", "price_in(machine, cap, row)"),
+    "lastprices.decide.papers": (
+        "is_limited(machine)", "last_price(machine)", "worst_text(machine)", "growing_pattern(machine)", "paper(machine)",
+        "is_paper(machine, value)", "rows_from(machine, cap, rows)"),
+    "lastprices.decide.dear": (
+        "dear_text(machine, price)", "prices_of(machine, length)", "count_priced(machine, length, price)",
+        "each_priced(machine, length, price)", "priced_at(machine, length, price, number)", "number_of(machine, text)",
+        "dearest(machine, length)"),
+    "lastprices.decide.rings": (
+        "run_bound(machine)", "dear_ring(machine)", "is_dear_ring(machine, value)", "dearest_run(machine)",
+        "is_deterministic(machine)", "is_unambiguous(machine)", "two_runs(machine)", "is_two_runs(machine, value)"),
+    "lastprices.decide.alike": (
+        "parting_text(one, other, *, up_to)", "are_alike_up_to(one, other, *, up_to)", "dearer_text(one, other, *, up_to)",
+        "takes_less(one, other)", "takes_alike(one, other)", "are_alike(one, other)", "are_ordered(one, other)",
+        "same_with(one, other, text)"),
+    "lastprices.decide.powers": (
+        "has_finite_power(machine)", "power(machine)", "split(machine, text)", "is_split(machine, text, value)",
+        "least_pieces(machine, text)", "splits_of(machine, text)", "powers_taken(machine, text)"),
+    "lastprices.text.texts": (
+        "write_machine(machine)", "read_machine(text)", "write_row(row)", "read_row(text)", "write_square(rows)",
+        "read_square(text)", "write_paper(paper)", "read_paper(text)"),
 }
 
 # For each class its module, its methods, its properties and what else it has.
@@ -60,6 +80,17 @@ CLASSES = {
         ("__init__(self, machine, cap)", "after(self, row, letter)", "text_to(self, row)"),
         ("machine", "cap", "rows", "wrong", "is_good", "start"),
         ("__contains__", "__len__", "__iter__", "__eq__", "__str__")),
+    "Bench": (
+        "lastprices.use.bench",
+        ("__init__(self, machine)", "draw(self, line)", "erase(self, line)", "demand(self, pledge)", "waive(self, pledge)",
+            "undo(self, *, many=1)", "redo(self, *, many=1)", "trial(self)", "during(self, call)", "twin(self)"),
+        ("machine", "last", "pledges"),
+        ("__contains__", "__len__", "__iter__", "__eq__", "__str__")),
+    "Shell": (
+        "lastprices.text.shell",
+        ("__init__(self, text)", "answer(self, line)", "__call__(self, line)", "bench(self)"),
+        (),
+        ("__len__",)),
 }
 
 ERRORS = ("PriceError", "InvalidMachine", "InvalidText", "InvalidPattern", "InvalidSquare", "InvalidCosts", "InvalidRow",
@@ -73,6 +104,7 @@ CONSTANTS = {
     "lastprices.signs.patterns": {"MAX_SIGNS": 20000, "MAX_DEPTH": 24},
     "lastprices.signs.webs": {"MAX_SQUARES": 3000},
     "lastprices.rows.tables": {"MAX_CAP": 200, "MAX_TABLE": 20000},
+    "lastprices.use.bench": {"MAX_PLEDGES": 10},
 }
 
 

@@ -1,22 +1,22 @@
 """Webs of machines."""
 
 import itertools
+import random
 import unittest
 from unittest import mock
 
 from lastprices.base.machines import Machine
 from lastprices.errors import InvalidMachine, InvalidOperation, TooMany
-from lastprices.signs import closure, webs
-from lastprices.signs.patterns import Pattern, is_pattern
+from lastprices.signs import closure, shortest, webs
+from lastprices.signs.patterns import MAX_DEPTH, Pattern, is_pattern
+from lastprices.signs.products import is_stable_square
 from lastprices.signs.squares import Square
 from lastprices.signs.webs import Web, is_web_of
 from tests.force import some_machine, some_machines
 from tests.test_patterns import square_by_force
 from tests.test_squares import NO_SQUARES, product_by_force, repeat_by_force
-from tests.values import BLOCK, COUNT, NAMES_24, NO_MACHINES, NO_STRINGS, check_judge, check_refused, shown, told_of
-
-DEAL = BLOCK | COUNT
-ODD = Machine.from_lines("first s", "last t", "arc s a 3 t", "arc t a 0 s")
+from tests.values import (BLOCK, COUNT, DEAL, NAMES_24, NO_MACHINES, NO_STRINGS, ODD, check_judge, check_refused, shown,
+    told_of)
 
 
 def web_by_force(machine):
@@ -98,26 +98,45 @@ class WebTest(unittest.TestCase):
         grows = Web(DEAL).pattern_of(Web(DEAL).growing[0])
         self.assertIs(Pattern(grows).is_growing(DEAL), True)
 
-    def test_patterns_are_as_short_as_possible(self):
+    def test_shortest_patterns(self):
         texts = ["".join(told) for many in range(1, 8) for told in itertools.product("ab()#", repeat=many)]
         texts = [text for text in texts if is_pattern(text)]
         for machine in [COUNT, *[some_machine(seed) for seed in range(12)]]:
-            web = Web(machine)
-            shortest = {}
+            patterns = shortest.Shortest(machine).patterns()
+            self.assertEqual(sorted(patterns), list(Web(machine)))
+            found = {}
             for text in texts:
                 rows = square_by_force(machine, text)
                 if rows is not None and set(text) <= set("()#").union(machine.letters):
-                    shortest.setdefault(rows, text)
-            for rows, text in shortest.items():
-                self.assertEqual(len(web.pattern_of(rows)), len(text), (machine.lines, text))
+                    found.setdefault(rows, text)
+            for rows, text in found.items():
+                self.assertEqual(len(patterns[rows]), len(text), (machine.lines, text))
+            for rows, text in patterns.items():
+                self.assertEqual(square_by_force(machine, text), rows)
 
-    def test_patterns_are_not_made_longer_than_they_can_be(self):
+    def test_shortest_patterns_are_not_made_longer_than_they_can_be(self):
         machine = apart("ee")
-        texts = sorted(closure.Closure(machine, 3000).patterns().values())
+        texts = sorted(shortest.Shortest(machine).patterns().values())
         self.assertEqual(texts, ["(a)#", "(ab)#", "(b)#", "a", "a(b)#", "ab", "b", "b(a)#"])
-        with mock.patch.object(closure, "MAX_SIGNS", 4):
-            texts = sorted(closure.Closure(machine, 3000).patterns().values())
+        with mock.patch.object(shortest, "MAX_SIGNS", 4):
+            texts = sorted(shortest.Shortest(machine).patterns().values())
         self.assertEqual(texts, ["", "", "", "(a)#", "(b)#", "a", "ab", "b"])
+
+    def test_patterns_that_are_too_long_or_too_deep(self):
+        for machine in (DEAL, apart("eef", "ei")):
+            whole = closure.Closure(machine, 3000)
+            texts = {rows: whole.text_of(rows) for rows in whole.origins}
+            for signs, depth in ((1, 24), (6, 24), (9, 24), (20000, 0), (20000, 1)):
+                again = closure.Closure(machine, 3000)
+                with mock.patch.object(closure, "MAX_SIGNS", signs), mock.patch.object(closure, "MAX_DEPTH", depth):
+                    for rows, text in texts.items():
+                        told = text if len(text) <= signs and Pattern(text).depth <= depth else None
+                        self.assertEqual(again.text_of(rows), told, (signs, depth))
+                    # Then shortest ones are looked for.
+                    web = Web(machine)
+                    for rows in web:
+                        self.assertEqual(Pattern(web.pattern_of(rows)).square(machine).rows, rows)
+        self.assertEqual(MAX_DEPTH, 24)
 
     def test_what_has_no_pattern(self):
         web = Web(BLOCK)
@@ -204,6 +223,61 @@ class ManySquaresTest(unittest.TestCase):
         growing = [rows for rows in web if Square(rows).between(machine) == "n"]
         self.assertEqual([len(web), list(web.growing)], [3 ** 6 - 1 + 3, growing])
         self.assertEqual(len(growing), 3 ** 5)
+
+
+class SlowOnesTest(unittest.TestCase):
+    """Webs that took long once."""
+
+    def test_all_maps_of_five_states(self):
+        ring = zip("stuvw", "tuvws")
+        arcs = {(one, "a", other): 0 for one, other in ring}
+        arcs.update({("s", "b", "t"): 0, ("t", "b", "s"): 0, ("s", "c", "t"): 0, ("t", "c", "t"): 0})
+        arcs.update({(name, letter, name): 0 for name in "uvw" for letter in "bc"})
+        machine = Machine(("s",), ("s",), arcs)
+        with self.assertRaises(TooMany) as caught:
+            Web(machine)
+        self.assertEqual(caught.exception.limit, 3000)
+        # These are all maps from five states to themselves.
+        with mock.patch.object(webs, "MAX_SQUARES", 5 ** 5):
+            web = Web(machine)
+        self.assertEqual([len(web), len(web.growing)], [5 ** 5, 0])
+        maps = {tuple("." * at + "0" + "." * (4 - at) for at in told) for told in itertools.product(range(5), repeat=5)}
+        self.assertEqual(set(web.squares), maps)
+        stable = {rows for rows in maps if product_by_force(rows, rows) == rows}
+        self.assertEqual([set(web.stable), len(stable)], [stable, 196])
+        self.assertIs(is_web_of(machine, web.squares), True)
+        self.assertIs(is_web_of(machine, web.squares[1:]), False)
+
+    def test_counting_and_blocks(self):
+        machine = Machine.from_lines("first c p", "last c r", "arc p a 0 p", "arc p b 0 p", "arc p b 0 q", "arc q a 1 q",
+            "arc q b 0 r", "arc r a 0 r", "arc r b 0 r", "arc c a 0 c", "arc c b 1 c")
+        web = Web(machine)
+        self.assertEqual([web.squares, len(web)], [web_by_force(machine), 65])
+        self.assertEqual(str(web), f"web of 65 squares, {len(web.growing)} growing")
+        self.assertIs(is_web_of(machine, web.squares), True)
+
+    def test_just_the_stable_squares_are_called_stable(self):
+        told = random.Random(12)
+        seen = {True: 0, False: 0}
+        for size in range(1, 7):
+            for signs in ("01n.", "0.", "n.", "01n....", "0000n.", "1n......"):
+                for _ in range(60):
+                    rows = tuple("".join(told.choice(signs) for _ in range(size)) for _ in range(size))
+                    # Of many squares some power is stable.
+                    for _ in range(5):
+                        stable = product_by_force(rows, rows) == rows
+                        seen[stable] += 1
+                        self.assertIs(is_stable_square(rows), stable, rows)
+                        self.assertIs(Square(rows).is_stable, stable)
+                        if stable:
+                            self.assertEqual(Square(rows).repeated().rows, repeat_by_force(rows))
+                        rows = product_by_force(rows, rows)
+        self.assertGreater(min(seen.values()), 1000)
+
+    def test_stable_squares_of_webs(self):
+        for machine in [apart("eef", "ei"), apart("eeee"), *some_machines(40)]:
+            web = Web(machine)
+            self.assertEqual(web.stable, tuple(rows for rows in web if product_by_force(rows, rows) == rows))
 
 
 class IsWebTest(unittest.TestCase):

@@ -12,6 +12,10 @@ BLOCK = Machine.from_lines("first p", "last r", "arc p a 0 p", "arc p b 0 p", "a
     "arc q b 0 r", "arc r a 0 r", "arc r b 0 r")
 COUNT = Machine.from_lines("first c", "last c", "arc c a 0 c", "arc c b 1 c")
 
+DEAL = BLOCK | COUNT
+ODD = Machine.from_lines("first s", "last t", "arc s a 3 t", "arc t a 0 s")
+MARK = Machine.from_lines("first c", "last c d", "arc c b 0 c", "arc c a 1 d", "arc d a 0 d", "arc d b 0 d")
+
 NAMES_24 = tuple("q" + letter for letter in "abcdefghijklmnopqrstuvwx")
 NAMES_25 = NAMES_24 + ("qy",)
 

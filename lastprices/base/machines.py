@@ -2,9 +2,10 @@
 
 from lastprices.base.lines import lines_of, told_by_lines
 from lastprices.base.making import backwards, chosen, greatest_sum, linked, named_arcs, named_ends, summed
-from lastprices.base.parts import is_ends, is_place, letters_of, states_of
-from lastprices.base.ways import price_along
-from lastprices.base.words import is_integer, is_letter, is_name, is_text
+from lastprices.base.parts import is_ends, is_place, is_triple, letters_of, states_of
+from lastprices.base.tracks import Track
+from lastprices.base.ways import bits_of, images_of, moves_of, numbers_of, set_along, start_of
+from lastprices.base.words import is_letter, is_name, is_text
 from lastprices.errors import InvalidMachine, InvalidOperation, InvalidText, TooMany, UnknownName
 
 MAX_STATES = 24
@@ -13,21 +14,19 @@ MAX_PRICE = 9
 
 def is_price(value):
     """Whether the value is the price of an arc."""
-    return is_integer(value) and 0 <= value <= MAX_PRICE
+    return isinstance(value, int) and 0 <= value <= MAX_PRICE and not isinstance(value, bool)
 
 
 def is_arcs(value):
     """Whether the value is a dict from the places of arcs to prices."""
-    if not isinstance(value, dict):
+    if not isinstance(value, dict) or not all([is_triple(place) for place in value]):
         return False
-    return all([is_place(place) and is_price(value[place]) for place in value])
-
-
-def makes_machine(firsts, lasts, arcs):
-    """Whether there is a machine with these first states, last states and arcs."""
-    if not is_ends(firsts) or not is_ends(lasts) or not is_arcs(arcs):
+    # The same names and letters stand in many arcs.
+    names = set([name for state, _, later in value for name in (state, later)])
+    letters = set([letter for _, letter, _ in value])
+    if not all([is_name(name) for name in sorted(names)]) or not all([is_letter(letter) for letter in sorted(letters)]):
         return False
-    return len(states_of(firsts, lasts, arcs)) <= MAX_STATES
+    return all([is_price(value[place]) for place in value])
 
 
 def is_naming(states, value):
@@ -45,18 +44,37 @@ def check_states(many):
         raise TooMany(MAX_STATES)
 
 
+class MadeArcs:
+    """Arcs of which it is known that they are some, beside ends that may be none."""
+
+    def __init__(self, made):
+        self.made = made
+
+
 class Machine:
-    """A machine, which never changes."""
+    """A machine, which never changes; it only keeps what it finds out when texts are read."""
 
     def __init__(self, firsts, lasts, arcs):
-        if not makes_machine(firsts, lasts, arcs):
-            raise InvalidMachine("these ends and arcs make no machine")
+        if isinstance(arcs, MadeArcs):
+            arcs = arcs.made
+        elif not is_arcs(arcs):
+            raise InvalidMachine("these are no arcs")
+        if not is_ends(firsts) or not is_ends(lasts):
+            raise InvalidMachine("these are no first or last states")
         self._firsts = firsts
         self._lasts = lasts
         self._arcs = {place: arcs[place] for place in sorted(arcs)}
         self._states = states_of(firsts, lasts, arcs)
+        if len(self._states) > MAX_STATES:
+            raise InvalidMachine("there are too many states")
         self._letters = letters_of(arcs)
         self._lines = lines_of(firsts, lasts, self._arcs)
+        self._images = images_of(self._states, self._letters, self._arcs)
+        self._begin = bits_of(self, firsts)
+        self._end = bits_of(self, lasts)
+        # Both are made when they are needed.
+        self._moves = None
+        self._track = None
 
     @classmethod
     def from_lines(cls, *lines):
@@ -65,7 +83,7 @@ class Machine:
         # Without such a line there are no such ends, which no machine has.
         firsts = arcs.pop("first", ())
         lasts = arcs.pop("last", ())
-        return cls(firsts, lasts, arcs)
+        return cls(firsts, lasts, MadeArcs(arcs))
 
     @property
     def firsts(self):
@@ -107,15 +125,44 @@ class Machine:
         laters = [later for later in self._states if (state, letter, later) in self._arcs]
         return tuple([(later, self._arcs[state, letter, later]) for later in laters])
 
+    def price_at(self, place):
+        """The price of the arc at a place, None if there is none; the place has three strings."""
+        return self._arcs.get(place)
+
+    def images(self, letter):
+        """The tuple of the pairs of the bit of a state and of the set of states to which a letter leads from it."""
+        return self._images.get(letter, ())
+
+    def moves(self, letter):
+        """The tuple of the arcs with a letter, as triples of the numbers of both states and of the price."""
+        if self._moves is None:
+            self._moves = moves_of(self._states, self._arcs)
+        return self._moves.get(letter, ())
+
+    def new_track(self):
+        """A track of the rows to which texts lead, of which nothing is known as yet."""
+        moves = {letter: self.moves(letter) for letter in self._letters}
+        return Track(moves, start_of(self), numbers_of(self, self._lasts))
+
+    def track(self):
+        """What is known of the rows to which texts lead."""
+        if self._track is None:
+            self._track = self.new_track()
+        return self._track
+
+    def led(self, states, text):
+        """The set of states to which a text leads from a set."""
+        return set_along(self._images, states, text)
+
     def with_arc(self, state, letter, later, price):
         """The machine with one more arc, or with another price of this one."""
         place = (state, letter, later)
         # Judged before it becomes a key, since not every value can be one.
-        if not is_place(place):
+        if not is_place(place) or not is_price(price):
             raise InvalidMachine("this is no arc")
         arcs = self.arcs
         arcs[place] = price
-        return Machine(self._firsts, self._lasts, arcs)
+        return Machine(self._firsts, self._lasts, MadeArcs(arcs))
 
     def without_arc(self, state, letter, later):
         """The machine without an arc, and without the states that were there for it only."""
@@ -125,7 +172,7 @@ class Machine:
             raise UnknownName(place)
         arcs = self.arcs
         del arcs[place]
-        return Machine(self._firsts, self._lasts, arcs)
+        return Machine(self._firsts, self._lasts, MadeArcs(arcs))
 
     def renamed(self, names):
         """The machine with other names of states, by a dict from just its states to different names."""
@@ -133,7 +180,7 @@ class Machine:
             raise InvalidOperation("these are not different names for just the states")
         firsts = named_ends(self._firsts, names)
         lasts = named_ends(self._lasts, names)
-        return Machine(firsts, lasts, named_arcs(self._arcs, names))
+        return Machine(firsts, lasts, MadeArcs(named_arcs(self._arcs, names)))
 
     def with_ends(self, *, firsts=None, lasts=None):
         """The machine with other first or last states; None leaves them."""
@@ -141,14 +188,14 @@ class Machine:
             firsts = self._firsts
         if lasts is None:
             lasts = self._lasts
-        return Machine(firsts, lasts, self._arcs)
+        return Machine(firsts, lasts, MadeArcs(self._arcs))
 
     def __or__(self, other):
         if not isinstance(other, Machine):
             return NotImplemented
         check_states(len(self._states) + len(other._states))
         firsts, lasts, arcs = chosen(self, other)
-        return Machine(firsts, lasts, arcs)
+        return Machine(firsts, lasts, MadeArcs(arcs))
 
     def __add__(self, other):
         if not isinstance(other, Machine):
@@ -157,26 +204,26 @@ class Machine:
             raise InvalidOperation("the sum of two prices is too great for an arc")
         check_states(len(self._states) * len(other._states))
         firsts, lasts, arcs = summed(self, other)
-        return Machine(firsts, lasts, arcs)
+        return Machine(firsts, lasts, MadeArcs(arcs))
 
     def __mul__(self, other):
         if not isinstance(other, Machine):
             return NotImplemented
         check_states(len(self._states) + len(other._states))
         firsts, lasts, arcs = linked(self, other)
-        return Machine(firsts, lasts, arcs)
+        return Machine(firsts, lasts, MadeArcs(arcs))
 
     def __invert__(self):
         firsts, lasts, arcs = backwards(self)
-        return Machine(firsts, lasts, arcs)
+        return Machine(firsts, lasts, MadeArcs(arcs))
 
     def __call__(self, text):
         if not is_text(text):
             raise InvalidText("this is no text")
-        return price_along(self, text)
+        return self.track().price_along(text)
 
     def __contains__(self, x):
-        return is_text(x) and price_along(self, x) is not None
+        return is_text(x) and set_along(self._images, self._begin, x) & self._end != 0
 
     def __len__(self):
         return len(self._states)

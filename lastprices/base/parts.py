@@ -12,6 +12,13 @@ def is_ends(value):
     return all([one < other for one, other in zip(value, value[1:])])
 
 
+def is_triple(value):
+    """Whether the value is a triple of strings."""
+    if not isinstance(value, tuple) or len(value) != 3:
+        return False
+    return isinstance(value[0], str) and isinstance(value[1], str) and isinstance(value[2], str)
+
+
 def is_place(value):
     """Whether the value is a triple of a state, a letter and a next state."""
     if not isinstance(value, tuple) or len(value) != 3:

@@ -1,8 +1,12 @@
-"""Rows of prices: what the cheapest ways along texts cost.
+"""Ways along texts: where they lead, and what the cheapest ones cost.
 
 A row has a number for each state of a machine, in ascending order: the price of the cheapest way to it, -1 if there
-is none. What is called `machine` here is read only, so that machines themselves can be built on these functions.
+is none. The arcs of a letter are told as moves, which are triples of the number of a state, that of the next state and
+the price. What is called `machine` here is read only, so that machines themselves can be built on these functions.
 """
+
+# Up to so many letters a text is read without keeping what is found on the way.
+SHORT = 64
 
 
 def numbers_of(machine, states):
@@ -10,20 +14,57 @@ def numbers_of(machine, states):
     return [number for number, state in enumerate(machine.states) if state in states]
 
 
-def entering_of(machine, text):
-    """A dict from the letters of a text to lists that have, for each state, the arcs to it with this letter.
+def moves_of(states, arcs):
+    """A dict from the letters of some arcs, ascending, to the tuples of their moves."""
+    numbers = {state: number for number, state in enumerate(states)}
+    moves = {}
+    for (state, letter, later), price in arcs.items():
+        moves.setdefault(letter, []).append((numbers[state], numbers[later], price))
+    return {letter: tuple(moves[letter]) for letter in sorted(moves)}
 
-    An arc is told as the pair of the number of the state from which it leads and of its price.
+
+def bits_of(machine, states):
+    """The set of some states of a machine."""
+    return sum([1 << number for number in numbers_of(machine, states)])
+
+
+def images_of(states, letters, arcs):
+    """A dict from letters to the tuples of their images, which are pairs of the bit of a state and of the set after it.
+
+    A set of states is an integer, with a bit for the number of each of them.
     """
-    states = machine.states
-    arcs = machine.arcs
-    entering = {}
-    for letter in sorted(set(text)):
-        entering[letter] = [
-            [(number, arcs[state, letter, later]) for number, state in enumerate(states)
-                if (state, letter, later) in arcs]
-            for later in states]
-    return entering
+    bits = {state: 1 << number for number, state in enumerate(states)}
+    sets = {}
+    for state, letter, later in arcs:
+        place = (letter, bits[state])
+        sets[place] = sets.get(place, 0) | bits[later]
+    return {letter: tuple([(place[1], sets[place]) for place in sets if place[0] == letter]) for letter in letters}
+
+
+def set_after(images, bits):
+    """The set to which a letter leads from a set, by its images."""
+    after = 0
+    for bit, image in images:
+        if bits & bit:
+            after = after | image
+    return after
+
+
+def set_along(images, bits, text):
+    """The set to which a text leads from a set, by the images of all letters."""
+    seen = {}
+    for letter in text:
+        if letter not in images:
+            return 0
+        if len(text) <= SHORT:
+            bits = set_after(images[letter], bits)
+        else:
+            # The same sets come again soon in long texts.
+            place = (letter, bits)
+            if place not in seen:
+                seen[place] = set_after(images[letter], bits)
+            bits = seen[place]
+    return bits
 
 
 def start_of(machine):
@@ -31,52 +72,17 @@ def start_of(machine):
     return tuple([0 if state in machine.firsts else -1 for state in machine.states])
 
 
-def row_after(entering, row):
-    """The row behind one more letter, by the lists of arcs that enter the states with it."""
-    return tuple([
-        min([row[number] + price for number, price in arcs if row[number] >= 0], default=-1) for arcs in entering])
-
-
-def rows_along(entering, starts, text):
-    """For each of some rows the list of those behind none, one, .. and all letters of a text.
-
-    They are told as pairs of a row that is lowered so that its least price is 0, and of the fall to it. Lowered rows
-    come again soon in most machines, even where prices grow, and only new ones have to be computed.
-    """
-    seen = {}
-    every = []
-    for start in starts:
-        rows = [(start, 0)]
-        for letter in text:
-            place = (letter, rows[-1][0])
-            if place not in seen:
-                seen[place] = _lowered(row_after(entering[letter], place[1]))
-            rows.append(seen[place])
-        every.append(rows)
-    return every
-
-
-def ends_along(entering, starts, text):
-    """For each of some rows the one behind all letters of a text."""
-    ends = []
-    for rows in rows_along(entering, starts, text):
-        spent = sum([fall for _, fall in rows])
-        ends.append(tuple([price + spent if price >= 0 else -1 for price in rows[-1][0]]))
-    return ends
+def row_after(moves, row):
+    """The row behind one more letter, by its moves."""
+    prices = [-1] * len(row)
+    for state, later, cost in moves:
+        if row[state] >= 0:
+            price = row[state] + cost
+            if prices[later] < 0 or price < prices[later]:
+                prices[later] = price
+    return tuple(prices)
 
 
 def least_of(row, numbers):
     """The least price of a row at some states, None if there is none."""
     return min([row[number] for number in numbers if row[number] >= 0], default=None)
-
-
-def price_along(machine, text):
-    """The price of a text, None if it is not taken."""
-    ends = ends_along(entering_of(machine, text), [start_of(machine)], text)
-    return least_of(ends[0], numbers_of(machine, machine.lasts))
-
-
-def _lowered(row):
-    """The pair of a row whose least price is 0, and of what was subtracted for it."""
-    fall = min([price for price in row if price >= 0], default=0)
-    return tuple([price - fall if price >= 0 else -1 for price in row]), fall

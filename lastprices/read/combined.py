@@ -1,7 +1,7 @@
 """Machines that are made of machines."""
 
 from lastprices.base.checks import check_machine
-from lastprices.base.machines import Machine, check_states
+from lastprices.base.machines import MadeArcs, Machine, check_states
 from lastprices.base.making import made_names, named_arcs, named_ends
 from lastprices.errors import InvalidOperation
 
@@ -58,7 +58,7 @@ def pieces(machine):
     for state, letter, later in list(arcs):
         if later in lasts:
             arcs[state, letter, new] = 1
-    return Machine((new,), (new,), arcs)
+    return Machine((new,), (new,), MadeArcs(arcs))
 
 
 def trimmed(machine):
@@ -73,7 +73,7 @@ def trimmed(machine):
     firsts = tuple([state for state in machine.firsts if state in used])
     lasts = tuple([state for state in machine.lasts if state in used])
     kept = {place: arcs[place] for place in arcs if place[0] in used and place[2] in used}
-    return Machine(firsts, lasts, kept)
+    return Machine(firsts, lasts, MadeArcs(kept))
 
 
 def _check_both(one, other):
@@ -84,7 +84,7 @@ def _check_both(one, other):
 
 def _with_price(machine, price):
     """The machine with one price for all arcs."""
-    return Machine(machine.firsts, machine.lasts, {place: price for place in machine.arcs})
+    return Machine(machine.firsts, machine.lasts, MadeArcs({place: price for place in machine.arcs}))
 
 
 def _reached(starts, links):

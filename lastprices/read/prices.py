@@ -1,55 +1,56 @@
 """Prices, runs and numbers of texts."""
 
 from lastprices.base.checks import check_machine, check_number, check_text
-from lastprices.base.ways import entering_of, least_of, numbers_of, rows_along, start_of
-from lastprices.base.words import is_name
+from lastprices.base.ways import SHORT, bits_of, numbers_of
 from lastprices.errors import InvalidOperation, NotTaken
-from lastprices.read.subsets import bits_of, numbered_sets, useful_sets
+from lastprices.read.subsets import numbered_sets, useful_sets
 
 MAX_LENGTH = 200
 
 
 def price_of(machine, text):
     """The price of a text, None if it is not taken."""
-    _check(machine, text)
+    check_machine(machine)
     return machine(text)
 
 
 def is_taken(machine, text):
     """Whether a text is taken."""
-    _check(machine, text)
-    return text in machine
+    check_machine(machine)
+    return machine(text) is not None
 
 
 def runs_of(machine, text):
     """The number of the runs of a text."""
     _check(machine, text)
-    entering = entering_of(machine, text)
-    sources = {letter: [tuple([number for number, _ in arcs]) for arcs in entering[letter]] for letter in entering}
     counts = [1 if state in machine.firsts else 0 for state in machine.states]
-    for letter in text:
-        counts = _counts_after(sources[letter], counts)
+    if len(text) > SHORT:
+        counts = _counts_along(machine, counts, text)
+    else:
+        for letter in text:
+            later = [0] * len(counts)
+            for before, after, _ in machine.moves(letter):
+                later[after] += counts[before]
+            counts = later
     return sum([counts[number] for number in numbers_of(machine, machine.lasts)])
 
 
 def cheapest(machine, text):
     """Any run with the least price."""
     _check(machine, text)
-    entering = entering_of(machine, text)
-    rows = rows_along(entering, [start_of(machine)], text)[0]
-    row = rows[-1][0]
-    lasts = numbers_of(machine, machine.lasts)
-    least = least_of(row, lasts)
-    if least is None:
+    steps = machine.track().steps_along(text)
+    end = steps[-1][0]
+    if end.least is None:
         raise NotTaken(text)
-    ends = [number for number in lasts if row[number] == least]
+    ends = [number for number in numbers_of(machine, machine.lasts) if end.row[number] == end.least]
     run = [ends[0]]
     for at in reversed(range(len(text))):
-        later, fall = rows[at + 1]
-        row = rows[at][0]
-        price = later[run[-1]] + fall
-        arcs = entering[text[at]][run[-1]]
-        befores = [number for number, cost in arcs if row[number] >= 0 and row[number] + cost == price]
+        later, fall = steps[at + 1]
+        row = steps[at][0].row
+        state = run[-1]
+        price = later.row[state] + fall
+        befores = [before for before, after, cost in machine.moves(text[at])
+            if after == state and row[before] >= 0 and row[before] + cost == price]
         run.append(befores[0])
     states = machine.states
     return tuple([states[number] for number in run[::-1]])
@@ -58,11 +59,7 @@ def cheapest(machine, text):
 def is_cheapest(machine, text, value):
     """Whether the value is a run with the least price."""
     _check(machine, text)
-    if not _is_way(machine, text, value):
-        return False
-    if value[0] not in machine.firsts or value[-1] not in machine.lasts:
-        return False
-    return _way_price(machine, text, value) == machine(text)
+    return is_run(machine, text, value) and _way_price(machine, text, value) == machine(text)
 
 
 def run_price(machine, text, run):
@@ -105,20 +102,36 @@ def each_taken(machine, length):
                     waiting.append((text + letter, after))
 
 
+def is_run(machine, text, value):
+    """Whether the value is a run along a text."""
+    return _is_way(machine, text, value) and value[0] in machine.firsts and value[-1] in machine.lasts
+
+
 def _check(machine, text):
     """Raises an error if one of both is none."""
     check_machine(machine)
     check_text(text)
 
 
-def _counts_after(sources, counts):
-    """For each state the number of ways to it behind one more letter, by the states before it."""
-    # Many states can have the same ones before them, and the numbers can be long, so each sum is made once only.
-    sums = {}
-    for befores in sources:
-        if befores not in sums:
-            sums[befores] = sum([counts[number] for number in befores])
-    return [sums[befores] for befores in sources]
+def _counts_along(machine, counts, text):
+    """For each state the number of ways to it behind a long text, by the numbers ahead of it."""
+    sources = {letter: _sources(machine, letter) for letter in sorted(set(text))}
+    for letter in text:
+        # Many states can have the same ones before them, and the numbers can be long, so each sum is made once only.
+        sums = {}
+        for befores in sources[letter]:
+            if befores not in sums:
+                sums[befores] = sum([counts[number] for number in befores])
+        counts = [sums[befores] for befores in sources[letter]]
+    return counts
+
+
+def _sources(machine, letter):
+    """For each state the tuple of the numbers of the states from which a letter leads to it."""
+    sources = [[] for _ in machine.states]
+    for before, after, _ in machine.moves(letter):
+        sources[after].append(before)
+    return [tuple(befores) for befores in sources]
 
 
 def _is_way(machine, text, value):
@@ -126,13 +139,11 @@ def _is_way(machine, text, value):
     if not isinstance(value, tuple) or len(value) != len(text) + 1:
         return False
     # Judged before they are looked up, since not every value can be a key.
-    if not all([is_name(state) for state in value]) or value[0] not in machine.states:
+    if not all([isinstance(state, str) for state in value]) or value[0] not in machine.states:
         return False
-    arcs = machine.arcs
-    return all([place in arcs for place in zip(value, text, value[1:])])
+    return all([machine.price_at(place) is not None for place in zip(value, text, value[1:])])
 
 
 def _way_price(machine, text, way):
     """The price of a way along a text."""
-    arcs = machine.arcs
-    return sum([arcs[place] for place in zip(way, text, way[1:])])
+    return sum([machine.price_at(place) for place in zip(way, text, way[1:])])

@@ -1,10 +1,11 @@
 """Rows of machines up to a cap, and the tables of all rows to which texts lead."""
 
 from lastprices.base.checks import check_letter, check_machine, check_number, check_text
-from lastprices.base.ways import ends_along, entering_of, least_of, numbers_of, row_after, start_of
+from lastprices.base.ways import least_of, numbers_of, row_after, start_of
 from lastprices.base.words import is_integer
 from lastprices.errors import InvalidOperation, InvalidRow, InvalidText
-from lastprices.rows.reached import capped, reached_from
+from lastprices.rows.codes import Codes
+from lastprices.rows.spread import Spread
 
 MAX_CAP = 200
 MAX_TABLE = 20000
@@ -26,15 +27,15 @@ def next_row(machine, cap, row, letter):
     """The row to which a letter leads from a row."""
     _check_row(machine, cap, row)
     check_letter(letter)
-    return capped(row_after(entering_of(machine, letter)[letter], row), cap)
+    return _capped(row_after(machine.moves(letter), row), cap)
 
 
 def row_of(machine, cap, text):
     """The row of a text."""
     _check(machine, cap)
     check_text(text)
-    ends = ends_along(entering_of(machine, text), [start_of(machine)], text)
-    return capped(ends[0], cap)
+    ends = machine.track().ends_along([start_of(machine)], text)
+    return _capped(ends[0], cap)
 
 
 def price_in(machine, cap, row):
@@ -51,10 +52,11 @@ class Table:
         self._machine = machine
         self._cap = cap
         self._start = start_of(machine)
-        self._reached = reached_from(machine, cap, [self._start], MAX_TABLE)
-        self._rows = tuple(sorted(self._reached))
-        lasts = numbers_of(machine, machine.lasts)
-        self._wrong = tuple([row for row in self._rows if least_of(row, lasts) == cap + 1])
+        self._codes = Codes([machine], cap)
+        self._spread = Spread(self._codes, [self._codes.first_code])
+        self._spread.grow_fully()
+        self._rows = self._codes.rows_of(self._spread.befores)
+        self._wrong = self._codes.rows_of(self._codes.wrong_ones(self._spread.befores))
 
     @property
     def machine(self):
@@ -88,26 +90,23 @@ class Table:
 
     def after(self, row, letter):
         """The row to which a letter leads from a row of the table."""
-        if row not in self:
+        code = self._codes.code_of(row)
+        if code not in self._spread.befores:
             raise InvalidOperation("this is no row of the table")
         letters = self._machine.letters
         if letter not in letters:
             raise InvalidText("this is no letter of the machine")
-        return self._reached[row][0][letters.index(letter)]
+        return self._codes.row_from(self._codes.laters(code)[letters.index(letter)])
 
     def text_to(self, row):
         """The first one of the shortest texts that lead to a row."""
-        if row not in self:
+        code = self._codes.code_of(row)
+        if code not in self._spread.befores:
             raise InvalidOperation("this is no row of the table")
-        letters = []
-        before = self._reached[row][1]
-        while before is not None:
-            letters.append(before[1])
-            before = self._reached[before[0]][1]
-        return "".join(letters[::-1])
+        return self._spread.text_to(code)
 
     def __contains__(self, x):
-        return _is_formed(len(self._start), self._cap, x) and x in self._reached
+        return self._codes.code_of(x) in self._spread.befores
 
     def __len__(self):
         return len(self._rows)
@@ -135,6 +134,11 @@ def _check_row(machine, cap, row):
     _check(machine, cap)
     if not _is_formed(len(machine), cap, row):
         raise InvalidRow("this is no row")
+
+
+def _capped(row, cap):
+    """A row with one more than the cap in the place of all greater prices."""
+    return tuple([min(price, cap + 1) for price in row])
 
 
 def _is_formed(many, cap, value):

@@ -1,18 +1,13 @@
-"""The squares of a web, each with a pattern of as few signs as possible.
+"""The squares of a web, and how they come about.
 
-A pattern is a row of items, which are letters and repeated parts; so each square of a web is the square of an item, or
-it comes from another square by one more item behind it. This is followed in the order of the lengths of patterns: a
-square is settled with its shortest pattern, and is put together with each item that is settled, too.
+All squares are products of generators, which are the squares of letters and those repeats that are no products of the
+generators that are there already. So each square is a generator, or it comes from another one by a generator behind it.
 """
 
-from heapq import heappop, heappush
-
-from lastprices.signs.patterns import MAX_SIGNS
-from lastprices.signs.products import Factor, is_stable_square, repeat_of
+from lastprices.signs.patterns import MAX_DEPTH, MAX_SIGNS
+from lastprices.signs.products import is_stable_by_numbers, least_behind, masks_for, row_number, repeat_by_numbers
+from lastprices.signs.products import written_row
 from lastprices.signs.squares import letter_rows
-
-# In the place of the number of a square, where there is none.
-NONE = -1
 
 
 class Closure:
@@ -20,64 +15,132 @@ class Closure:
 
     def __init__(self, machine, limit):
         self._limit = limit
-        # The least known length of a pattern, by the rows of its square.
-        self._least = {}
-        self._waiting = []
-        # By the numbers of settled squares: their rows, and the lengths and texts of their patterns.
-        self._rows = []
-        self._lengths = []
-        self._texts = []
-        # By the numbers of those that are items: the squares as factors.
-        self._items = {}
+        # By the rows of all squares: those of the one before, None if there is none, and the number of the generator.
+        self.origins = {}
+        # The rows of those squares that are stable.
+        self.steady = []
+        # By the numbers of generators: a letter, or the rows of the square whose repeat it is; the numbers of its
+        # rows; and what comes of all rows that are known when it is put behind them.
+        self._sources = []
+        self._factors = []
+        self._tables = []
+        # By their rows, all of squares that are known: their numbers; and the other way round.
+        self._numbers = {}
+        self._written = {}
+        self._masks = masks_for(len(machine))
+        # By the numbers of generators: the lengths, depths and texts of patterns, as far as they were needed.
+        self._words = []
+        self._find(machine)
+
+    def is_whole(self):
+        """Whether there are no more squares than the limit."""
+        return len(self.origins) <= self._limit
+
+    def _find(self, machine):
+        """Finds all squares, or one more than the limit at least."""
         for letter in machine.letters:
-            self._offer(1, (NONE, NONE, letter), letter_rows(machine, letter))
+            rows = letter_rows(machine, letter)
+            if rows not in self.origins:
+                self._add(rows, letter)
+        self._follow(list(self.origins))
+        squares = list(self.origins)
+        at = 0
+        while at < len(squares) and self.is_whole():
+            repeat = self._new_repeat(squares[at])
+            if repeat is not None:
+                before = len(self.origins)
+                self._add(repeat, squares[at])
+                found = self._behind(squares, len(self._tables) - 1)
+                self._follow([repeat, *found])
+                squares.extend(list(self.origins)[before:])
+            at += 1
 
-    def patterns(self):
-        """A dict from the rows of all squares to the texts of patterns, None if there are more than the limit."""
-        while self._waiting and len(self._least) <= self._limit:
-            self._settle(heappop(self._waiting))
-        if len(self._least) > self._limit:
+    def _new_repeat(self, rows):
+        """The repeat of a square, None if there is none, or if it is there already."""
+        numbers = [self._numbers[row] for row in rows]
+        if not is_stable_by_numbers(rows, numbers, self._masks):
             return None
-        return {rows: text for rows, text in zip(self._rows, self._texts)}
+        self.steady.append(rows)
+        # Without this sign on the way from a state to itself the repeat is the square.
+        if "1" not in [row[number] for number, row in enumerate(rows)]:
+            return None
+        repeat = repeat_by_numbers(rows, numbers)
+        return None if repeat in self.origins else repeat
 
-    def _offer(self, length, origin, rows):
-        """Keeps a pattern of a square, if none is known that is as short."""
-        if rows not in self._least or length < self._least[rows]:
-            self._least[rows] = length
-            heappush(self._waiting, (length, origin, rows))
+    def _add(self, rows, source):
+        """Adds a generator."""
+        number = len(self._sources)
+        self.origins[rows] = (None, number)
+        self._sources.append(source)
+        self._meet([rows])
+        numbers = [self._numbers[row] for row in rows]
+        self._factors.append(numbers)
+        self._tables.append({row: self._made_row(row, numbers) for row in self._numbers})
 
-    def _settle(self, found):
-        """Settles a square with its shortest pattern."""
-        length, origin, rows = found
-        # Where a shorter pattern of the same square was found later, the longer one is waiting still.
-        if self._least[rows] != length:
-            return
-        number = len(self._rows)
-        self._rows.append(rows)
-        self._lengths.append(length)
-        self._texts.append(self._text(length, origin))
-        if is_stable_square(rows):
-            # Three more signs stand around what is repeated.
-            self._offer(length + 3, (NONE, number, ""), repeat_of(rows))
-        if origin[0] == NONE:
-            self._items[number] = Factor(rows)
-            for before in range(number):
-                self._put_together(before, number)
-        for item in list(self._items):
-            self._put_together(number, item)
+    def _follow(self, batch):
+        """Adds what comes of some new squares by all generators behind them."""
+        while batch and self.is_whole():
+            found = []
+            for number in range(len(self._tables)):
+                if self.is_whole():
+                    found.extend(self._behind(batch, number))
+            batch = found
 
-    def _put_together(self, number, item):
-        """Offers a settled square with an item behind it."""
-        length = self._lengths[number] + self._lengths[item]
-        self._offer(length, (number, item, ""), self._items[item].behind(self._rows[number]))
+    def _behind(self, batch, number):
+        """The list of the new squares that come of some squares by a generator behind them."""
+        table = self._tables[number]
+        origins = self.origins
+        found = []
+        for rows in batch:
+            made = tuple([table[row] for row in rows])
+            if made not in origins:
+                origins[made] = (rows, number)
+                found.append(made)
+        self._meet(found)
+        return found
 
-    def _text(self, length, origin):
-        """The text of a pattern, empty if it is too long for one."""
-        if length > MAX_SIGNS:
-            return ""
-        number, item, letter = origin
-        if item == NONE:
-            return letter
-        if number == NONE:
-            return f"({self._texts[item]})#"
-        return self._texts[number] + self._texts[item]
+    def _meet(self, squares):
+        """Makes the rows of some squares known."""
+        numbers = self._numbers
+        for rows in squares:
+            for row in rows:
+                if row not in numbers:
+                    numbers[row] = row_number(row)
+                    self._written[numbers[row]] = row
+                    for factor, table in zip(self._factors, self._tables):
+                        table[row] = self._made_row(row, factor)
+
+    def _made_row(self, row, factor):
+        """What comes of a row by a generator behind it, by the numbers of the rows of this."""
+        least = least_behind(row, factor, self._masks)
+        if least not in self._written:
+            self._written[least] = written_row(least, len(row))
+        return self._written[least]
+
+    def text_of(self, rows):
+        """The text of a pattern of a square, None if it is longer or deeper than those of patterns can be."""
+        numbers = []
+        while rows is not None:
+            rows, number = self.origins[rows]
+            numbers.append(number)
+        while len(self._words) <= max(numbers):
+            self._words.append(self._word(self._sources[len(self._words)]))
+        words = [self._words[number] for number in numbers[::-1]]
+        if sum([word[0] for word in words]) > MAX_SIGNS or max([word[1] for word in words]) > MAX_DEPTH:
+            return None
+        return "".join([word[2] for word in words])
+
+    def _word(self, source):
+        """The length, the depth and the text of a pattern of a generator; the text is empty if it is too long."""
+        if isinstance(source, str):
+            return 1, 0, source
+        numbers = []
+        rows = source
+        while rows is not None:
+            rows, number = self.origins[rows]
+            numbers.append(number)
+        # The squares on the way to it were there before it was, and so were their generators.
+        words = [self._words[number] for number in numbers[::-1]]
+        length = sum([word[0] for word in words]) + 3
+        text = "".join([word[2] for word in words]) if length <= MAX_SIGNS else ""
+        return length, max([word[1] for word in words]) + 1, f"({text})#"

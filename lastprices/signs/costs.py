@@ -1,38 +1,16 @@
 """Costs: the least prices of ways from all states to all states."""
 
 from lastprices.base.checks import check_machine, check_positive, check_text
-from lastprices.base.ways import ends_along, entering_of
 from lastprices.base.words import is_integer
 from lastprices.errors import InvalidCosts
 from lastprices.signs.places import check_size, entries_between, entry_at, is_sized
+from lastprices.signs.powers import power_of, product_rows, unit_rows
 from lastprices.signs.squares import Square, sign_of
 
 
 def is_costs(value):
     """Whether the value is the rows of costs."""
     return is_sized(value) and all([_is_row(row, len(value)) for row in value])
-
-
-def unit_rows(many):
-    """The rows of the costs of the empty text for so many states, which change none in a product."""
-    return tuple([tuple([0 if number == start else -1 for number in range(many)]) for start in range(many)])
-
-
-def product_rows(one, other):
-    """The rows of the product of two costs, by their rows."""
-    columns = list(zip(*other))
-    return tuple([tuple([_least_sum(row, column) for column in columns]) for row in one])
-
-
-def power_of(rows, number):
-    """The rows of the product of so many of the same costs, at least one of them."""
-    # The number has a highest bit, from which on each bit doubles what those before it make.
-    made = rows
-    for digit in f"{number:b}"[1:]:
-        made = product_rows(made, made)
-        if digit == "1":
-            made = product_rows(made, rows)
-    return made
 
 
 class MadeRows:
@@ -57,7 +35,7 @@ class Costs:
         """The costs of all ways along a text."""
         check_machine(machine)
         check_text(text)
-        return cls(tuple(ends_along(entering_of(machine, text), unit_rows(len(machine)), text)))
+        return cls(MadeRows(tuple(machine.track().ends_along(unit_rows(len(machine)), text))))
 
     @property
     def rows(self):
@@ -110,8 +88,3 @@ def _is_row(value, many):
     if not isinstance(value, tuple) or len(value) != many:
         return False
     return all([is_integer(entry) and entry >= -1 for entry in value])
-
-
-def _least_sum(row, column):
-    """The least sum of two prices where there are both, -1 if there are nowhere."""
-    return min([price + cost for price, cost in zip(row, column) if price >= 0 and cost >= 0], default=-1)

@@ -77,7 +77,7 @@ class Pattern:
         """The costs of all ways along its text at n."""
         check_machine(machine)
         check_positive(n)
-        rows = read_pattern(self._text, self._parts, CostsReader(machine, self._letters, n))
+        rows = read_pattern(self._text, self._parts, CostsReader(machine, n))
         return Costs(MadeRows(rows))
 
     def repeated(self):

@@ -7,42 +7,55 @@ greater one of two signs has those that both have.
 
 SIGNS = "01n."
 
+# From the numbers of signs to figures, and back.
+FIGURES = {48: "7", 49: "6", 110: "4", 46: "0"}
+WRITTEN = {55: "0", 54: "1", 52: "n", 48: "."}
 
-def number_of(row):
+
+def row_number(row):
     """The number of a row of signs."""
-    return int(row.translate({ord("0"): "7", ord("1"): "6", ord("n"): "4", ord("."): "0"}), 8)
+    return int(row.translate(FIGURES), 8)
 
 
-def row_of(number, many):
+def written_row(number, many):
     """The row of so many signs with a number."""
-    return f"{number:o}".zfill(many).translate({ord("7"): "0", ord("6"): "1", ord("4"): "n", ord("0"): "."})
+    return f"{number:o}".zfill(many).translate(WRITTEN)
 
 
 def masks_for(many):
     """A dict from the signs to the numbers of rows that have nothing else."""
-    return {sign: number_of(sign * many) for sign in SIGNS}
+    units = ((1 << 3 * many) - 1) // 7
+    return {"0": 7 * units, "1": 6 * units, "n": 4 * units, ".": 0}
 
 
-def row_behind(row, numbers, masks):
-    """The row of a product, by the same row of the first square and the numbers of all rows of the second one."""
+def least_behind(row, numbers, masks):
+    """The number of the row of a product, by that row of the first square and the numbers of those of the second."""
     least = 0
     for sign, number in zip(row, numbers):
         least = least | (number & masks[sign])
-    return row_of(least, len(row))
+    return least
 
 
 def product_of(one, other):
     """The rows of the product of two squares."""
-    numbers = [number_of(row) for row in other]
+    numbers = [row_number(row) for row in other]
     masks = masks_for(len(other))
-    return tuple([row_behind(row, numbers, masks) for row in one])
+    return tuple([written_row(least_behind(row, numbers, masks), len(other)) for row in one])
 
 
 def repeat_of(rows):
     """The rows of the repeat of a stable square."""
-    # The square itself, with ways only through single states in it, and itself again.
-    signs = [row[number].replace("1", "n") for number, row in enumerate(rows)]
-    return product_of(product_of(rows, diagonal(signs)), rows)
+    return repeat_by_numbers(rows, [row_number(row) for row in rows])
+
+
+def repeat_by_numbers(rows, numbers):
+    """The rows of the repeat of a stable square, by the numbers of its rows as well."""
+    many = len(rows)
+    masks = masks_for(many)
+    # Ways go only through single states in it: the greater one of a sign and of that from the state to itself.
+    rounds = row_number("".join([row[number].replace("1", "n") for number, row in enumerate(rows)]))
+    ahead = [written_row(number & rounds, many) for number in numbers]
+    return tuple([written_row(least_behind(row, numbers, masks), many) for row in ahead])
 
 
 def diagonal(signs):
@@ -53,14 +66,23 @@ def diagonal(signs):
 
 def is_stable_square(rows):
     """Whether the product of a square with itself is the square."""
-    return product_of(rows, rows) == rows
+    return is_stable_by_numbers(rows, [row_number(row) for row in rows], masks_for(len(rows)))
+
+
+def is_stable_by_numbers(rows, numbers, masks):
+    """Whether the product of a square with itself is the square, by the numbers of its rows as well."""
+    for row, number in zip(rows, numbers):
+        # Of most squares one of the first rows tells that they are not stable.
+        if least_behind(row, numbers, masks) != number:
+            return False
+    return True
 
 
 class Factor:
     """A square that is put behind many others, and keeps what it makes of their rows."""
 
     def __init__(self, rows):
-        self._numbers = [number_of(row) for row in rows]
+        self._numbers = [row_number(row) for row in rows]
         self._masks = masks_for(len(rows))
         self._made = {}
 
@@ -69,5 +91,5 @@ class Factor:
         made = self._made
         for row in rows:
             if row not in made:
-                made[row] = row_behind(row, self._numbers, self._masks)
+                made[row] = written_row(least_behind(row, self._numbers, self._masks), len(row))
         return tuple([made[row] for row in rows])

@@ -1,8 +1,8 @@
 """What can be made of a pattern: its text, the number of its letters, its square, and its costs."""
 
-from lastprices.base.ways import ends_along, entering_of
+from lastprices.base.ways import row_after
 from lastprices.errors import Unstable
-from lastprices.signs.costs import power_of, product_rows, unit_rows
+from lastprices.signs.powers import power_of, product_rows, unit_rows
 from lastprices.signs.products import Factor, diagonal, is_stable_square, repeat_of
 from lastprices.signs.squares import letter_rows
 
@@ -76,23 +76,28 @@ class SquareReader:
 class CostsReader:
     """Makes the rows of the costs of a pattern at a number."""
 
-    def __init__(self, machine, alphabet, number):
-        self._many = len(machine)
-        self._entering = entering_of(machine, alphabet)
+    def __init__(self, machine, number):
+        self._machine = machine
+        self._unit = unit_rows(len(machine))
         self._number = number
         self._powers = {}
 
     def begun(self):
         """The rows that change none in a product."""
-        return unit_rows(self._many)
+        return self._unit
 
     def with_run(self, done, run):
         """The rows with some letters behind them."""
-        return tuple(ends_along(self._entering, done, run))
+        if len(run) > len(done):
+            return product_rows(done, self._machine.track().ends_along(self._unit, run))
+        for letter in run:
+            moves = self._machine.moves(letter)
+            done = [row_after(moves, row) for row in done]
+        return tuple(done)
 
     def with_part(self, done, part, text):
         """The rows with a repeated part behind them."""
-        # As above; and a power takes far longer than a product.
+        # The same part can stand in a pattern many times, and a power takes far longer than a product.
         if text not in self._powers:
             self._powers[text] = power_of(part, self._number)
         return product_rows(done, self._powers[text])

@@ -23,12 +23,10 @@ def is_square(value):
 
 def letter_rows(machine, letter):
     """The rows of the square of a letter in a machine."""
-    arcs = machine.arcs
-    rows = []
-    for state in machine.states:
-        places = [(state, letter, later) for later in machine.states]
-        rows.append("".join([sign_of(arcs.get(place, -1)) for place in places]))
-    return tuple(rows)
+    rows = [["."] * len(machine) for _ in range(len(machine))]
+    for state, later, price in machine.moves(letter):
+        rows[state][later] = sign_of(price)
+    return tuple(["".join(row) for row in rows])
 
 
 class Square:

@@ -1,19 +1,13 @@
 """Webs: all squares that the letters of a machine make."""
 
 from lastprices.base.checks import check_machine
+from lastprices.base.ways import numbers_of
 from lastprices.errors import InvalidOperation, TooMany
 from lastprices.signs.closure import Closure
-from lastprices.signs.places import entries_between
-from lastprices.signs.products import is_stable_square
-from lastprices.signs.squares import Square, is_square, least_sign, letter_rows
+from lastprices.signs.shortest import Shortest
+from lastprices.signs.squares import Square, is_square, letter_rows
 
 MAX_SQUARES = 3000
-
-
-def is_growing_square(rows, machine):
-    """Whether the least sign of a square from a first to a last state of a machine is `n`."""
-    signs = entries_between(rows, machine)
-    return least_sign(*signs) == "n"
 
 
 def is_web_of(machine, value):
@@ -22,8 +16,35 @@ def is_web_of(machine, value):
     if not isinstance(value, tuple) or not all([is_square(rows) for rows in value]):
         return False
     # A web with more squares than the value has is not looked at any further.
-    patterns = Closure(machine, len(value)).patterns()
-    return patterns is not None and value == tuple(sorted(patterns))
+    closure = Closure(machine, len(value))
+    return closure.is_whole() and value == in_order(closure.origins)
+
+
+def whole_closure(machine):
+    """The closure of a machine: TooMany if a web can have no so many squares."""
+    closure = Closure(machine, MAX_SQUARES)
+    if not closure.is_whole():
+        raise TooMany(MAX_SQUARES)
+    return closure
+
+
+def in_order(squares):
+    """The ascending tuple of the rows of some different squares."""
+    # Strings of all rows have the same order, and are sorted faster.
+    plain = {"".join(rows): rows for rows in squares}
+    return tuple([plain[text] for text in sorted(plain)])
+
+
+def growing_ones(machine, squares):
+    """The tuple of those of some squares whose least sign from a first to a last state of a machine is `n`."""
+    firsts = numbers_of(machine, machine.firsts)
+    lasts = numbers_of(machine, machine.lasts)
+    growing = []
+    for rows in squares:
+        signs = "".join([rows[first][last] for first in firsts for last in lasts])
+        if "n" in signs and "0" not in signs and "1" not in signs:
+            growing.append(rows)
+    return tuple(growing)
 
 
 class Web:
@@ -31,14 +52,14 @@ class Web:
 
     def __init__(self, machine):
         check_machine(machine)
-        patterns = Closure(machine, MAX_SQUARES).patterns()
-        if patterns is None:
-            raise TooMany(MAX_SQUARES)
+        closure = whole_closure(machine)
         self._machine = machine
-        self._patterns = patterns
-        self._squares = tuple(sorted(patterns))
-        self._stable = tuple([rows for rows in self._squares if is_stable_square(rows)])
-        self._growing = tuple([rows for rows in self._squares if is_growing_square(rows, machine)])
+        self._closure = closure
+        # The texts of shortest patterns, which are looked for only where other ones are too long.
+        self._shortest = None
+        self._squares = in_order(closure.origins)
+        self._stable = in_order(closure.steady)
+        self._growing = growing_ones(machine, self._squares)
         self._letters = {letter: letter_rows(machine, letter) for letter in machine.letters}
 
     @property
@@ -68,13 +89,18 @@ class Web:
 
     def pattern_of(self, rows):
         """The text of any pattern that is stable in the machine and has this square."""
-        if not is_square(rows) or rows not in self._patterns:
+        if not is_square(rows) or rows not in self._closure.origins:
             raise InvalidOperation("these are not the rows of a square of the web")
-        return self._patterns[rows]
+        text = self._closure.text_of(rows)
+        if text is None:
+            if self._shortest is None:
+                self._shortest = Shortest(self._machine).patterns()
+            text = self._shortest[rows]
+        return text
 
     def __contains__(self, x):
         rows = x.rows if isinstance(x, Square) else x
-        return is_square(rows) and rows in self._patterns
+        return is_square(rows) and rows in self._closure.origins
 
     def __len__(self):
         return len(self._squares)

@@ -1,0 +1,1 @@
+"""Machines, rows, squares and papers as texts, and a shell."""

@@ -1,0 +1,1 @@
+"""Machines that are worked on."""
