@@ -66,3 +66,23 @@ def rows_by_force(machine, cap):
                 seen.add(later)
                 rows.append(later)
     return rows
+
+
+def drawn_machine(seed, many, letters="ab", most=9):
+    """A machine with just so many states, another one for each seed, but the same one at all times."""
+    told = random.Random(1000 * many + seed)
+    names = "stuvw"[:many]
+    # Arcs in a ring, so that no state is without any.
+    arcs = {(names[at - 1], told.choice(letters), names[at]): told.choice((0, 1, told.randrange(most + 1)))
+        for at in range(many)}
+    for place in itertools.product(names, letters, names):
+        if told.randrange(5) < 2:
+            arcs[place] = told.choice((0, 0, 1, told.randrange(most + 1)))
+    firsts = tuple(name for name in names if told.randrange(3) == 0) or (told.choice(names),)
+    lasts = tuple(name for name in names if told.randrange(3) == 0) or (told.choice(names),)
+    return Machine(firsts, lasts, arcs)
+
+
+def drawn_machines(seeds, manys, letters="ab"):
+    """So many machines for each of some numbers of states."""
+    return [drawn_machine(seed, many, letters) for many in manys for seed in range(seeds)]

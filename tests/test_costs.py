@@ -7,7 +7,7 @@ from lastprices.base.machines import Machine
 from lastprices.errors import InvalidCosts, InvalidMachine, InvalidNumber, InvalidOperation, InvalidText
 from lastprices.signs.costs import Costs
 from lastprices.signs.squares import Square
-from tests.force import least_price, some_machines, texts_up_to, ways_along
+from tests.force import drawn_machine, drawn_machines, least_price, some_machines, texts_up_to, ways_along
 from tests.values import BLOCK, COUNT, NAMES_24, NO_MACHINES, NO_STRINGS, NO_TEXTS, check_refused, shown, told_of
 
 SMALL = Costs(((0, -1, 2), (7, 3, -1), (-1, -1, 10 ** 59)))
@@ -31,6 +31,28 @@ def costs_by_force(machine, text):
     ways = ways_along(machine, text)
     return tuple(tuple(min([price for way, price in ways.items() if (way[0], way[-1]) == (one, other)], default=-1)
         for other in machine.states) for one in machine.states)
+
+
+def product_by_force(one, other):
+    """The rows of the product of two costs, by their rows."""
+    places = range(len(one))
+    return tuple(tuple(min([one[i][m] + other[m][j] for m in places if one[i][m] >= 0 and other[m][j] >= 0], default=-1)
+        for j in places) for i in places)
+
+
+def power_by_force(rows, number):
+    """The rows of a power of costs, by squares of them, from the lowest bit of the number on."""
+    made = None
+    while number:
+        if number % 2:
+            made = rows if made is None else product_by_force(made, rows)
+        rows = product_by_force(rows, rows)
+        number //= 2
+    return made
+
+
+# The greatest powers that a number of sixty digits can have, and others beside which something begins anew.
+GREAT = (10 ** 40, 10 ** 60 - 1, 2 ** 199, 2 ** 199 - 1, 2 ** 100 + 1, 3 ** 125, 10 ** 59 + 7)
 
 
 def told(costs):
@@ -160,6 +182,59 @@ class ProductTest(unittest.TestCase):
         # They are not passed, though.
         with self.assertRaises(InvalidCosts):
             Costs(long.rows)
+
+
+class GreatPowersTest(unittest.TestCase):
+    def test_small_numbers_one_by_one(self):
+        for machine in drawn_machines(8, (1, 2, 3, 4, 5)):
+            for text in ("a", "ab"):
+                costs = Costs.of_text(machine, text)
+                made = costs
+                # Far beyond the number from which on powers are not made of products alone.
+                for number in range(1, 340):
+                    self.assertEqual(costs ** number, made, (machine.lines, number))
+                    made = made * costs
+
+    def test_great_numbers_by_squares(self):
+        for machine in drawn_machines(15, (1, 2, 3, 4, 5)):
+            for text in ("a", "b", "ba", "aab"):
+                costs = Costs.of_text(machine, text)
+                for number in GREAT:
+                    self.assertEqual(costs.powered(number).rows, power_by_force(costs.rows, number), (machine.lines, number))
+
+    def test_numbers_that_are_sums(self):
+        for machine in drawn_machines(15, (1, 2, 3, 4, 5)):
+            for text in ("a", "b", "abb"):
+                costs = Costs.of_text(machine, text)
+                for number in GREAT:
+                    for part in (1, 2, 59, 10 ** 5, number // 7, number // 2, number - 3):
+                        self.assertEqual((costs ** part) * (costs ** (number - part)), costs ** number)
+
+    def test_rings_of_unlike_lengths(self):
+        # The cheapest rings are longest ones, go through all states, or are reached late.
+        for many in (2, 3, 4, 5):
+            names = NAMES_24[:many]
+            ring = {(names[at - 1], "a", names[at]): 0 if at else 1 for at in range(many)}
+            for at in range(many):
+                arcs = {**ring, (names[at], "a", names[at]): 1, (names[at], "a", names[at - 1]): 1}
+                costs = Costs.of_text(Machine(names[:1], names[-1:], arcs), "a")
+                for number in GREAT + tuple(range(30, 60)):
+                    self.assertEqual(costs.powered(number).rows, power_by_force(costs.rows, number), (arcs, number))
+
+    def test_entries_of_many_digits(self):
+        costs = Costs(((-1, 10 ** 59, 0), (3, -1, 10 ** 60 - 1), (-1, 5, 10 ** 58)))
+        for number in GREAT:
+            self.assertEqual((costs ** number).rows, power_by_force(costs.rows, number))
+            self.assertEqual(((costs ** number) ** number).rows, power_by_force(costs.rows, number * number))
+
+    def test_24_states(self):
+        arcs = {(NAMES_24[at - 1], "a", NAMES_24[at]): at // 3 for at in range(24)}
+        for at in (3, 8, 17, 22):
+            arcs[NAMES_24[at], "a", NAMES_24[at - 2]] = at - at // 10 * 10
+        costs = Costs.of_text(Machine(NAMES_24[:1], NAMES_24[-1:], arcs), "a")
+        for number in (1, 30, 5000, 10 ** 40, 10 ** 60 - 1):
+            self.assertEqual((costs ** number).rows, power_by_force(costs.rows, number), number)
+        self.assertEqual(drawn_machine(0, 5).states, ("s", "t", "u", "v", "w"))
 
 
 class BetweenTest(unittest.TestCase):

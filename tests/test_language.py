@@ -225,6 +225,69 @@ class LanguageTest(unittest.TestCase):
         for names in (methods, assigned, METHODS):
             self.assertEqual(properties & names, set())
 
+    def test_what_is_called(self):
+        properties = {part.name for _, node in self.nodes(ast.ClassDef) for part in node.body
+            if isinstance(part, ast.FunctionDef) and "property" in [ast.unparse(told) for told in part.decorator_list]}
+        for place, node in self.nodes(ast.Call):
+            # Objects are called by a name, not where they are told by a call or a property.
+            self.assertIsInstance(node.func, (ast.Name, ast.Attribute), place)
+            if isinstance(node.func, ast.Attribute):
+                self.assertNotIn(node.func.attr, properties, place)
+            for part in node.args:
+                if isinstance(part, ast.Starred):
+                    self.assertIsInstance(part.value, (ast.Name, ast.Attribute), place)
+                    self.assertNotIn(getattr(part.value, "attr", None), properties, place)
+
+    def test_names_of_methods_and_attributes(self):
+        methods = {part.name for _, node in self.nodes(ast.ClassDef) for part in node.body
+            if isinstance(part, ast.FunctionDef)}
+        assigned = {node.attr for _, node in self.nodes(ast.Attribute) if isinstance(node.ctx, ast.Store)}
+        self.assertEqual(methods & assigned, set())
+        read = {node.attr for _, node in self.nodes(ast.Attribute)}
+        self.assertEqual(read - assigned - methods - METHODS - DOUBLE - {"__class__", "__name__"}, set())
+
+    def test_targets_have_different_names(self):
+        for place, node in self.nodes(ast.Tuple):
+            if isinstance(node.ctx, ast.Store):
+                names = [part.id for part in ast.walk(node) if isinstance(part, ast.Name) and isinstance(part.ctx, ast.Store)]
+                self.assertEqual(len(names), len(set(names)), place)
+
+    def test_what_is_iterated_at_once(self):
+        once = ("zip", "enumerate", "reversed", "map", "iter")
+        for path, tree in self.trees.items():
+            parents = {child: node for node in ast.walk(tree) for child in ast.iter_child_nodes(node)}
+            for node in ast.walk(tree):
+                if isinstance(node, ast.Call):
+                    name = node.func.attr if isinstance(node.func, ast.Attribute) else ast.unparse(node.func)
+                    views = isinstance(node.func, ast.Attribute) and name in ("items", "keys", "values")
+                    if views or name in once:
+                        above = parents[node]
+                        loop = isinstance(above, (ast.For, ast.comprehension)) and above.iter is node
+                        call = isinstance(above, ast.Call) and ast.unparse(above.func) in ("list", "tuple", "sorted", "enumerate")
+                        told = isinstance(above, ast.Return) and name == "iter"
+                        self.assertTrue(loop or call or told, f"{path.name}:{node.lineno}")
+                    if name == "reversed":
+                        self.assertIn(ast.unparse(node.args[0].func), ("range", "list"), f"{path.name}:{node.lineno}")
+
+    def test_local_names_are_not_those_of_the_file(self):
+        for path, tree in self.trees.items():
+            tops = defined_in(tree) | {alias.name for node in tree.body if isinstance(node, ast.ImportFrom) for alias in node.names}
+            for node in ast.walk(tree):
+                if isinstance(node, (ast.FunctionDef, ast.Lambda)):
+                    names = {part.arg for part in ast.walk(node) if isinstance(part, ast.arg)}
+                    names |= {part.id for part in ast.walk(node) if isinstance(part, ast.Name) and isinstance(part.ctx, ast.Store)}
+                    self.assertEqual(names & tops, set(), f"{path.name}:{node.lineno}")
+
+    def test_tables_of_translations(self):
+        for path, tree in self.trees.items():
+            used = {ast.unparse(node.args[0]) for node in ast.walk(tree) if isinstance(node, ast.Call)
+                and isinstance(node.func, ast.Attribute) and node.func.attr == "translate"}
+            for node in ast.walk(tree):
+                if isinstance(node, ast.Assign) and ast.unparse(node.targets[0]) in used:
+                    self.assertIsInstance(node.value, ast.Dict, path)
+                    used.discard(ast.unparse(node.targets[0]))
+            self.assertEqual(used, set(), path)
+
     def test_classes_with_items_say_that_they_are_not_iterated_over(self):
         for place, node in self.nodes(ast.ClassDef):
             names = {part.name for part in node.body if isinstance(part, ast.FunctionDef)}

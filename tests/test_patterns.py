@@ -10,7 +10,9 @@ from lastprices.signs import patterns
 from lastprices.signs.costs import Costs
 from lastprices.signs.patterns import Pattern, is_pattern
 from lastprices.signs.squares import Square
-from tests.force import some_machine, some_machines
+from tests.force import drawn_machines, some_machine, some_machines
+from tests.test_costs import GREAT, power_by_force
+from tests.test_costs import product_by_force as costs_product_by_force
 from tests.test_squares import product_by_force, repeat_by_force
 from tests.values import (BLOCK, COUNT, NAMES_24, NO_LETTERS, NO_MACHINES, NO_STRINGS, check_judge, check_refused, shown,
     told_of)
@@ -68,6 +70,18 @@ def square_by_force(machine, text):
         else:
             factor = Square.of_text(machine, item).rows
         rows = factor if rows is None else product_by_force(rows, factor)
+    return rows
+
+
+def costs_by_force(machine, text, n):
+    """The rows of the costs of a pattern at n."""
+    rows = None
+    for item in items_of(text):
+        if isinstance(item, list):
+            factor = power_by_force(costs_by_force(machine, item[0], n), n)
+        else:
+            factor = Costs.of_text(machine, item).rows
+        rows = factor if rows is None else costs_product_by_force(rows, factor)
     return rows
 
 
@@ -292,6 +306,18 @@ class CostsTest(unittest.TestCase):
         machine = Machine(NAMES_24, NAMES_24, every)
         self.assertEqual(Pattern("(a)#a(aa)#").costs(machine, n).between(machine), 3 * n + 1)
         self.assertEqual(Pattern("a" * 20000).costs(machine, n).between(machine), 20000)
+
+    def test_great_numbers(self):
+        for text in (NESTED, "(a)#", "(ab)#b", "((a)#(b)#ab)#", *some_patterns(4)):
+            for machine in [DEAL, *drawn_machines(4, (1, 2, 3, 4, 5))]:
+                for n in (1, 2, 70, *GREAT[:4]):
+                    self.assertEqual(Pattern(text).costs(machine, n).rows, costs_by_force(machine, text, n), (text, n))
+
+    def test_great_numbers_that_are_sums(self):
+        for machine in [DEAL, *drawn_machines(6, (1, 2, 3, 4, 5))]:
+            for text in ("(a)#", "(ab)#", "(bba)#"):
+                costs = [Pattern(text).costs(machine, n) for n in (1, 10 ** 40, 10 ** 40 + 1, 2 ** 199 - 1, 2 ** 199)]
+                self.assertEqual([costs[0] * costs[1], costs[3] * costs[0]], [costs[2], costs[4]])
 
     def test_stable_or_not(self):
         with self.assertRaises(Unstable):

@@ -1,11 +1,17 @@
 """Prices and runs of texts."""
 
+import random
 import unittest
+from unittest import mock
 
+from lastprices.base import tracks
 from lastprices.base.machines import Machine
 from lastprices.errors import InvalidMachine, InvalidOperation, InvalidText, NotTaken
+from lastprices.read.combined import joined
 from lastprices.read.prices import cheapest, is_cheapest, is_taken, price_of, run_price, runs_of
-from tests.force import least_price, runs_along, some_machines, texts_up_to, ways_along
+from lastprices.rows.tables import row_of
+from lastprices.signs.costs import Costs
+from tests.force import drawn_machine, drawn_machines, least_price, runs_along, some_machines, texts_up_to, ways_along
 from tests.values import (BLOCK, COUNT, NAMES_24, NO_MACHINES, NO_STRINGS, NO_TEXTS, check_refused, shown, told_of)
 
 LOOP = Machine(("s",), ("s",), {("s", "a", "s"): 9})
@@ -145,6 +151,110 @@ class RunPriceTest(unittest.TestCase):
             lambda value: run_price(value, "", ("c",))], NO_MACHINES)
         check_refused(self, InvalidText, [lambda value: run_price(COUNT, value, None),
             lambda value: run_price(COUNT, value, ("c",))], NO_TEXTS)
+
+
+class ManyTextsTest(unittest.TestCase):
+    def check(self, machine, text, ways):
+        """Checks all that is told of a text against all ways along it."""
+        runs = {way: price for way, price in ways.items() if way[0] in machine.firsts and way[-1] in machine.lasts}
+        price = min(runs.values(), default=None)
+        self.assertEqual([price_of(machine, text), machine(text), runs_of(machine, text)], [price, price, len(runs)])
+        self.assertEqual([is_taken(machine, text), text in machine], [price is not None] * 2, (machine.lines, text))
+        rows = Costs.of_text(machine, text).rows
+        for at, one in enumerate(machine.states):
+            for to, other in enumerate(machine.states):
+                prices = [price for way, price in ways.items() if (way[0], way[-1]) == (one, other)]
+                self.assertEqual(rows[at][to], min(prices, default=-1))
+        if price is None:
+            with self.assertRaises(NotTaken):
+                cheapest(machine, text)
+        else:
+            run = cheapest(machine, text)
+            self.assertEqual([runs[run], run_price(machine, text, run)], [price, price])
+            for run in runs:
+                self.assertIs(is_cheapest(machine, text, run), runs[run] == price)
+
+    def test_in_any_order_and_twice(self):
+        told = random.Random(1)
+        texts = texts_up_to("ab", 4) + ["c", "ca", "abcb", "z", "bz"]
+        for machine in drawn_machines(3, (1, 2, 3, 4, 5)):
+            ways = {text: ways_along(machine, text) for text in texts}
+            order = texts + texts
+            told.shuffle(order)
+            for text in order:
+                self.check(machine, text, ways[text])
+
+    def test_with_other_machines_and_letters_between(self):
+        told = random.Random(2)
+        for seed in range(6):
+            # Machines that differ in one arc, in their ends, or in nothing.
+            one = drawn_machine(seed, 3, "abc")
+            place = sorted(one.arcs)[seed]
+            machines = [one, drawn_machine(seed, 3, "abc"), one.with_arc(*place, 9 - one.arcs[place]), one.without_arc(*place),
+                one.with_ends(firsts=one.lasts, lasts=one.firsts), ~one, one | COUNT, drawn_machine(seed, 5)]
+            cases = [(machine, text, ways_along(machine, text)) for machine in machines for text in texts_up_to("abcd", 2)]
+            cases = told.sample(cases, 120) * 2
+            told.shuffle(cases)
+            for machine, text, ways in cases:
+                self.check(machine, text, ways)
+
+    def test_what_is_made_of_machines_that_have_read_texts(self):
+        for machine in drawn_machines(6, (1, 2, 3)):
+            texts = texts_up_to("ab", 4)
+            before = [price_of(machine, text) for text in texts]
+            pair = joined(machine, machine)
+            for text in texts:
+                parts = [(price_of(machine, text[:at]), price_of(machine, text[at:])) for at in range(len(text) + 1)]
+                self.assertEqual(price_of(pair, text), min([sum(part) for part in parts if None not in part], default=None))
+                self.assertEqual(price_of(~machine, text[::-1]), price_of(machine, text))
+            self.assertEqual([price_of(machine, text) for text in texts], before)
+
+    def test_nothing_that_is_told_changes_prices(self):
+        for machine in drawn_machines(4, (2, 4)):
+            before = [price_of(machine, text) for text in texts_up_to("ab", 4)]
+            machine.arcs.clear()
+            arcs = machine.arcs
+            for place in arcs:
+                arcs[place] = 9
+            for value in ("A", None, ["a"], "a" * 100001):
+                with self.assertRaises(InvalidText):
+                    price_of(machine, value)
+            self.assertEqual([price_of(machine, text) for text in texts_up_to("ab", 4)], before)
+
+    def test_texts_longer_than_what_is_read_at_once(self):
+        told = random.Random(4)
+        for machine in [BLOCK, *drawn_machines(4, (1, 2, 3, 4, 5))]:
+            for length in (63, 64, 65, 300):
+                text = "".join(told.choice("ab") for _ in range(length))
+                self.assertEqual(price_of(machine, text), Costs.of_text(machine, text).between(machine))
+                half = Costs.of_text(machine, text[:40]) * Costs.of_text(machine, text[40:])
+                self.assertEqual(half.between(machine), price_of(machine, text))
+                runs = self.runs_by_steps(machine, text)
+                self.assertEqual([runs_of(machine, text), text in machine], [runs, runs > 0])
+                if runs:
+                    self.assertIs(is_cheapest(machine, text, cheapest(machine, text)), True)
+
+    def runs_by_steps(self, machine, text):
+        """The number of the runs of a text, letter by letter."""
+        counts = {state: int(state in machine.firsts) for state in machine.states}
+        for letter in text:
+            counts = {later: sum(counts[state] for state in counts if (state, letter, later) in machine.arcs)
+                for later in machine.states}
+        return sum(counts[state] for state in machine.lasts)
+
+    def test_more_rows_than_are_kept(self):
+        told = random.Random(5)
+        with mock.patch.object(tracks, "MAX_NODES", 3):
+            for machine in drawn_machines(2, (2, 3, 5)):
+                cases = [(text, ways_along(machine, text)) for text in texts_up_to("ab", 4)] * 2
+                told.shuffle(cases)
+                for text, ways in cases:
+                    self.check(machine, text, ways)
+        # Each text leads to other rows than all shorter ones.
+        texts = ["b" + "a" * many for many in range(tracks.MAX_NODES + 100)]
+        for text in [*texts, *texts[:5], texts[-1] + "b"]:
+            self.assertEqual(row_of(BLOCK, 200, text), (0, min(text.count("a"), 201), -1) if text[-1] == "a" or text == "b"
+                else (0, 0, 201), len(text))
 
 
 class LongTextsTest(unittest.TestCase):

@@ -6,7 +6,7 @@ from lastprices.base.machines import Machine
 from lastprices.errors import InvalidMachine, InvalidNumber, InvalidOperation, InvalidRow, InvalidText, TooMany
 from lastprices.rows import tables
 from lastprices.rows.tables import Table, first_row, is_row, next_row, price_in, row_of
-from tests.force import least_price, some_machines, texts_up_to, ways_along
+from tests.force import drawn_machines, least_price, some_machines, texts_up_to, ways_along
 from tests.values import (BLOCK, COUNT, NAMES_24, NO_LETTERS, NO_MACHINES, NO_NUMBERS, NO_STRINGS, NO_TEXTS, check_judge,
     check_refused, shown, told_of)
 
@@ -35,6 +35,32 @@ def many_rows(dear, dead):
             if letter != own or at < dear:
                 arcs[NAMES_24[at], letter, NAMES_24[at]] = int(letter == own)
     return Machine(NAMES_24[:dear + dead], NAMES_24[:dear + dead], arcs)
+
+
+def memory(many):
+    """A machine with so many states that remembers where in the last letters `a` stood."""
+    names = ["n" + letter for letter in "abcdefghijklmnopqrstuvwx"[:many]]
+    arcs = {("na", "a", "na"): 0, ("na", "b", "na"): 0, ("na", "a", "nb"): 0}
+    for one, other in zip(names[1:], names[2:]):
+        arcs[one, "a", other] = arcs[one, "b", other] = 0
+    return Machine(("na",), ("na",), arcs)
+
+
+def table_by_steps(machine, cap):
+    """A dict from all rows to the first ones of the shortest texts to them, and one of all steps, by plain steps."""
+    arcs = machine.arcs
+    start = tuple(0 if state in machine.firsts else -1 for state in machine.states)
+    texts, steps, waiting = {start: ""}, {}, [start]
+    for row in waiting:
+        for letter in machine.letters:
+            prices = [min([row[at] + arcs[one, letter, other] for at, one in enumerate(machine.states)
+                if row[at] >= 0 and (one, letter, other) in arcs], default=-1) for other in machine.states]
+            later = tuple(min(price, cap + 1) for price in prices)
+            steps[row, letter] = later
+            if later not in texts:
+                texts[later] = texts[row] + letter
+                waiting.append(later)
+    return texts, steps
 
 
 def told(table):
@@ -182,6 +208,54 @@ class TableTest(unittest.TestCase):
         for cap in (24, 200):
             with self.assertRaises(TooMany):
                 Table(machine, cap)
+
+    def test_many_rows_of_memories(self):
+        machine = memory(15)
+        table = Table(machine, 1)
+        self.assertEqual([str(table), table.wrong, table.is_good], ["table of 16384 rows up to 1, 0 wrong", (), True])
+        # Any set of the letters that are remembered can come about.
+        rows = tuple((0,) + tuple(-(number >> (13 - at) & 1) for at in range(14)) for number in range(2 ** 14))
+        self.assertEqual(table.rows, tuple(sorted(rows)))
+        self.assertEqual(list(table), list(table.rows))
+        texts, steps = table_by_steps(machine, 1)
+        self.assertEqual(len(texts), 16384)
+        for row in table.rows[::37]:
+            self.assertIs(row in table, True)
+            self.assertEqual(table.text_to(row), texts[row])
+            self.assertEqual([table.after(row, letter) for letter in "ab"], [steps[row, letter] for letter in "ab"])
+        for row in ((-1,) * 15, (1,) + (-1,) * 14, (0,) * 14 + (1,), (0,) * 16, (0,) * 14):
+            self.assertIs(row in table, False)
+
+    def test_too_many_rows_of_memories(self):
+        for many in (16, 17, 24):
+            for cap in (0, 1, 200):
+                with self.assertRaises(TooMany) as caught:
+                    Table(memory(many), cap)
+                self.assertEqual(caught.exception.limit, 20000)
+        self.assertEqual(len(Table(memory(14), 200)), 8192)
+
+    def test_against_plain_steps(self):
+        for machine in drawn_machines(25, (1, 2, 3, 4)) + drawn_machines(6, (3, 4), "acz"):
+            for cap in range(7):
+                texts, steps = table_by_steps(machine, cap)
+                if len(texts) > 1000:
+                    continue
+                table = Table(machine, cap)
+                self.assertEqual([table.rows, len(table), list(table)], [tuple(sorted(texts)), len(texts), sorted(texts)])
+                prices = {row: min([price for state, price in zip(machine.states, row) if state in machine.lasts and price >= 0],
+                    default=None) for row in texts}
+                self.assertEqual(table.wrong, tuple(row for row in sorted(texts) if prices[row] == cap + 1))
+                self.assertIs(table.is_good, cap + 1 not in prices.values())
+                self.assertEqual([str(table), table.start], [f"table of {len(texts)} rows up to {cap}, {len(table.wrong)} wrong",
+                    first_row(machine, cap)])
+                for row in texts:
+                    self.assertIs(row in table, True)
+                    self.assertEqual(table.text_to(row), texts[row], (machine.lines, cap, row))
+                    for letter in machine.letters:
+                        self.assertEqual(table.after(row, letter), steps[row, letter])
+                for row in list(texts)[:20]:
+                    for other in ((cap + 2,) + row[1:], (-2,) + row[1:], row + (0,), row[1:], list(row), (True,) + row[1:]):
+                        self.assertIs(other in table, False, other)
 
     def test_equality(self):
         table = Table(COUNT, 1)

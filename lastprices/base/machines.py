@@ -23,7 +23,7 @@ def is_arcs(value):
         return False
     # The same names and letters stand in many arcs.
     names = set([name for state, _, later in value for name in (state, later)])
-    letters = set([letter for _, letter, _ in value])
+    letters = set([place[1] for place in value])
     if not all([is_name(name) for name in sorted(names)]) or not all([is_letter(letter) for letter in sorted(letters)]):
         return False
     return all([is_price(value[place]) for place in value])

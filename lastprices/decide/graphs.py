@@ -10,8 +10,8 @@ def useful_arcs(machine):
         for state, later, price in machine.moves(letter)]
     firsts = [number for number, state in enumerate(machine.states) if state in machine.firsts]
     lasts = [number for number, state in enumerate(machine.states) if state in machine.lasts]
-    ahead = reached_from(firsts, _graph_of([(state, later) for state, _, later, _ in arcs]))
-    behind = reached_from(lasts, _graph_of([(later, state) for state, _, later, _ in arcs]))
+    ahead = reached_from(firsts, _graph_of([(arc[0], arc[2]) for arc in arcs]))
+    behind = reached_from(lasts, _graph_of([(arc[2], arc[0]) for arc in arcs]))
     return [arc for arc in arcs if arc[0] in ahead and arc[2] in behind]
 
 

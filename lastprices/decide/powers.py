@@ -6,7 +6,7 @@ from lastprices.base.words import is_text
 from lastprices.decide.papers import is_limited, last_price
 from lastprices.errors import InvalidText
 from lastprices.read.combined import pieces
-from lastprices.read.prices import MAX_LENGTH, cheapest
+from lastprices.read.prices import MAX_LENGTH, cheapest, price_of
 
 
 def has_finite_power(machine):
@@ -45,7 +45,7 @@ def least_pieces(machine, text):
     """The least number of pieces that put a text together, None if there is none."""
     check_machine(machine)
     check_text(text)
-    return pieces(machine)(text)
+    return price_of(pieces(machine), text)
 
 
 def splits_of(machine, text):

@@ -88,7 +88,7 @@ def is_two_runs(machine, value):
 def _dear_ring(machine):
     """A dear ring with as few letters in all as possible, None if there is none."""
     arcs = useful_arcs(machine)
-    if not any([price > 0 for _, _, _, price in arcs]):
+    if not any([arc[3] > 0 for arc in arcs]):
         return None
     ahead, behind, around = {}, {}, {}
     for state, letter, later, price in arcs:

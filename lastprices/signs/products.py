@@ -8,18 +8,18 @@ greater one of two signs has those that both have.
 SIGNS = "01n."
 
 # From the numbers of signs to figures, and back.
-FIGURES = {48: "7", 49: "6", 110: "4", 46: "0"}
-WRITTEN = {55: "0", 54: "1", 52: "n", 48: "."}
+TO_FIGURES = {48: "7", 49: "6", 110: "4", 46: "0"}
+TO_SIGNS = {55: "0", 54: "1", 52: "n", 48: "."}
 
 
 def row_number(row):
     """The number of a row of signs."""
-    return int(row.translate(FIGURES), 8)
+    return int(row.translate(TO_FIGURES), 8)
 
 
 def written_row(number, many):
     """The row of so many signs with a number."""
-    return f"{number:o}".zfill(many).translate(WRITTEN)
+    return f"{number:o}".zfill(many).translate(TO_SIGNS)
 
 
 def masks_for(many):

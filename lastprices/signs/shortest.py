@@ -54,7 +54,7 @@ class Shortest:
         number = len(self._rows)
         self._rows.append(rows)
         self._lengths.append(length)
-        self._texts.append(self._text(length, origin))
+        self._texts.append(self._text_for(length, origin))
         if is_stable_square(rows):
             # Three more signs stand around what is repeated.
             self._offer(length + 3, (NONE, number, ""), repeat_of(rows))
@@ -70,7 +70,7 @@ class Shortest:
         length = self._lengths[number] + self._lengths[item]
         self._offer(length, (number, item, ""), self._items[item].behind(self._rows[number]))
 
-    def _text(self, length, origin):
+    def _text_for(self, length, origin):
         """The text of a pattern, empty if it is too long for one."""
         if length > MAX_SIGNS:
             return ""

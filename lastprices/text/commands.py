@@ -8,6 +8,7 @@ from lastprices.decide.dear import dear_text, prices_of
 from lastprices.decide.papers import growing_pattern, is_paper, worst_text
 from lastprices.decide.powers import power, split
 from lastprices.decide.rings import run_bound
+from lastprices.read.prices import price_of
 from lastprices.rows.tables import row_of
 from lastprices.signs.patterns import is_pattern
 from lastprices.signs.squares import Square
@@ -161,7 +162,7 @@ def _grows(bench, rest):
 def _price(bench, rest):
     """The price of a text."""
     text = _text_read(rest)
-    return None if text is None else _written_number(bench.machine(text))
+    return None if text is None else _written_number(price_of(bench.machine, text))
 
 
 def _split(bench, rest):
