@@ -4,7 +4,7 @@ from lastprices.base.lines import lines_of, told_by_lines
 from lastprices.base.making import backwards, chosen, greatest_sum, linked, named_arcs, named_ends, summed
 from lastprices.base.parts import is_ends, is_place, is_triple, letters_of, states_of
 from lastprices.base.tracks import Track
-from lastprices.base.ways import bits_of, images_of, moves_of, numbers_of, set_along, start_of
+from lastprices.base.ways import images_of, moves_of, numbers_of, set_along, set_of, start_of
 from lastprices.base.words import is_letter, is_name, is_text
 from lastprices.errors import InvalidMachine, InvalidOperation, InvalidText, TooMany, UnknownName
 
@@ -70,8 +70,10 @@ class Machine:
         self._letters = letters_of(arcs)
         self._lines = lines_of(firsts, lasts, self._arcs)
         self._images = images_of(self._states, self._letters, self._arcs)
-        self._begin = bits_of(self, firsts)
-        self._end = bits_of(self, lasts)
+        self._first_numbers = numbers_of(self._states, firsts)
+        self._last_numbers = numbers_of(self._states, lasts)
+        self._first_set = set_of(self._first_numbers)
+        self._last_set = set_of(self._last_numbers)
         # Both are made when they are needed.
         self._moves = None
         self._track = None
@@ -125,6 +127,22 @@ class Machine:
         laters = [later for later in self._states if (state, letter, later) in self._arcs]
         return tuple([(later, self._arcs[state, letter, later]) for later in laters])
 
+    def first_numbers(self):
+        """The tuple of the numbers of the first states, in the order of all states."""
+        return self._first_numbers
+
+    def last_numbers(self):
+        """The tuple of the numbers of the last states, in the order of all states."""
+        return self._last_numbers
+
+    def first_set(self):
+        """The set of the first states, with a bit for each of their numbers."""
+        return self._first_set
+
+    def last_set(self):
+        """The set of the last states, with a bit for each of their numbers."""
+        return self._last_set
+
     def price_at(self, place):
         """The price of the arc at a place, None if there is none; the place has three strings."""
         return self._arcs.get(place)
@@ -142,7 +160,7 @@ class Machine:
     def new_track(self):
         """A track of the rows to which texts lead, of which nothing is known as yet."""
         moves = {letter: self.moves(letter) for letter in self._letters}
-        return Track(moves, start_of(self), numbers_of(self, self._lasts))
+        return Track(moves, start_of(self), self._last_numbers)
 
     def track(self):
         """What is known of the rows to which texts lead."""
@@ -223,7 +241,7 @@ class Machine:
         return self.track().price_along(text)
 
     def __contains__(self, x):
-        return is_text(x) and set_along(self._images, self._begin, x) & self._end != 0
+        return is_text(x) and set_along(self._images, self._first_set, x) & self._last_set != 0
 
     def __len__(self):
         return len(self._states)

@@ -9,9 +9,9 @@ the price. What is called `machine` here is read only, so that machines themselv
 SHORT = 64
 
 
-def numbers_of(machine, states):
-    """The list of the numbers of some states in the order of all states of a machine."""
-    return [number for number, state in enumerate(machine.states) if state in states]
+def numbers_of(states, some):
+    """The tuple of the numbers of some states in the order of all of them."""
+    return tuple([number for number, state in enumerate(states) if state in some])
 
 
 def moves_of(states, arcs):
@@ -23,16 +23,13 @@ def moves_of(states, arcs):
     return {letter: tuple(moves[letter]) for letter in sorted(moves)}
 
 
-def bits_of(machine, states):
-    """The set of some states of a machine."""
-    return sum([1 << number for number in numbers_of(machine, states)])
+def set_of(numbers):
+    """The set of the states with some numbers: an integer with a bit for each of them."""
+    return sum([1 << number for number in numbers])
 
 
 def images_of(states, letters, arcs):
-    """A dict from letters to the tuples of their images, which are pairs of the bit of a state and of the set after it.
-
-    A set of states is an integer, with a bit for the number of each of them.
-    """
+    """A dict from letters to the tuples of their images: pairs of the bit of a state and of the set after it."""
     bits = {state: 1 << number for number, state in enumerate(states)}
     sets = {}
     for state, letter, later in arcs:

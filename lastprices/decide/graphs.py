@@ -8,10 +8,8 @@ def useful_arcs(machine):
     """The list of the arcs through which runs go: number of the state, letter, number of the next state, price."""
     arcs = [(state, letter, later, price) for letter in machine.letters
         for state, later, price in machine.moves(letter)]
-    firsts = [number for number, state in enumerate(machine.states) if state in machine.firsts]
-    lasts = [number for number, state in enumerate(machine.states) if state in machine.lasts]
-    ahead = reached_from(firsts, _graph_of([(arc[0], arc[2]) for arc in arcs]))
-    behind = reached_from(lasts, _graph_of([(arc[2], arc[0]) for arc in arcs]))
+    ahead = reached_from(machine.first_numbers(), _graph_of([(arc[0], arc[2]) for arc in arcs]))
+    behind = reached_from(machine.last_numbers(), _graph_of([(arc[2], arc[0]) for arc in arcs]))
     return [arc for arc in arcs if arc[0] in ahead and arc[2] in behind]
 
 

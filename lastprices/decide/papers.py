@@ -72,7 +72,7 @@ def rows_from(machine, cap, rows):
     """The ascending tuple of some rows, and of all to which letters lead from these."""
     check_machine(machine)
     check_number(cap, MAX_CAP)
-    codes = Codes([machine], cap)
+    codes = Codes([machine], cap, True)
     starts = _codes_of(codes, rows)
     if starts is None:
         raise InvalidRow("these are no rows")
@@ -93,7 +93,7 @@ def _is_enough(machine, cap, rows):
     """Whether a number and rows are those of a paper of the first form."""
     if not is_count(cap) or cap > MAX_CAP:
         return False
-    codes = Codes([machine], cap)
+    codes = Codes([machine], cap, True)
     found = _codes_of(codes, rows)
     if found is None or not all([one < other for one, other in zip(rows, rows[1:])]):
         return False

@@ -1,7 +1,7 @@
 """Finite powers: how many pieces are enough for all texts that are put together of pieces."""
 
 from lastprices.base.checks import check_machine, check_text
-from lastprices.base.ways import bits_of, set_after
+from lastprices.base.ways import set_after
 from lastprices.base.words import is_text
 from lastprices.decide.papers import is_limited, last_price
 from lastprices.errors import InvalidText
@@ -74,13 +74,12 @@ def _piece_ends(machine, text):
     check_machine(machine)
     if not is_text(text) or len(text) > MAX_LENGTH:
         raise InvalidText("this is no text of at most 200 letters")
-    firsts = bits_of(machine, machine.firsts)
-    lasts = bits_of(machine, machine.lasts)
+    lasts = machine.last_set()
     known = {}
     ends = []
     for begin in range(len(text)):
         ends.append([])
-        states = firsts
+        states = machine.first_set()
         for at in range(begin, len(text)):
             place = (text[at], states)
             if place not in known:

@@ -1,7 +1,7 @@
 """All runs: what they cost at most, rings that make them dearer and dearer, and texts with several runs."""
 
 from lastprices.base.checks import check_machine
-from lastprices.base.ways import numbers_of, set_along
+from lastprices.base.ways import set_along
 from lastprices.base.words import is_text
 from lastprices.decide.graphs import reached_from, read_to, useful_arcs
 from lastprices.decide.twins import shortest_twins
@@ -14,7 +14,7 @@ def run_bound(machine):
     if _dear_ring(machine) is not None:
         return None
     bests, _ = _dearest_ways(machine)
-    return max([bests[state] for state in numbers_of(machine, machine.firsts) if state in bests], default=0)
+    return max([bests[state] for state in machine.first_numbers() if state in bests], default=0)
 
 
 def dear_ring(machine):
@@ -30,12 +30,10 @@ def is_dear_ring(machine, value):
         return False
     many = len(machine)
     images = _priced_images(machine, value[1])
-    firsts = sum([1 << number for number in numbers_of(machine, machine.firsts)])
-    lasts = sum([1 << number for number in numbers_of(machine, machine.lasts)])
-    begins = machine.led(firsts, value[0])
+    begins = machine.led(machine.first_set(), value[0])
     for state in range(many):
         if begins >> state & 1 and set_along(images, 1 << state, value[1]) >> many + state & 1:
-            if machine.led(1 << state, value[2]) & lasts:
+            if machine.led(1 << state, value[2]) & machine.last_set():
                 return True
     return False
 
@@ -46,7 +44,7 @@ def dearest_run(machine):
     if _dear_ring(machine) is not None:
         return None
     bests, steps = _dearest_ways(machine)
-    firsts = [state for state in numbers_of(machine, machine.firsts) if state in bests]
+    firsts = [state for state in machine.first_numbers() if state in bests]
     if len(firsts) == 0:
         return None
     run = [max(firsts, key=lambda state: bests[state])]
@@ -97,8 +95,8 @@ def _dear_ring(machine):
         # On the way round a ring it is told with each state whether anything was paid.
         around.setdefault((state, True), []).append(((later, True), letter))
         around.setdefault((state, False), []).append(((later, price > 0), letter))
-    begins = reached_from(numbers_of(machine, machine.firsts), ahead)
-    ends = reached_from(numbers_of(machine, machine.lasts), behind)
+    begins = reached_from(machine.first_numbers(), ahead)
+    ends = reached_from(machine.last_numbers(), behind)
     best = None
     for state in sorted(ahead):
         ring = reached_from([(state, False)], around)
@@ -116,7 +114,7 @@ def _dearest_ways(machine):
     Steps are pairs of a letter and of a next state, None where nothing is gained by going on.
     """
     arcs = useful_arcs(machine)
-    lasts = numbers_of(machine, machine.lasts)
+    lasts = machine.last_numbers()
     bests = {state: 0 for state in lasts}
     steps = {state: None for state in lasts}
     changed = True

@@ -4,7 +4,6 @@ A node is a triple of the numbers of two states, to which ways along the same te
 different. As long as they are not, both states are the same.
 """
 
-from lastprices.base.ways import numbers_of
 from lastprices.decide.graphs import useful_arcs
 
 
@@ -25,8 +24,8 @@ class Twins:
     """The nodes that are reached in a machine, those with the shortest texts first."""
 
     def __init__(self, machine):
-        self._firsts = numbers_of(machine, machine.firsts)
-        self._lasts = numbers_of(machine, machine.lasts)
+        self._firsts = machine.first_numbers()
+        self._lasts = machine.last_numbers()
         # By letters and states: the lists of the next states, and their sets with a bit for each.
         self._laters = {}
         for state, letter, later, _ in useful_arcs(machine):

@@ -1,7 +1,7 @@
 """Prices, runs and numbers of texts."""
 
 from lastprices.base.checks import check_machine, check_number, check_text
-from lastprices.base.ways import SHORT, bits_of, numbers_of
+from lastprices.base.ways import SHORT
 from lastprices.errors import InvalidOperation, NotTaken
 from lastprices.read.subsets import numbered_sets, useful_sets
 
@@ -32,7 +32,7 @@ def runs_of(machine, text):
             for before, after, _ in machine.moves(letter):
                 later[after] += counts[before]
             counts = later
-    return sum([counts[number] for number in numbers_of(machine, machine.lasts)])
+    return sum([counts[number] for number in machine.last_numbers()])
 
 
 def cheapest(machine, text):
@@ -42,7 +42,7 @@ def cheapest(machine, text):
     end = steps[-1][0]
     if end.least is None:
         raise NotTaken(text)
-    ends = [number for number in numbers_of(machine, machine.lasts) if end.row[number] == end.least]
+    ends = [number for number in machine.last_numbers() if end.row[number] == end.least]
     run = [ends[0]]
     for at in reversed(range(len(text))):
         later, fall = steps[at + 1]
@@ -75,7 +75,7 @@ def count_taken(machine, length):
     check_machine(machine)
     check_number(length, MAX_LENGTH)
     sets, afters = numbered_sets(machine)
-    lasts = bits_of(machine, machine.lasts)
+    lasts = machine.last_set()
     # For each set the number of the texts, as yet without letters, that lead from it to a last state.
     counts = [1 if bits & lasts else 0 for bits in sets]
     for _ in range(length):

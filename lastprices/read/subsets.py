@@ -3,7 +3,7 @@
 A set is an integer that has a bit for each state, in ascending order from the lowest bit on.
 """
 
-from lastprices.base.ways import bits_of, set_after
+from lastprices.base.ways import set_after
 from lastprices.base.words import LETTERS
 from lastprices.errors import TooMany
 
@@ -17,7 +17,7 @@ def numbered_sets(machine):
     the letters.
     """
     images = [machine.images(letter) for letter in machine.letters]
-    sets = [bits_of(machine, machine.firsts)]
+    sets = [machine.first_set()]
     # A letter that no arc has is a letter all the same, and leads to the empty set.
     if len(machine.letters) < len(LETTERS):
         sets.append(0)
@@ -39,7 +39,7 @@ def useful_sets(machine, length):
     """The list of the sets of states from which some text with 0, 1, .. and `length` letters leads to a last state."""
     turned = ~machine
     images = [turned.images(letter) for letter in turned.letters]
-    useful = [bits_of(machine, machine.lasts)]
+    useful = [machine.last_set()]
     while len(useful) <= length:
         bits = 0
         for pairs in images:

@@ -1,12 +1,11 @@
 """Rows as integers, and where letters lead from them.
 
-The code of a row has a field for each state, that of the first state highest, of two bits more than the cap. For a
-price p the bits from p on are set in the field, counted from its lowest one, and for -1 none. So the field of the least
-of several prices is the `or` of their fields, and where letters lead from a row is the `or` of where they lead from its
-parts. There are three parts, each of some states beside each other. Parts come again far more often than rows.
+The code of a row has a field for each state, that of the first state highest, of one bit more than the greatest number.
+For a price p the bits from p on are set in the field, counted from its lowest one, and for -1 none. So the field of the
+least of several prices is the `or` of their fields, and where letters lead from a row is the `or` of where they lead
+from its parts. There are three parts, each of some states beside each other. Parts come again far more often than rows.
 """
 
-from lastprices.base.ways import numbers_of
 from lastprices.base.words import is_integer
 
 # Fewer rows than that are brought in order one by one.
@@ -16,46 +15,49 @@ FEW = 40
 class Codes:
     """The codes of the rows of one machine, or of the pairs of rows of two machines, capped."""
 
-    def __init__(self, machines, cap):
+    def __init__(self, machines, cap, every=False):
         self.most = cap
-        letters = [letter for machine in machines for letter in machine.letters]
-        self.alphabet = tuple(sorted(set(letters)))
-        self._width = cap + 2
+        # The greatest number: where no arc costs anything, texts lead to no other than 0, though there are other rows.
+        self._top = cap + 1 if every else 0
+        letters = [machine.letters for machine in machines]
+        self.alphabet = letters[0] if len(letters) == 1 else tuple(sorted(set([*letters[0], *letters[1]])))
+        # By the numbers of states: the arcs that lead from them.
+        self._leaving = []
+        for machine in machines:
+            self._fill(machine)
+        self._many = len(self._leaving)
+        self._width = self._top + 1
         self._field = (1 << self._width) - 1
-        self._many = sum([len(machine) for machine in machines])
         # How many bits stand below the field of each state.
-        self._places = [below * self._width for below in reversed(range(self._many))]
-        self._leaving = [[] for _ in range(self._many)]
-        self._lasts = []
+        self._places = list(range((self._many - 1) * self._width, -1, -self._width))
         self.first_code = 0
+        # By the numbers of machines: the places of their last states.
+        self._lasts = []
         begin = 0
         for machine in machines:
-            self._fill(machine, begin)
+            for state in machine.first_numbers():
+                self.first_code |= self._field << self._places[begin + state]
+            self._lasts.append([self._places[begin + state] for state in machine.last_numbers()])
             begin += len(machine)
         # By codes of which all is -1 but one field, or one part: the lists of the codes to which the letters lead.
         self._singles = {}
         nowhere = [0] * len(self.alphabet)
         self.thirds = ({0: nowhere}, {0: nowhere}, {0: nowhere})
+        # The bits of the three parts.
+        high = 1 << self._many * self._width
+        middle = 1 << (self._many - self._many // 3) * self._width
+        low = 1 << (self._many + 2) // 3 * self._width
+        self.masks = (high - middle, middle - low, low - 1)
 
-    def _fill(self, machine, begin):
-        """Keeps the arcs and ends of a machine, whose states stand behind so many others."""
-        places = self._places[begin:begin + len(machine)]
+    def _fill(self, machine):
+        """Keeps the arcs of a machine, whose states stand behind those that are there."""
+        begin = len(self._leaving)
+        self._leaving.extend([[] for _ in range(len(machine))])
         for at, letter in enumerate(self.alphabet):
             for state, later, price in machine.moves(letter):
-                self._leaving[begin + state].append((at, places[later], price))
-        for state in numbers_of(machine, machine.firsts):
-            self.first_code |= self._field << places[state]
-        self._lasts.append([places[state] for state in numbers_of(machine, machine.lasts)])
-
-    def _mask(self, begin, end):
-        """The bits of all fields of the states from one number up to another one."""
-        return (1 << (self._many - begin) * self._width) - (1 << (self._many - end) * self._width)
-
-    def masks(self):
-        """The triple of the bits of the three parts."""
-        one = self._many // 3
-        two = (self._many - one) // 2 + one
-        return self._mask(0, one), self._mask(one, two), self._mask(two, self._many)
+                self._leaving[begin + state].append((at, begin + later, price))
+                if price > 0:
+                    self._top = self.most + 1
 
     def filled(self, part, code):
         """The list of the codes to which the letters lead from a code of which all but one part is -1, kept there."""
@@ -82,16 +84,16 @@ class Codes:
         """The list of the codes to which the letters lead from a code of which all but one field is -1."""
         below, price = divmod((code & -code).bit_length() - 1, self._width)
         laters = [0] * len(self.alphabet)
-        top = self.most + 1
-        for at, place, cost in self._leaving[self._many - 1 - below]:
+        top = self._top
+        for at, later, cost in self._leaving[self._many - 1 - below]:
             least = price + cost if price + cost < top else top
-            laters[at] |= self._field >> least << least + place
+            laters[at] |= self._field >> least << least + self._places[later]
         return laters
 
     def laters(self, code):
         """The list of the codes to which the letters lead from a code."""
         laters = [0] * len(self.alphabet)
-        for part, mask in zip(self.thirds, self.masks()):
+        for part, mask in zip(self.thirds, self.masks):
             found = part.get(code & mask)
             if found is None:
                 found = self.filled(part, code & mask)
@@ -99,13 +101,13 @@ class Codes:
         return laters
 
     def code_of(self, value):
-        """The code of a row, None if the value is none."""
+        """The code of a row, None if the value is none, or has greater numbers than are told here."""
         if not isinstance(value, tuple) or len(value) != self._many:
             return None
         code = 0
         for price in value:
             # True is no 1 here.
-            if not is_integer(price) or price < -1 or price > self.most + 1:
+            if not is_integer(price) or price < -1 or price > self._top:
                 return None
             code = code << self._width
             if price >= 0:
@@ -127,26 +129,32 @@ class Codes:
         return (field & -field).bit_length() - 1
 
     def wrong_ones(self, codes):
-        """The list of those of some codes whose price is greater than the cap."""
-        tops = sum([1 << place + self.most + 1 for place in self._lasts[0]])
-        lower = sum([(self._field >> 1) << place for place in self._lasts[0]])
-        return [code for code in codes if code & tops and not code & lower]
+        """A dict of those of some codes whose price is greater than the cap."""
+        if self._top <= self.most:
+            return {}
+        tops = 0
+        lower = 0
+        for place in self._lasts[0]:
+            tops |= 1 << place + self._top
+            lower |= self._field >> 1 << place
+        return {code: True for code in codes if code & tops and not code & lower}
 
     def rows_of(self, codes):
-        """The ascending tuple of the rows of different codes."""
+        """The ascending tuple of the rows of the codes in a dict."""
         if len(codes) < FEW or self._many < 3:
             return tuple(sorted([self.row_from(code) for code in codes]))
-        # Rows are put together of halves, which are fewer, and of which only the ranks of the second ones are sorted.
+        # Rows are put together of halves, which are fewer.
         split = (self._many + 1) // 2
-        mask = self._mask(split, self._many)
-        groups = {}
+        mask = (1 << (self._many - split) * self._width) - 1
+        heads = sorted([(self.row_from(high)[:split], high) for high in {code & ~mask: True for code in codes}])
+        tails = sorted([(self.row_from(low)[split:], low) for low in {code & mask: True for code in codes}])
+        if len(heads) * len(tails) <= 2 * len(codes):
+            return tuple([head + tail for head, high in heads for tail, low in tails if high | low in codes])
+        # Where most halves do not stand beside each other, the second ones are sorted by their ranks.
+        groups = {high: [] for _, high in heads}
+        ranks = {low: rank for rank, (_, low) in enumerate(tails)}
         for code in codes:
             low = code & mask
-            groups.setdefault(code ^ low, []).append(low)
-        tails = sorted([(self.row_from(low)[split:], low) for low in {code & mask: True for code in codes}])
-        ranks = {low: rank for rank, (_, low) in enumerate(tails)}
-        ends = [end for end, _ in tails]
-        rows = []
-        for head, high in sorted([(self.row_from(high)[:split], high) for high in groups]):
-            rows.extend([head + ends[rank] for rank in sorted([ranks[low] for low in groups[high]])])
-        return tuple(rows)
+            groups[code ^ low].append(ranks[low])
+        ends = [tail for tail, _ in tails]
+        return tuple([head + ends[rank] for head, high in heads for rank in sorted(groups[high])])

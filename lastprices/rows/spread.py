@@ -26,7 +26,7 @@ class Spread:
     def _grow(self, limit, once):
         """Goes on with one layer or all: TooMany if there are more codes in all than a limit."""
         befores = self.befores
-        high, middle, low = self.codes.masks()
+        high, middle, low = self.codes.masks
         highs, middles, lows = self.codes.thirds
         while self.layer:
             found = []

@@ -1,7 +1,7 @@
 """Rows of machines up to a cap, and the tables of all rows to which texts lead."""
 
 from lastprices.base.checks import check_letter, check_machine, check_number, check_text
-from lastprices.base.ways import least_of, numbers_of, row_after, start_of
+from lastprices.base.ways import least_of, row_after, start_of
 from lastprices.base.words import is_integer
 from lastprices.errors import InvalidOperation, InvalidRow, InvalidText
 from lastprices.rows.codes import Codes
@@ -41,7 +41,7 @@ def row_of(machine, cap, text):
 def price_in(machine, cap, row):
     """The price in a row, one more than the cap if it is wrong, None if there is none."""
     _check_row(machine, cap, row)
-    return least_of(row, numbers_of(machine, machine.lasts))
+    return least_of(row, machine.last_numbers())
 
 
 class Table:
@@ -51,12 +51,12 @@ class Table:
         _check(machine, cap)
         self._machine = machine
         self._cap = cap
-        self._start = start_of(machine)
         self._codes = Codes([machine], cap)
         self._spread = Spread(self._codes, [self._codes.first_code])
         self._spread.grow_fully()
         self._rows = self._codes.rows_of(self._spread.befores)
-        self._wrong = self._codes.rows_of(self._codes.wrong_ones(self._spread.befores))
+        wrong = self._codes.wrong_ones(self._spread.befores)
+        self._wrong = self._codes.rows_of(wrong) if wrong else ()
 
     @property
     def machine(self):
@@ -86,7 +86,7 @@ class Table:
     @property
     def start(self):
         """The first row."""
-        return self._start
+        return start_of(self._machine)
 
     def after(self, row, letter):
         """The row to which a letter leads from a row of the table."""

@@ -2,7 +2,6 @@
 
 from lastprices.base.checks import check_machine
 from lastprices.base.machines import MAX_STATES
-from lastprices.base.ways import numbers_of
 from lastprices.base.words import is_count
 from lastprices.errors import InvalidNumber, InvalidOperation
 
@@ -31,5 +30,4 @@ def entries_between(rows, machine):
     """The list of the entries of rows from the first states to the last states of a machine."""
     check_machine(machine)
     check_size(len(machine), len(rows))
-    lasts = numbers_of(machine, machine.lasts)
-    return [rows[first][last] for first in numbers_of(machine, machine.firsts) for last in lasts]
+    return [rows[first][last] for first in machine.first_numbers() for last in machine.last_numbers()]

@@ -1,7 +1,6 @@
 """Webs: all squares that the letters of a machine make."""
 
 from lastprices.base.checks import check_machine
-from lastprices.base.ways import numbers_of
 from lastprices.errors import InvalidOperation, TooMany
 from lastprices.signs.closure import Closure
 from lastprices.signs.shortest import Shortest
@@ -37,11 +36,10 @@ def in_order(squares):
 
 def growing_ones(machine, squares):
     """The tuple of those of some squares whose least sign from a first to a last state of a machine is `n`."""
-    firsts = numbers_of(machine, machine.firsts)
-    lasts = numbers_of(machine, machine.lasts)
+    places = [(first, last) for first in machine.first_numbers() for last in machine.last_numbers()]
     growing = []
     for rows in squares:
-        signs = "".join([rows[first][last] for first in firsts for last in lasts])
+        signs = "".join([rows[first][last] for first, last in places])
         if "n" in signs and "0" not in signs and "1" not in signs:
             growing.append(rows)
     return tuple(growing)
