@@ -35,7 +35,7 @@ def images_of(states, letters, arcs):
     for state, letter, later in arcs:
         place = (letter, bits[state])
         sets[place] = sets.get(place, 0) | bits[later]
-    return {letter: tuple([(place[1], sets[place]) for place in sets if place[0] == letter]) for letter in letters}
+    return {letter: tuple([(pair[1], sets[pair]) for pair in sets if pair[0] == letter]) for letter in letters}
 
 
 def set_after(images, bits):

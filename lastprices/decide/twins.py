@@ -4,6 +4,7 @@ A node is a triple of the numbers of two states, to which ways along the same te
 different. As long as they are not, both states are the same.
 """
 
+from lastprices.base.ways import set_of
 from lastprices.decide.graphs import useful_arcs
 
 
@@ -30,7 +31,7 @@ class Twins:
         self._laters = {}
         for state, letter, later, _ in useful_arcs(machine):
             self._laters.setdefault((letter, state), []).append(later)
-        self._sets = {place: sum([1 << later for later in self._laters[place]]) for place in self._laters}
+        self._sets = {place: set_of(self._laters[place]) for place in self._laters}
         self._letters = machine.letters
         self._befores = {}
         # For each first state of a node with different ways the set of the second ones that were reached.

@@ -44,13 +44,17 @@ def cheapest(machine, text):
         raise NotTaken(text)
     ends = [number for number in machine.last_numbers() if end.row[number] == end.least]
     run = [ends[0]]
+    # By letters and states: the arcs that lead there.
+    sources = {}
     for at in reversed(range(len(text))):
         later, fall = steps[at + 1]
         row = steps[at][0].row
         state = run[-1]
         price = later.row[state] + fall
-        befores = [before for before, after, cost in machine.moves(text[at])
-            if after == state and row[before] >= 0 and row[before] + cost == price]
+        place = (text[at], state)
+        if place not in sources:
+            sources[place] = [(before, cost) for before, after, cost in machine.moves(text[at]) if after == state]
+        befores = [before for before, cost in sources[place] if row[before] >= 0 and row[before] + cost == price]
         run.append(befores[0])
     states = machine.states
     return tuple([states[number] for number in run[::-1]])

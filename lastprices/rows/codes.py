@@ -146,8 +146,10 @@ class Codes:
         # Rows are put together of halves, which are fewer.
         split = (self._many + 1) // 2
         mask = (1 << (self._many - split) * self._width) - 1
-        heads = sorted([(self.row_from(high)[:split], high) for high in {code & ~mask: True for code in codes}])
-        tails = sorted([(self.row_from(low)[split:], low) for low in {code & mask: True for code in codes}])
+        highs = {code & ~mask: True for code in codes}
+        lows = {code & mask: True for code in codes}
+        heads = sorted([(self.row_from(high)[:split], high) for high in highs])
+        tails = sorted([(self.row_from(low)[split:], low) for low in lows])
         if len(heads) * len(tails) <= 2 * len(codes):
             return tuple([head + tail for head, high in heads for tail, low in tails if high | low in codes])
         # Where most halves do not stand beside each other, the second ones are sorted by their ranks.
