@@ -163,6 +163,10 @@ class LimitedTest(unittest.TestCase):
                 with self.assertRaises(TooMany) as caught:
                     call(one, other)
                 self.assertEqual(caught.exception.limit, limit)
+        for one, other in ((wide, None), (dear, "first c"), (full, COUNT.lines), (None, wide)):
+            for call in (are_alike, are_ordered):
+                with self.assertRaises(InvalidMachine):
+                    call(one, other)
         # Each last price can be told, but there are too many pairs of rows for the greater one.
         fits = counting_chain(*[9] * 15, 4)
         self.assertIs(are_alike(fits, fits), True)

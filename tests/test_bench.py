@@ -29,7 +29,7 @@ NO_PLEDGES = [*NO_STRINGS, "limited", "most 1", ["limited"], ("limited", 1), ("l
     ("most", True), ("most", None), ("most", "1"), ("most", 1, 1), ["most", 1], ("costs", "a"), ("costs", "a", -1), ("costs", "a", True),
     ("costs", "a", "1"), ("costs", "A", 1), ("costs", None, None), ("costs", 1, 1), ("costs", "a", 10 ** 60), ("costs", "a", 1, 1),
     ("costs", "a" * 100001, None), ("power",), ("power", -1), ("power", 201), ("power", False), ("power", None), ("power", 1, 1),
-    ("ordered",), ("ordered", MARK), ("ordered", list(MARK.lines)), ("ordered", MARK.lines[1:]), ("ordered", MARK.lines[::-1]),
+    ("ordered",), ("order", MARK.lines), ("", MARK.lines), ("limited", MARK.lines), ("ordered", MARK), ("ordered", list(MARK.lines)), ("ordered", MARK.lines[1:]), ("ordered", MARK.lines[::-1]),
     ("ordered", MARK.lines, 1), ("ordered", ()), ("ordered", "first c"), ("ordered", (*MARK.lines, "x")), ("ordered", ("first c",)),
     ("ordered", (*MARK.lines, None)), ("ordered", None), ("ordered", ("first c", "last c", *[f"arc c a 0 {name}" for name in NAMES_24])),
     ("Limited",), ("limited ",), (None,), (("limited",),), {"limited": 1}]

@@ -220,6 +220,17 @@ class TooManyTest(unittest.TestCase):
                     with self.assertRaises(TooMany):
                         call()
 
+    def test_the_row_without_ways_counts_once(self):
+        # One row for each price, and the one to which `z` leads after whatever prices.
+        machine = COUNT.with_arc("x", "z", "x", 0)
+        with mock.patch.object(layers, "MAX_TABLE", 202):
+            self.assertEqual([len(prices_of(machine, 200)), dearest(machine, 200)], [201, "b" * 200])
+        with mock.patch.object(layers, "MAX_TABLE", 201):
+            for call in (prices_of, dearest):
+                self.assertEqual(len(call(machine, 199)), 200 if call is prices_of else 199)
+                with self.assertRaises(TooMany):
+                    call(machine, 200)
+
     def test_only_new_rows_count_for_dear_texts(self):
         # With n letters of these machines there are as many rows as n + 1 letters have places, all of them new.
         counts = Machine(NAMES_24[:2] + ("z",), ("z",), {**{(name, letter, name): int(at == "ab".index(letter))

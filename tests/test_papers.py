@@ -39,6 +39,18 @@ def counting_chain(*prices):
     return Machine((names[0], "x", "y"), names[-1:], arcs)
 
 
+def entering(least, last):
+    """A machine with few rows for caps below the least price of what is remembered, and very many from that one on.
+
+    It takes one text, for a price that is told.
+    """
+    arcs = {("qa", "a", "qa"): 0, ("qa", "b", "qa"): 0, ("qa", "a", "qb"): least, ("qa", "b", "qb"): least + 1}
+    for one, other in zip(NAMES_24[1:17], NAMES_24[2:17]):
+        arcs[one, "a", other] = arcs[one, "b", other] = 0
+    arcs["y", "c", "z"] = last
+    return Machine(("qa", "y"), ("z",), arcs)
+
+
 def is_limited_by_force(machine):
     """Whether no square of the web, found by force, grows."""
     return not any(min([rows[machine.states.index(one)][machine.states.index(other)] for one in machine.firsts
@@ -119,6 +131,30 @@ class LastPriceTest(unittest.TestCase):
                 with self.assertRaises(TooMany) as caught:
                     call(machine)
                 self.assertEqual(caught.exception.limit, 20000)
+
+    def test_too_many_rows_beyond_the_last_price(self):
+        for least in range(1, 8):
+            for last in range(10):
+                machine = entering(least, last)
+                self.assertIs(is_limited(machine), True)
+                if last < least:
+                    self.assertEqual([last_price(machine), worst_text(machine), paper(machine)[1]], [last, "c", last])
+                    self.assertIs(is_paper(machine, paper(machine)), True)
+                else:
+                    with self.assertRaises(TooMany) as caught:
+                        last_price(machine)
+                    self.assertEqual(caught.exception.limit, 20000)
+
+    def test_too_many_rows_for_the_greatest_cap_only(self):
+        arcs = chain(*[9] * 23).arcs
+        machine = Machine(NAMES_24[:1], NAMES_24[-1:], {**arcs, **{(one, "b", other): 8 for one, _, other in arcs}})
+        sizes = [len(Table(machine, cap)) for cap in (199, 200)]
+        self.assertLess(sizes[0], sizes[1])
+        for many, limit in ((sizes[0], 20000), (sizes[1], 200)):
+            with mock.patch.object(spread, "MAX_TABLE", many):
+                with self.assertRaises(TooMany) as caught:
+                    last_price(machine)
+            self.assertEqual(caught.exception.limit, limit)
 
     def test_just_as_many_rows_as_there_can_be(self):
         for machine in (MARK, counting_chain(3, 4, 2), free(BLOCK), chain(9, 9, 9)):
@@ -228,10 +264,24 @@ class PaperTest(unittest.TestCase):
             ("enough", "1", good), ("enough", 10 ** 99, good), ["enough", 1, good], ("enough", 1), ("enough",), ("enough", 1, good, 1),
             ("Enough", 1, good), ("enough ", 1, good), ("grows", 1, good), (True, 1, good), ("grows",), ("grows", "a"),
             ("grows", "(a)#"), ("grows", None), (1, good), good, "enough", "enough 1", {"enough": good}])
+        for word in ("grow", "Grows", "enough", "", None, 1, ("grows",)):
+            self.assertIs(is_paper(BLOCK, (word, "b(a)#b")), False)
         check_judge(self, lambda value: is_paper(MARK, value), [], [*NO_STRINGS, "", "grows a"])
         # Another cap has other numbers.
         self.assertIs(is_paper(COUNT, ("enough", 1, ((0,), (1,)))), False)
         self.assertIs(is_paper(COUNT, ("enough", 1, ((0,), (1,), (2,)))), False)
+
+    def test_rows_that_lead_to_very_many_others(self):
+        # Each letter makes one state dearer, so that nearly all rows behind these are new.
+        letters = "abcdefghijklmnopqrstuvwx"
+        machine = Machine(NAMES_24, NAMES_24, {(name, letter, name): int(name[1] == letter)
+            for name in NAMES_24 for letter in letters})
+        starts = [(0,) * 24, *[(0,) * at + (price, other) + (0,) * (22 - at) for at in range(23) for price in range(2, 40, 2)
+            for other in range(2, 6, 2)]]
+        self.assertGreater(len(starts) * 24, 20000)
+        self.assertIs(is_paper(machine, ("enough", 200, tuple(sorted(starts)))), False)
+        with self.assertRaises(TooMany):
+            rows_from(machine, 200, tuple(starts))
 
     def test_patterns(self):
         check_judge(self, lambda value: is_paper(DEAL, ("grows", value)), ["(b(a)#b(a)#)#", "(b(a)#b(a)#)#b"], [

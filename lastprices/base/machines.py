@@ -144,7 +144,7 @@ class Machine:
         return self._last_set
 
     def price_at(self, place):
-        """The price of the arc at a place, None if there is none; the place has three strings."""
+        """The price of the arc at a place, None if there is none; the place is a string, or a tuple of strings."""
         return self._arcs.get(place)
 
     def images(self, letter):

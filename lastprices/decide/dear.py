@@ -28,7 +28,8 @@ def prices_of(machine, length):
     """A dict from the prices of the taken texts with so many letters to the numbers of such texts."""
     _check(machine, length)
     found = {}
-    for node, spent in PlainLayers(machine).many_to(length)[-1].items():
+    layer, _ = PlainLayers(machine).spent_to(length)
+    for node, spent in layer.items():
         if node.least is not None:
             for price, many in spent.items():
                 found[price + node.least] = found.get(price + node.least, 0) + many
@@ -109,7 +110,7 @@ def dearest(machine, length):
     """The first text among the taken ones with so many letters that cost most, None if none is taken."""
     _check(machine, length)
     layers = PlainLayers(machine)
-    reached = layers.many_to(length)
+    _, reached = layers.spent_to(length)
     # By numbers of letters that are left: the greatest prices of what can still be read, None where nothing is taken.
     bests = [{node: node.least for node in reached[-1]}]
     for layer in reached[-2::-1]:

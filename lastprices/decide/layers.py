@@ -68,20 +68,25 @@ class PlainLayers:
         """The list of the pairs of a node and of a fall to which the letters lead from a node."""
         return [self._track.later(node, letter) for letter in self._letters]
 
-    def many_to(self, length):
-        """For each number of letters, up to `length`, a dict from its nodes to dicts from what was spent to numbers."""
-        layers = [{self.begin(): {0: 1}}]
+    def spent_to(self, length):
+        """A dict from the nodes of texts with so many letters to dicts from what was spent to how many texts spent it.
+
+        Beside it stand the lists of the nodes for each number of letters, up to `length`.
+        """
+        layer = {self.begin(): {0: 1}}
+        nodes = [list(layer)]
         for _ in range(length):
             found = {}
-            for node, spent in layers[-1].items():
+            for node, spent in layer.items():
                 for later, fall in self.after(node):
                     numbers = found.setdefault(later, {})
                     for price, many in spent.items():
                         price = price + fall if later != self._nowhere else 0
                         numbers[price] = numbers.get(price, 0) + many
             check_rows(sum([len(found[node]) for node in found]))
-            layers.append(found)
-        return layers
+            layer = found
+            nodes.append(list(found))
+        return layer, nodes
 
 
 def check_rows(many):

@@ -102,9 +102,8 @@ def _is_row(value):
 
 def _row_read(text):
     """The row of a string, None if there is none."""
-    words = text.split(" ")
-    prices = [-1 if word == "-" else number_read(word) for word in words]
-    return None if None in prices or not _is_row(tuple(prices)) else tuple(prices)
+    row = tuple([-1 if word == "-" else number_read(word) for word in text.split(" ")])
+    return row if _is_row(row) else None
 
 
 def _rows_read(cap, lines):

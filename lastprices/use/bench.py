@@ -103,7 +103,8 @@ class Bench:
     def erase(self, line):
         """Works on without the line of an arc."""
         told = told_by_line(line)
-        if told is None or isinstance(told[0], str) or self.stand.engine.price_at(told[0]) != told[1]:
+        # Where first or last states are told, there is no arc either.
+        if told is None or self.stand.engine.price_at(told[0]) != told[1]:
             raise UnknownName(line)
         state, letter, later = told[0]
         return self._turned_to(self.stand.engine.without_arc(state, letter, later))
