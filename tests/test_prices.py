@@ -250,6 +250,12 @@ class ManyTextsTest(unittest.TestCase):
                 told.shuffle(cases)
                 for text, ways in cases:
                     self.check(machine, text, ways)
+                    self.assertLessEqual(len(machine.track()._nodes), 3)
+                full = machine.with_ends(firsts=machine.states, lasts=machine.states)
+                texts = [text for text in texts_up_to("ab", 6) if price_of(full, text) is not None]
+                for call in (price_of, cheapest, Costs.of_text):
+                    call(full, texts[-1])
+                    self.assertLessEqual(len(full.track()._nodes), 3)
         # Each text leads to other rows than all shorter ones.
         texts = ["b" + "a" * many for many in range(tracks.MAX_NODES + 100)]
         for text in [*texts, *texts[:5], texts[-1] + "b"]:

@@ -63,8 +63,9 @@ class Codes:
         """The list of the codes to which the letters lead from a code of which all but one part is -1, kept there."""
         # Such a part is a single state.
         if self._many <= 3:
-            part[code] = self._single(code)
-            return part[code]
+            laters = self._single(code)
+            part[code] = laters
+            return laters
         laters = None
         rest = code
         while rest > 0:

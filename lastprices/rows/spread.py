@@ -28,11 +28,13 @@ class Spread:
         befores = self.befores
         high, middle, low = self.codes.masks
         highs, middles, lows = self.codes.thirds
-        while self.layer:
+        many = len(self.codes.alphabet)
+        layer = self.layer
+        while layer:
             found = []
             # Most layers are so small that they cannot come to the limit.
-            near = len(befores) + len(self.layer) * len(self.codes.alphabet) > limit
-            for code in self.layer:
+            near = len(befores) + len(layer) * many > limit
+            for code in layer:
                 ones, twos, threes = highs.get(code & high), middles.get(code & middle), lows.get(code & low)
                 if ones is None:
                     ones = self.codes.filled(highs, code & high)
@@ -47,9 +49,10 @@ class Spread:
                         found.append(later)
                 if near and len(befores) > limit:
                     raise TooMany(MAX_TABLE)
-            self.layer = found
+            layer = found
             if once:
                 break
+        self.layer = layer
 
     def text_to(self, code):
         """The first one of the shortest texts that lead to a code."""
