@@ -278,6 +278,13 @@ class LanguageTest(unittest.TestCase):
                     names |= {part.id for part in ast.walk(node) if isinstance(part, ast.Name) and isinstance(part.ctx, ast.Store)}
                     self.assertEqual(names & tops, set(), f"{path.name}:{node.lineno}")
 
+    def test_names_of_caught_errors(self):
+        for place, node in self.nodes(ast.FunctionDef):
+            caught = [part.name for part in ast.walk(node) if isinstance(part, ast.ExceptHandler) and part.name]
+            others = {part.arg for part in ast.walk(node) if isinstance(part, ast.arg)}
+            others |= {part.id for part in ast.walk(node) if isinstance(part, ast.Name) and isinstance(part.ctx, ast.Store)}
+            self.assertEqual(len(caught), len(set(caught) - others), place)
+
     def test_tables_of_translations(self):
         for path, tree in self.trees.items():
             used = {ast.unparse(node.args[0]) for node in ast.walk(tree) if isinstance(node, ast.Call)

@@ -36,12 +36,12 @@ class Shell:
             return "number"
         except NotTaken:
             return "not taken"
-        except TooMany as e:
-            return f"many {e.limit}"
+        except TooMany as excess:
+            return f"many {excess.limit}"
         except NothingToUndo:
             return "undo"
-        except Refused as e:
-            return f"refused {written_pledge(e.pledge)}"
+        except Refused as refusal:
+            return f"refused {written_pledge(refusal.pledge)}"
         if told is None:
             return "what"
         self._answered.append(True)
