@@ -22,7 +22,7 @@ def reached_from(starts, graph):
     waiting = list(befores)
     while waiting:
         found = []
-        for node in waiting:
+        for node in list(waiting):
             for later, word in graph.get(node, []):
                 if later not in befores:
                     befores[later] = (node, word)

@@ -26,7 +26,7 @@ class CappedLayers:
         layer = {self.codes.first_code: 1}
         for _ in range(length):
             found = {}
-            for code, many in layer.items():
+            for code, many in list(layer.items()):
                 for later in self.after(code):
                     found[later] = found.get(later, 0) + many
             check_rows(len(found))
@@ -77,7 +77,7 @@ class PlainLayers:
         nodes = [list(layer)]
         for _ in range(length):
             found = {}
-            for node, spent in layer.items():
+            for node, spent in list(layer.items()):
                 for later, fall in self.after(node):
                     numbers = found.setdefault(later, {})
                     for price, many in spent.items():

@@ -54,7 +54,7 @@ def splits_of(machine, text):
     ways = [1] + [0] * len(text)
     for begin in range(len(text)):
         for end in ends[begin]:
-            ways[end] += ways[begin]
+            ways[end] = ways[end] + ways[begin]
     return ways[-1]
 
 
@@ -65,7 +65,7 @@ def powers_taken(machine, text):
     numbers = [1] + [0] * len(text)
     for begin in range(len(text)):
         for end in ends[begin]:
-            numbers[end] |= numbers[begin] << 1
+            numbers[end] = numbers[end] | numbers[begin] << 1
     return tuple([number for number in range(len(text) + 1) if numbers[-1] >> number & 1])
 
 

@@ -49,7 +49,7 @@ class Twins:
                 return ends[0]
             layer = self._found
             self._found = []
-            for node in layer:
+            for node in list(layer):
                 for letter in self._letters:
                     self._follow(node, letter)
         return None

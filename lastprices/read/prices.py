@@ -30,7 +30,7 @@ def runs_of(machine, text):
         for letter in text:
             later = [0] * len(counts)
             for before, after, _ in machine.moves(letter):
-                later[after] += counts[before]
+                later[after] = later[after] + counts[before]
             counts = later
     return sum([counts[number] for number in machine.last_numbers()])
 

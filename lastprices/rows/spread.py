@@ -34,7 +34,7 @@ class Spread:
             found = []
             # Most layers are so small that they cannot come to the limit.
             near = len(befores) + len(layer) * many > limit
-            for code in layer:
+            for code in list(layer):
                 ones, twos, threes = highs.get(code & high), middles.get(code & middle), lows.get(code & low)
                 if ones is None:
                     ones = self.codes.filled(highs, code & high)
@@ -42,7 +42,7 @@ class Spread:
                     twos = self.codes.filled(middles, code & middle)
                 if threes is None:
                     threes = self.codes.filled(lows, code & low)
-                for one, two, three in zip(ones, twos, threes):
+                for one, two, three in list(zip(ones, twos, threes)):
                     later = one | two | three
                     if later not in befores:
                         befores[later] = code
