@@ -2,17 +2,18 @@
 
 import inspect
 import itertools
+import math
 import unittest
 from unittest import mock
 
 from lastprices.base.machines import Machine
-from lastprices.decide import layers
+from lastprices.decide import layers, spents, tallies
 from lastprices.decide.dear import (count_priced, dear_text, dearest, each_priced, number_of, priced_at, prices_of)
 from lastprices.errors import InvalidMachine, InvalidNumber, InvalidText, NotTaken, TooMany
 from lastprices.read.prices import count_taken, price_of
 from lastprices.rows import spread
 from lastprices.rows.tables import first_row, next_row
-from tests.force import least_price, some_machines, texts_up_to
+from tests.force import drawn_machines, least_price, some_machines, texts_up_to
 from tests.test_counts import shifting
 from tests.test_tables import many_rows
 from tests.values import (BLOCK, COUNT, DEAL, MARK, NAMES_24, NO_MACHINES, NO_NUMBERS, NO_STRINGS, NO_TEXTS, check_refused,
@@ -40,6 +41,28 @@ def layers_by_force(machine, cap, length):
         layer = {next_row(machine, cap, row, letter) for row in layer for letter in machine.letters}
         many.append(len(layer))
     return many
+
+
+def fresh(machine):
+    """The same machine, of which nothing was asked as yet."""
+    return Machine(machine.firsts, machine.lasts, machine.arcs)
+
+
+def told_by_force(machine, length):
+    """What all functions tell of the texts with so many letters, by trying all of them."""
+    told = priced_texts(machine, length)
+    return ({price: len(told[price]) for price in sorted(told)}, told[max(told)][0] if told else None,
+        {price: told.get(price, []) for price in (*told, 0, 1, 200)})
+
+
+def told_of_prices(machine, length, prices):
+    """What all functions tell of the texts with so many letters, with just these prices."""
+    texts = {price: list(each_priced(machine, length, price)) for price in prices}
+    for price in prices:
+        found = [priced_at(machine, length, price, number) for number in range(count_priced(machine, length, price))]
+        if found != texts[price] or [number_of(machine, text) for text in found] != list(range(len(found))):
+            return None
+    return prices_of(machine, length), dearest(machine, length), texts
 
 
 class ForceTest(unittest.TestCase):
@@ -123,6 +146,107 @@ class ForceTest(unittest.TestCase):
         self.assertEqual([told_of(machine) for machine in (BLOCK, DEAL)], before)
 
 
+class WaysOfCountingTest(unittest.TestCase):
+    """Numbers are found in several ways, of which all tell the same."""
+
+    def check(self, machines, length):
+        for machine in machines:
+            told = told_by_force(machine, length)
+            self.assertEqual(told_of_prices(fresh(machine), length, tuple(told[2])), told, (machine.lines, length))
+
+    def machines(self):
+        return [COUNT, BLOCK, DEAL, MARK, DEAR, NOTHING, COUNT.with_arc("x", "z", "x", 0), *some_machines(25),
+            *drawn_machines(5, (3, 4))]
+
+    def test_numbers_one_by_one(self):
+        with mock.patch.object(spents, "FEW_BITS", 0), mock.patch.object(spents, "SPARE_BITS", 0):
+            self.check(self.machines(), 5)
+
+    def test_fields_of_integers(self):
+        with mock.patch.object(spents, "FEW_BITS", 0), mock.patch.object(spents, "SPARE_BITS", 10 ** 9):
+            self.check(self.machines(), 5)
+
+    def test_short_codes_that_get_longer(self):
+        with mock.patch.object(spents, "BITS", 1):
+            self.check(self.machines(), 6)
+            machine = fresh(BLOCK)
+            self.assertEqual([dearest(machine, length) for length in (5, 20, 60)],
+                ["b" + "a" * (length - 2) + "b" for length in (5, 20, 60)])
+
+    def test_tallies_that_are_kept(self):
+        with mock.patch.object(tallies, "FEW_ROWS", 0), mock.patch.object(tallies, "FEW_EACH", 0):
+            self.check(self.machines(), 5)
+            # With other lengths and prices the same tally goes on.
+            machine = fresh(DEAR)
+            for length in (3, 1, 12, 200, 7):
+                for price in (8 * length, 8 * length + 1, 9 * length, 0):
+                    many = ForceTest.chosen(length, price - 8 * length) if 8 * length <= price <= 9 * length else 0
+                    if price <= 200:
+                        self.assertEqual(count_priced(machine, length, price), many)
+
+    def test_no_tallies_that_are_kept(self):
+        with mock.patch.object(tallies, "FEW_ROWS", 10 ** 9), mock.patch.object(tallies, "MAX_KEPT", 0):
+            self.check(self.machines(), 5)
+
+    def test_calls_in_any_order(self):
+        # What is kept for one call is right for the next one.
+        for machine in self.machines():
+            told = {length: told_by_force(machine, length) for length in range(6)}
+            same = fresh(machine)
+            for length in (5, 0, 3, 1, 4, 2, 5):
+                for price in (1, 0, 200, 1):
+                    self.assertEqual(list(each_priced(same, length, price)), told[length][2][price])
+                    self.assertEqual(count_priced(same, length, price), len(told[length][2][price]))
+                self.assertEqual([prices_of(same, length), dearest(same, length)], list(told[length][:2]))
+
+    def test_rows_that_come_again_after_some_letters(self):
+        # No letter leads from the first row to itself here.
+        machine = Machine(("s",), ("t", "u"), {("s", "a", "t"): 0, ("t", "a", "u"): 2, ("u", "b", "s"): 1, ("t", "b", "s"): 0,
+            ("u", "a", "u"): 1, ("s", "b", "u"): 5})
+        for length in range(9):
+            told = told_by_force(machine, length)
+            self.assertEqual(told_of_prices(fresh(machine), length, tuple(told[2])), told)
+        self.assertEqual(sum(prices_of(machine, 200).values()), count_taken(machine, 200))
+        self.assertEqual(sum([count_priced(machine, 60, price) for price in prices_of(machine, 60) if price <= 200]),
+            sum([many for price, many in prices_of(machine, 60).items() if price <= 200]))
+
+
+class ManyLettersTest(unittest.TestCase):
+    """The calls that were slow, one after another, with what they tell."""
+
+    def test_block(self):
+        # How many texts there are with 40 letters, and with at least so many `a` between each two neighbouring `b`.
+        apart = [sum(math.comb(max(40 - (many - 1) * at, 0), many) for many in range(2, 41)) for at in range(40)]
+        self.assertEqual(prices_of(fresh(BLOCK), 40), {at: apart[at] - apart[at + 1] for at in range(39)})
+        self.assertEqual(dearest(fresh(BLOCK), 40), "b" + "a" * 38 + "b")
+
+    def test_count(self):
+        chosen = ForceTest.chosen
+        self.assertEqual(number_of(fresh(COUNT), "b" * 200), 0)
+        self.assertEqual(count_priced(fresh(COUNT), 60, 30), chosen(60, 30))
+        text = priced_at(fresh(COUNT), 60, 30, 12345678)
+        self.assertEqual((text.count("b"), len(text)), (30, 60))
+        self.assertEqual(number_of(fresh(COUNT), text), 12345678)
+        # Ahead of it stand those that have an `a` where it has the first, second, .. `b`.
+        ahead = sum(chosen(59 - at, 30 - at // 2) for at in range(1, 60, 2))
+        self.assertEqual(number_of(fresh(COUNT), "ab" * 30), ahead)
+        self.assertEqual(next(each_priced(fresh(COUNT), 60, 30)), "a" * 30 + "b" * 30)
+        self.assertEqual(prices_of(fresh(COUNT), 200), {at: chosen(200, at) for at in range(201)})
+        self.assertEqual(dearest(fresh(COUNT), 200), "b" * 200)
+        self.assertEqual(count_priced(fresh(COUNT), 200, 150), chosen(200, 150))
+
+    def test_fifty_calls_of_one_machine(self):
+        machine = fresh(COUNT)
+        for at in range(50):
+            length = (at * 37 + 11) % 61
+            price = (at * 53 + 7) % (length + 1)
+            many = ForceTest.chosen(length, price)
+            self.assertEqual(count_priced(machine, length, price), many)
+            self.assertEqual(next(each_priced(machine, length, price)), "a" * (length - price) + "b" * price)
+            text = priced_at(machine, length, price, many // 3)
+            self.assertEqual([len(text), text.count("b"), number_of(machine, text)], [length, price, many // 3])
+
+
 class GeneratorTest(unittest.TestCase):
     def test_results_come_one_by_one(self):
         told = each_priced(COUNT, 200, 100)
@@ -203,7 +327,7 @@ class TooManyTest(unittest.TestCase):
         for machine in [DEAL, *some_machines(15)]:
             for cap in (0, 2):
                 many = max(layers_by_force(machine, cap, 6))
-                calls = [lambda: count_priced(machine, 6, cap), lambda: list(each_priced(machine, 6, cap))]
+                calls = [lambda: count_priced(fresh(machine), 6, cap), lambda: list(each_priced(fresh(machine), 6, cap))]
                 with mock.patch.object(layers, "MAX_TABLE", many):
                     for call in calls:
                         call()
@@ -214,22 +338,26 @@ class TooManyTest(unittest.TestCase):
             # With six letters no price is beyond 200.
             many = max(layers_by_force(machine, 200, 6))
             with mock.patch.object(layers, "MAX_TABLE", many):
-                self.assertEqual(dearest(machine, 6) is None, prices_of(machine, 6) == {})
+                self.assertEqual(dearest(fresh(machine), 6) is None, prices_of(fresh(machine), 6) == {})
             with mock.patch.object(layers, "MAX_TABLE", many - 1):
-                for call in (lambda: prices_of(machine, 6), lambda: dearest(machine, 6)) if many > 1 else ():
+                for call in (prices_of, dearest) if many > 1 else ():
                     with self.assertRaises(TooMany):
-                        call()
+                        call(fresh(machine), 6)
 
     def test_the_row_without_ways_counts_once(self):
         # One row for each price, and the one to which `z` leads after whatever prices.
         machine = COUNT.with_arc("x", "z", "x", 0)
         with mock.patch.object(layers, "MAX_TABLE", 202):
-            self.assertEqual([len(prices_of(machine, 200)), dearest(machine, 200)], [201, "b" * 200])
+            self.assertEqual([len(prices_of(fresh(machine), 200)), dearest(fresh(machine), 200)], [201, "b" * 200])
         with mock.patch.object(layers, "MAX_TABLE", 201):
             for call in (prices_of, dearest):
-                self.assertEqual(len(call(machine, 199)), 200 if call is prices_of else 199)
-                with self.assertRaises(TooMany):
-                    call(machine, 200)
+                told = fresh(machine)
+                self.assertEqual(len(call(told, 199)), 200 if call is prices_of else 199)
+                # What was found before does not change this.
+                for _ in range(2):
+                    with self.assertRaises(TooMany):
+                        call(told, 200)
+                self.assertEqual(len(call(told, 199)), 200 if call is prices_of else 199)
 
     def test_only_new_rows_count_for_dear_texts(self):
         # With n letters of these machines there are as many rows as n + 1 letters have places, all of them new.

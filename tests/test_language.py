@@ -263,7 +263,7 @@ class LanguageTest(unittest.TestCase):
                     if views or name in once:
                         above = parents[node]
                         loop = isinstance(above, (ast.For, ast.comprehension)) and above.iter is node
-                        call = isinstance(above, ast.Call) and ast.unparse(above.func) in ("list", "tuple", "sorted", "enumerate")
+                        call = isinstance(above, ast.Call) and ast.unparse(above.func) in ("list", "tuple", "dict", "sorted", "enumerate")
                         told = isinstance(above, ast.Return) and name == "iter"
                         self.assertTrue(loop or call or told, f"{path.name}:{node.lineno}")
                     if name == "reversed":

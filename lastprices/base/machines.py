@@ -77,6 +77,8 @@ class Machine:
         # Both are made when they are needed.
         self._moves = None
         self._track = None
+        # By words: what was found out about the machine elsewhere.
+        self._notes = {}
 
     @classmethod
     def from_lines(cls, *lines):
@@ -157,16 +159,20 @@ class Machine:
             self._moves = moves_of(self._states, self._arcs)
         return self._moves.get(letter, ())
 
-    def new_track(self):
-        """A track of the rows to which texts lead, of which nothing is known as yet."""
-        moves = {letter: self.moves(letter) for letter in self._letters}
-        return Track(moves, start_of(self), self._last_numbers)
-
     def track(self):
         """What is known of the rows to which texts lead."""
         if self._track is None:
-            self._track = self.new_track()
+            moves = {letter: self.moves(letter) for letter in self._letters}
+            self._track = Track(moves, start_of(self), self._last_numbers)
         return self._track
+
+    def remembered(self, word):
+        """What was found out about the machine under a word, None if nothing was."""
+        return self._notes.get(word)
+
+    def remember(self, word, value):
+        """Keeps under a word what was found out about the machine."""
+        self._notes[word] = value
 
     def led(self, states, text):
         """The set of states to which a text leads from a set."""

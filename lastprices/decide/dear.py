@@ -2,7 +2,8 @@
 
 from lastprices.base.checks import check_machine, check_number
 from lastprices.base.words import is_count, is_text
-from lastprices.decide.layers import CappedLayers, PlainLayers
+from lastprices.decide.spents import bests_to, lowered_layers, numbers_by_prices
+from lastprices.decide.tallies import number_for, tally_for
 from lastprices.errors import InvalidNumber, InvalidText, NotTaken
 from lastprices.read.prices import MAX_LENGTH
 from lastprices.rows.codes import Codes
@@ -17,7 +18,7 @@ def dear_text(machine, price):
     codes = Codes([machine], price)
     spread = Spread(codes, [codes.first_code])
     while spread.layer:
-        dear = [code for code in spread.layer if codes.price_of(code) >= price]
+        dear = [code for code, cost in zip(spread.layer, codes.prices_at(spread.layer)) if cost >= price]
         if dear:
             return spread.text_to(dear[0])
         spread.grow()
@@ -27,38 +28,30 @@ def dear_text(machine, price):
 def prices_of(machine, length):
     """A dict from the prices of the taken texts with so many letters to the numbers of such texts."""
     _check(machine, length)
-    found = {}
-    layer, _ = PlainLayers(machine).spent_to(length)
-    for node, spent in layer.items():
-        if node.least is not None:
-            for price, many in spent.items():
-                found[price + node.least] = found.get(price + node.least, 0) + many
-    return {price: found[price] for price in sorted(found)}
+    return numbers_by_prices(lowered_layers(machine, length), length)
 
 
 def count_priced(machine, length, price):
     """The number of the taken texts with so many letters and just this price."""
     _check_priced(machine, length, price)
-    layers = CappedLayers(machine, price)
-    ends = layers.many_to(length)
-    return sum([ends[code] for code in ends if layers.codes.price_of(code) == price])
+    return number_for(machine, length, price)
 
 
 def each_priced(machine, length, price):
     """A generator of the taken texts with so many letters and just this price, ascending."""
     _check_priced(machine, length, price)
-    layers = CappedLayers(machine, price)
-    counts = layers.many_from(length, price)
+    tally = tally_for(machine, length, price)
     # What is waiting stands in descending order, and the last one is taken first.
-    waiting = [("", layers.codes.first_code)]
+    waiting = [("", 0, price)] if tally.number_behind(length, 0, price) > 0 else []
     while waiting:
-        text, code = waiting.pop()
-        if counts[len(text)][code] > 0:
-            if len(text) == length:
-                yield text
-            else:
-                for letter, later in reversed(list(zip(machine.letters, layers.after(code)))):
-                    waiting.append((text + letter, later))
+        text, row, rest = waiting.pop()
+        while len(text) < length:
+            found = _useful_steps(machine, tally, length - len(text) - 1, row, rest)
+            for letter, later, left in found[:0:-1]:
+                waiting.append((text + letter, later, left))
+            letter, row, rest = found[0]
+            text = text + letter
+        yield text
 
 
 def priced_at(machine, length, price, number):
@@ -66,21 +59,21 @@ def priced_at(machine, length, price, number):
     _check_priced(machine, length, price)
     if not is_count(number):
         raise InvalidNumber(number)
-    layers = CappedLayers(machine, price)
-    counts = layers.many_from(length, price)
-    code = layers.codes.first_code
-    if number >= counts[0][code]:
+    tally = tally_for(machine, length, price)
+    if number >= tally.number_behind(length, 0, price):
         raise InvalidNumber(number)
+    steps = _steps_of(machine, tally)
     letters = []
-    left = number
-    for behind in counts[1:]:
-        at = 0
-        laters = layers.after(code)
-        while left >= behind[laters[at]]:
-            left -= behind[laters[at]]
-            at += 1
-        letters.append(machine.letters[at])
-        code = laters[at]
+    row, rest, ahead = 0, price, number
+    for left in reversed(range(length)):
+        for letter, laters, falls in steps:
+            later, less = laters[row], rest - falls[row]
+            many = tally.number_behind(left, later, less)
+            if ahead < many:
+                break
+            ahead -= many
+        letters.append(letter)
+        row, rest = later, less
     return "".join(letters)
 
 
@@ -94,44 +87,50 @@ def number_of(machine, text):
         raise NotTaken(text)
     if price > MAX_CAP:
         raise InvalidNumber(price)
-    layers = CappedLayers(machine, price)
-    counts = layers.many_from(len(text), price)
-    code = layers.codes.first_code
-    number = 0
-    for letter, behind in zip(text, counts[1:]):
-        at = machine.letters.index(letter)
-        laters = layers.after(code)
-        number += sum([behind[later] for later in laters[:at]])
-        code = laters[at]
+    tally = tally_for(machine, len(text), price)
+    steps = _steps_of(machine, tally)
+    row, rest, number = 0, price, 0
+    for at, letter in enumerate(text):
+        left = len(text) - at - 1
+        for other, laters, falls in steps:
+            later, less = laters[row], rest - falls[row]
+            if other == letter:
+                break
+            number += tally.number_behind(left, later, less)
+        row, rest = later, less
     return number
 
 
 def dearest(machine, length):
     """The first text among the taken ones with so many letters that cost most, None if none is taken."""
     _check(machine, length)
-    layers = PlainLayers(machine)
-    _, reached = layers.spent_to(length)
-    # By numbers of letters that are left: the greatest prices of what can still be read, None where nothing is taken.
-    bests = [{node: node.least for node in reached[-1]}]
-    for layer in reached[-2::-1]:
-        bests.append({node: max(_totals(layers, node, bests[-1]), default=None) for node in layer})
-    node = layers.begin()
-    if bests[-1][node] is None:
+    layers = lowered_layers(machine, length)
+    bests = bests_to(layers, length)
+    row, best = 0, bests[-1][0]
+    if best < 0:
         return None
     letters = []
-    for left in reversed(range(length)):
-        best = bests[left + 1][node]
-        steps = [(letter, later, fall) for letter, (later, fall) in zip(machine.letters, layers.after(node))]
-        kept = [(letter, later) for letter, later, fall in steps
-            if bests[left][later] is not None and bests[left][later] + fall == best]
-        letters.append(kept[0][0])
-        node = kept[0][1]
+    for behind in bests[-2::-1]:
+        for letter, laters, falls in zip(machine.letters, layers.leads, layers.falls):
+            if behind[laters[row]] + falls[row] == best:
+                letters.append(letter)
+                row, best = laters[row], best - falls[row]
+                break
     return "".join(letters)
 
 
-def _totals(layers, node, bests):
-    """The list of the greatest prices by way of each letter, where something is taken."""
-    return [bests[later] + fall for later, fall in layers.after(node) if bests[later] is not None]
+def _steps_of(machine, tally):
+    """The list of the triples of a letter, and of what it leads to and of its falls, by the numbers of rows."""
+    return list(zip(machine.letters, tally.layers.leads, tally.layers.falls))
+
+
+def _useful_steps(machine, tally, left, row, rest):
+    """The list of the triples of a letter with which texts go on from a row, of the next row and of what is left."""
+    found = []
+    for letter, laters, falls in zip(machine.letters, tally.layers.leads, tally.layers.falls):
+        if tally.number_behind(left, laters[row], rest - falls[row]) > 0:
+            found.append((letter, laters[row], rest - falls[row]))
+    return found
 
 
 def _check(machine, length):

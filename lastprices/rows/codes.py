@@ -17,6 +17,8 @@ class Codes:
 
     def __init__(self, machines, cap, every=False):
         self.most = cap
+        # Whether any price was greater than the cap on the way to a code.
+        self.is_short = False
         # The greatest number: where no arc costs anything, texts lead to no other than 0, though there are other rows.
         self._top = cap + 1 if every else 0
         letters = [machine.letters for machine in machines]
@@ -87,7 +89,10 @@ class Codes:
         laters = [0] * len(self.alphabet)
         top = self._top
         for at, later, cost in self._leaving[self._many - 1 - below]:
-            least = price + cost if price + cost < top else top
+            least = price + cost
+            if least > self.most:
+                least = top
+                self.is_short = True
             laters[at] |= self._field >> least << least + self._places[later]
         return laters
 
@@ -120,6 +125,20 @@ class Codes:
         fields = [code >> place & self._field for place in self._places]
         # Of no bits the lowest one is at -1.
         return tuple([(field & -field).bit_length() - 1 for field in fields])
+
+    def fields(self):
+        """The lowest bits of all fields, and the highest ones."""
+        lows = sum([1 << place for place in self._places])
+        return lows, lows << self._top
+
+    def prices_at(self, codes, number=0):
+        """The list of the least prices of some codes at a last state of a machine, -1 where there is none."""
+        whole = self._field
+        fields = [0] * len(codes)
+        for place in self._lasts[number]:
+            fields = [field | code >> place & whole for field, code in zip(fields, codes)]
+        # Of no bits the lowest one is at -1.
+        return [(field & -field).bit_length() - 1 for field in fields]
 
     def price_of(self, code, number=0):
         """The least price at a last state of a machine, by its number, -1 if there is none."""
