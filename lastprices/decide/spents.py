@@ -115,7 +115,7 @@ def _steady_sums(leads, shifts, values, many):
 
 
 def _other_sums(leads, shifts, values):
-    """A dict from rows behind one more letter to the sums of what comes to them, by such a dict for rows before them."""
+    """A dict from rows behind one more letter to the sums of what comes to them, by such a dict for the rows before."""
     sums = {}
     if shifts is None:
         for row, value in values.items():
