@@ -1,10 +1,11 @@
 """Rows and tables of machines."""
 
 import unittest
+from unittest import mock
 
 from lastprices.base.machines import Machine
 from lastprices.errors import InvalidMachine, InvalidNumber, InvalidOperation, InvalidRow, InvalidText, TooMany
-from lastprices.rows import tables
+from lastprices.rows import codes, spread, tables
 from lastprices.rows.tables import Table, first_row, is_row, next_row, price_in, row_of
 from tests.force import drawn_machines, least_price, some_machines, texts_up_to, ways_along
 from tests.values import (BLOCK, COUNT, NAMES_24, NO_LETTERS, NO_MACHINES, NO_NUMBERS, NO_STRINGS, NO_TEXTS, check_judge,
@@ -256,6 +257,21 @@ class TableTest(unittest.TestCase):
                 for row in list(texts)[:20]:
                     for other in ((cap + 2,) + row[1:], (-2,) + row[1:], row + (0,), row[1:], list(row), (True,) + row[1:]):
                         self.assertIs(other in table, False, other)
+
+    def test_rows_that_go_on_alike(self):
+        # The states `x` and `y` are left by no arcs, so rows that differ only there go on alike.
+        with mock.patch.object(spread, "FEW", 0), mock.patch.object(codes, "FEW", 0):
+            for machine in [*drawn_machines(12, (1, 2, 3)), memory(6), BLOCK]:
+                names = machine.states
+                more = machine.with_arc(names[0], "a", "x", 0).with_arc(names[-1], "b", "y", 1).with_arc(names[0], "c", "x", 2)
+                for told_of_it in (machine, more, more.with_ends(firsts=("x", "y")), more.with_ends(lasts=("x", "y"))):
+                    for cap in (0, 2, 4):
+                        texts, steps = table_by_steps(told_of_it, cap)
+                        table = Table(told_of_it, cap)
+                        self.assertEqual(table.rows, tuple(sorted(texts)))
+                        self.assertEqual([table.text_to(row) for row in texts], list(texts.values()))
+                        for row, letter in steps:
+                            self.assertEqual(table.after(row, letter), steps[row, letter])
 
     def test_equality(self):
         table = Table(COUNT, 1)

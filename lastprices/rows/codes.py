@@ -126,6 +126,12 @@ class Codes:
         # Of no bits the lowest one is at -1.
         return tuple([(field & -field).bit_length() - 1 for field in fields])
 
+    def leaving(self):
+        """The bits of the states from which arcs lead, -1 if they lead from all of them."""
+        if [] not in self._leaving:
+            return -1
+        return sum([self._field << place for place, arcs in zip(self._places, self._leaving) if arcs])
+
     def fields(self):
         """The lowest bits of all fields, and the highest ones."""
         lows = sum([1 << place for place in self._places])
@@ -165,18 +171,28 @@ class Codes:
             return tuple(sorted([self.row_from(code) for code in codes]))
         # Rows are put together of halves, which are fewer.
         split = (self._many + 1) // 2
-        mask = (1 << (self._many - split) * self._width) - 1
-        highs = {code & ~mask: True for code in codes}
-        lows = {code & mask: True for code in codes}
-        heads = sorted([(self.row_from(high)[:split], high) for high in highs])
-        tails = sorted([(self.row_from(low)[split:], low) for low in lows])
+        lows = (1 << (self._many - split) * self._width) - 1
+        highs = (1 << self._many * self._width) - 1 - lows
+        heads = self._half_rows(sorted(set([code & highs for code in codes])), self._places[:split])
+        tails = self._half_rows(sorted(set([code & lows for code in codes])), self._places[split:])
+        ends = [tail for tail, _ in tails]
+        if len(heads) * len(tails) == len(codes):
+            return tuple([head + tail for head, _ in heads for tail in ends])
         if len(heads) * len(tails) <= 2 * len(codes):
             return tuple([head + tail for head, high in heads for tail, low in tails if high | low in codes])
         # Where most halves do not stand beside each other, the second ones are sorted by their ranks.
         groups = {high: [] for _, high in heads}
         ranks = {low: rank for rank, (_, low) in enumerate(tails)}
         for code in codes:
-            low = code & mask
+            low = code & lows
             groups[code ^ low].append(ranks[low])
-        ends = [tail for tail, _ in tails]
         return tuple([head + ends[rank] for head, high in heads for rank in sorted(groups[high])])
+
+    def _half_rows(self, halves, places):
+        """The list of the pairs of a half of a row and of its code, ascending, by the places of its states."""
+        whole = self._field
+        found = []
+        for half in halves:
+            fields = [half >> place & whole for place in places]
+            found.append((tuple([(field & -field).bit_length() - 1 for field in fields]), half))
+        return sorted(found)

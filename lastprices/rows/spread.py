@@ -4,6 +4,9 @@ from lastprices.errors import TooMany
 
 MAX_TABLE = 20000
 
+# In layers of fewer codes it is not asked which ones go on alike.
+FEW = 100
+
 
 class Spread:
     """The codes to which texts lead from some codes, in the order of the first ones of the shortest such texts."""
@@ -25,16 +28,22 @@ class Spread:
 
     def _grow(self, limit, once):
         """Goes on with one layer or all: TooMany if there are more codes in all than a limit."""
-        befores = self.befores
+        befores, layer = self.befores, self.layer
         high, middle, low = self.codes.masks
         highs, middles, lows = self.codes.thirds
-        many = len(self.codes.alphabet)
-        layer = self.layer
+        letters = list(range(len(self.codes.alphabet)))
+        followed = set()
         while layer:
             found = []
             # Most layers are so small that they cannot come to the limit.
-            near = len(befores) + len(layer) * many > limit
+            near = len(befores) + len(layer) * len(letters) > limit
+            # Codes that differ only in states from which no arcs lead go on alike, so the first one is enough.
+            bits = self.codes.leaving() if len(layer) > FEW else -1
             for code in list(layer):
+                if bits >= 0:
+                    if code & bits in followed:
+                        continue
+                    followed.add(code & bits)
                 ones, twos, threes = highs.get(code & high), middles.get(code & middle), lows.get(code & low)
                 if ones is None:
                     ones = self.codes.filled(highs, code & high)
@@ -42,8 +51,8 @@ class Spread:
                     twos = self.codes.filled(middles, code & middle)
                 if threes is None:
                     threes = self.codes.filled(lows, code & low)
-                for one, two, three in list(zip(ones, twos, threes)):
-                    later = one | two | three
+                for at in letters:
+                    later = ones[at] | twos[at] | threes[at]
                     if later not in befores:
                         befores[later] = code
                         found.append(later)
