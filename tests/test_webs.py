@@ -50,6 +50,14 @@ def apart(*parts):
     return Machine(("qa",), ("qa",), arcs)
 
 
+def maps_of_five():
+    """A machine whose web has all maps from five states to themselves, which are 3125."""
+    arcs = {(one, "a", other): 0 for one, other in zip("stuvw", "tuvws")}
+    arcs.update({("s", "b", "t"): 0, ("t", "b", "s"): 0, ("s", "c", "t"): 0, ("t", "c", "t"): 0})
+    arcs.update({(name, letter, name): 0 for name in "uvw" for letter in "bc"})
+    return Machine(("s",), ("s",), arcs)
+
+
 # Squares of its parts: 2 * 2 * 3 ** 6 - 1, 2 * 3 ** 3 - 1 and 2 ** 5, of which one has no ways; it is that of
 # letters of different parts, too. So there are just 3000.
 JUST_3000 = apart("ffeeeeee", "feee", "fffffi")
@@ -229,11 +237,7 @@ class SlowOnesTest(unittest.TestCase):
     """Webs that took long once."""
 
     def test_all_maps_of_five_states(self):
-        ring = zip("stuvw", "tuvws")
-        arcs = {(one, "a", other): 0 for one, other in ring}
-        arcs.update({("s", "b", "t"): 0, ("t", "b", "s"): 0, ("s", "c", "t"): 0, ("t", "c", "t"): 0})
-        arcs.update({(name, letter, name): 0 for name in "uvw" for letter in "bc"})
-        machine = Machine(("s",), ("s",), arcs)
+        machine = maps_of_five()
         with self.assertRaises(TooMany) as caught:
             Web(machine)
         self.assertEqual(caught.exception.limit, 3000)

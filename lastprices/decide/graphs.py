@@ -6,11 +6,15 @@ A graph is a dict from nodes to lists of pairs of a next node and of what is rea
 
 def useful_arcs(machine):
     """The list of the arcs through which runs go: number of the state, letter, number of the next state, price."""
-    arcs = [(state, letter, later, price) for letter in machine.letters
-        for state, later, price in machine.moves(letter)]
-    ahead = reached_from(machine.first_numbers(), _graph_of([(arc[0], arc[2]) for arc in arcs]))
-    behind = reached_from(machine.last_numbers(), _graph_of([(arc[2], arc[0]) for arc in arcs]))
-    return [arc for arc in arcs if arc[0] in ahead and arc[2] in behind]
+    useful = machine.remembered("useful")
+    if useful is None:
+        arcs = [(state, letter, later, price) for letter in machine.letters
+            for state, later, price in machine.moves(letter)]
+        ahead = reached_from(machine.first_numbers(), _graph_of([(arc[0], arc[2]) for arc in arcs]))
+        behind = reached_from(machine.last_numbers(), _graph_of([(arc[2], arc[0]) for arc in arcs]))
+        useful = [arc for arc in arcs if arc[0] in ahead and arc[2] in behind]
+        machine.remember("useful", useful)
+    return useful
 
 
 def reached_from(starts, graph):

@@ -9,13 +9,13 @@ from lastprices.rows.spread import Spread
 from lastprices.rows.tables import MAX_CAP, Table
 from lastprices.signs.patterns import Pattern, is_pattern
 from lastprices.signs.shortest import Shortest
-from lastprices.signs.webs import growing_ones, whole_closure
+from lastprices.signs.webs import growing_ones, has_growing_square, whole_closure
 
 
 def is_limited(machine):
     """Whether there is a number that no price of a text exceeds."""
     check_machine(machine)
-    return len(growing_ones(machine, whole_closure(machine).origins)) == 0
+    return not has_growing_square(machine)
 
 
 def last_price(machine):

@@ -85,7 +85,16 @@ def is_two_runs(machine, value):
 
 def _dear_ring(machine):
     """A dear ring with as few letters in all as possible, None if there is none."""
-    arcs = useful_arcs(machine)
+    # Kept as the only part of a tuple, so that it is known, too, that there is none.
+    told = machine.remembered("ring")
+    if told is None:
+        told = (_shortest_ring(useful_arcs(machine), machine),)
+        machine.remember("ring", told)
+    return told[0]
+
+
+def _shortest_ring(arcs, machine):
+    """A dear ring with as few letters in all as possible, by the arcs through which runs go, None if there is none."""
     if not any([arc[3] > 0 for arc in arcs]):
         return None
     ahead, behind, around = {}, {}, {}

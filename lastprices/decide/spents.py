@@ -15,7 +15,7 @@ FEW_BITS = 300000
 # Beyond so many bits for each number of texts that is not 0, these numbers are kept one by one instead.
 SPARE_BITS = 4000
 # Less than any sum of prices, in the place of the greatest price of texts where none is taken.
-NONE = -10 ** 6
+NONE = -1000000
 
 
 def lowered_layers(machine, length):

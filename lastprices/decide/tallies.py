@@ -17,34 +17,31 @@ MAX_KEPT = 50000
 
 def tally_for(machine, length, price):
     """A tally for the texts with so many letters and just this price."""
-    tally = _kept_tally(machine, length, price)
+    tally, layers = _tally_or_layers(machine, length, price)
     if tally is None:
-        layers = _capped_layers(machine, length, price)
-        tally = _new_tally(machine, layers, length, price)
-        if tally is None:
-            tally = CappedTally(layers, length, price)
-            if _rows_in(layers, length) <= MAX_KEPT:
-                machine.remember("capped", tally)
+        tally = CappedTally(layers, length, price)
+        if _rows_in(layers, length) <= MAX_KEPT:
+            machine.remember("capped", tally)
     return tally
 
 
 def number_for(machine, length, price):
     """The number of the taken texts with so many letters and just this price."""
+    tally, layers = _tally_or_layers(machine, length, price)
+    if tally is not None:
+        return tally.number_behind(length, 0, price)
+    prices = layers.codes.prices_at(layers.row_codes)
+    return sum([value for row, value in sums_to(layers, length, None) if prices[row] == price])
+
+
+def _tally_or_layers(machine, length, price):
+    """The pair of a tally that a machine keeps, None if it keeps none, and then of the layers of its capped rows."""
     tally = _kept_tally(machine, length, price)
-    if tally is None:
-        layers = _capped_layers(machine, length, price)
-        tally = _new_tally(machine, layers, length, price)
-        if tally is None:
-            prices = layers.codes.prices_at(layers.row_codes)
-            return sum([value for row, value in sums_to(layers, length, None) if prices[row] == price])
-    return tally.number_behind(length, 0, price)
-
-
-def _capped_layers(machine, length, price):
-    """The layers of the rows of a machine, capped at a price, behind up to so many letters."""
+    if tally is not None:
+        return tally, None
     layers = Layers(machine, price)
     layers.grow_to(length)
-    return layers
+    return _new_tally(machine, layers, length, price), layers
 
 
 def _kept_tally(machine, length, price):
@@ -65,15 +62,15 @@ def _kept_tally(machine, length, price):
 
 def _new_tally(machine, layers, length, price):
     """A tally that a machine keeps from now on, None if there are many lowered rows, or few capped ones."""
-    few = max(FEW_ROWS, FEW_EACH * length)
-    if machine.remembered("tally") is not None or _rows_in(layers, length) <= few:
+    if machine.remembered("tally") is not None or _rows_in(layers, length) <= max(FEW_ROWS, FEW_EACH * length):
         return None
     lowered = new_layers(machine, length)
     try:
-        few = lowered.is_closed_within(max(TALLY_BITS // field_bits(len(lowered.leads), MAX_LENGTH), 1))
+        are_few = lowered.is_closed_within(max(TALLY_BITS // field_bits(len(lowered.leads), MAX_LENGTH), 1))
     except TooMany:
-        few = False
-    machine.remember("tally", PricedTally(lowered, price) if few else ())
+        are_few = False
+    # An empty tuple tells that it was tried.
+    machine.remember("tally", PricedTally(lowered, price) if are_few else ())
     return _kept_tally(machine, length, price)
 
 

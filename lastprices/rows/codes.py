@@ -93,7 +93,7 @@ class Codes:
             if least > self.most:
                 least = top
                 self.is_short = True
-            laters[at] |= self._field >> least << least + self._places[later]
+            laters[at] = laters[at] | self._field >> least << least + self._places[later]
         return laters
 
     def laters(self, code):

@@ -3,10 +3,14 @@
 from lastprices.base.checks import check_machine
 from lastprices.errors import InvalidOperation, TooMany
 from lastprices.signs.closure import Closure
+from lastprices.signs.compact import Compact
 from lastprices.signs.shortest import Shortest
 from lastprices.signs.squares import Square, is_square, letter_rows
 
 MAX_SQUARES = 3000
+
+# Where growing squares are only asked for, those of machines with so few states are found in another way.
+FEW_STATES = 6
 
 
 def is_web_of(machine, value):
@@ -25,6 +29,21 @@ def whole_closure(machine):
     if not closure.is_whole():
         raise TooMany(MAX_SQUARES)
     return closure
+
+
+def has_growing_square(machine):
+    """Whether the web of a machine has a growing square: TooMany if a web can have no so many squares."""
+    found = machine.remembered("growing")
+    if found is None:
+        if len(machine) <= FEW_STATES:
+            compact = Compact(machine, MAX_SQUARES)
+            if not compact.is_whole():
+                raise TooMany(MAX_SQUARES)
+            found = compact.has_growing(machine)
+        else:
+            found = len(growing_ones(machine, whole_closure(machine).origins)) > 0
+        machine.remember("growing", found)
+    return found
 
 
 def in_order(squares):
