@@ -4,6 +4,9 @@ A square is one integer here: the figures of all of its signs (see products), on
 square by a generator behind it is put together of what comes of both halves of its rows, and this of what comes of
 single rows: these are few, and come again and again. As in closure, the generators are the squares of letters and
 those repeats that are no products of the generators that are there already.
+
+The squares of the machine turned round are the same with rows and columns exchanged, so they can be found instead. This
+is done where the letters have fewer different columns than rows, as then there are fewer of these in all, mostly.
 """
 
 from lastprices.signs.products import masks_for, row_number
@@ -32,6 +35,8 @@ class Compact:
         # By the figure of the sign from a state to itself: what is left of signs when it is gone through in a repeat.
         masks = masks_for(many * many)
         self._left = (0, 0, 0, 0, masks["n"], 0, masks["n"], masks["0"])
+        # Whether rows and columns are exchanged.
+        self._is_turned = False
         # All squares that are known.
         self._squares = {}
         # By the numbers of generators: their rows, the last one first.
@@ -47,9 +52,12 @@ class Compact:
     def has_growing(self, machine):
         """Whether the least sign of a square from a first to a last state of the machine is `n`."""
         lows = 0
-        for first in machine.first_numbers():
-            for last in machine.last_numbers():
-                lows = lows | 1 << 3 * (self._many * (self._many - first) - last - 1)
+        befores, laters = machine.first_numbers(), machine.last_numbers()
+        if self._is_turned:
+            befores, laters = laters, befores
+        for before in befores:
+            for later in laters:
+                lows = lows | 1 << 3 * (self._many * (self._many - before) - later - 1)
         # Of the figures of signs all but that of `.` have the highest bit, and those of lesser signs than `n` the next.
         highs, middles = lows << 2, lows << 1
         for code in self._squares:
@@ -60,8 +68,8 @@ class Compact:
     def _find(self, machine):
         """Finds all squares, or one more than the limit at least."""
         squares = self._squares
-        for letter in machine.letters:
-            code = row_number("".join(letter_rows(machine, letter)))
+        for rows in self._letters_of(machine):
+            code = row_number("".join(rows))
             if code not in squares:
                 self._add(code)
         self._follow(list(squares))
@@ -76,6 +84,13 @@ class Compact:
                     self._add(repeat)
                     found = self._behind(befores, [len(self._factors) - 1])
                     self._follow([repeat, *found])
+
+    def _letters_of(self, machine):
+        """The list of the rows of the squares of letters, or of their columns if fewer of these are different."""
+        letters = [letter_rows(machine, letter) for letter in machine.letters]
+        turned = [["".join(column) for column in zip(*rows)] for rows in letters]
+        self._is_turned = _many_different(turned) < _many_different(letters)
+        return turned if self._is_turned else letters
 
     def _new_repeats(self, batch):
         """The list of those repeats of some squares that are not known."""
@@ -170,3 +185,8 @@ class Compact:
             least = least | (row & 7) * signs & later
             row = row >> 3
         return least
+
+
+def _many_different(squares):
+    """How many different rows some squares have."""
+    return len(set([row for rows in squares for row in rows]))
