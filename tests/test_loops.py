@@ -88,6 +88,27 @@ def faults_of_held(text):
     return sorted(set(faults))
 
 
+def is_in_place(node):
+    """Whether a loop over this walks what an attribute keeps, or what a call of the package returns, without a copy."""
+    if isinstance(node, ast.Subscript):
+        return is_in_place(node.value)
+    if isinstance(node, ast.Call) and ast.unparse(node.func) in ("enumerate", "zip", "reversed"):
+        return any(is_in_place(part) for part in node.args)
+    if isinstance(node, ast.Call):
+        return ast.unparse(node.func) not in OWN
+    return isinstance(node, ast.Attribute)
+
+
+def faults_of_kept(text):
+    """The rows where a loop that walks something in place changes what is kept in an attribute, or what it walks over."""
+    faults = []
+    for function in functions_in(text):
+        for loop in [node for node in ast.walk(function) if isinstance(node, ast.For) and is_in_place(node.iter)]:
+            told = {ast.unparse(part) for part in ast.walk(loop.target) if isinstance(part, ast.Name)}
+            faults += [row for row, names in changed_in(loop.body) if names & told or any("." in name for name in names)]
+    return sorted(set(faults))
+
+
 def faults_of_sums(text):
     """The rows where an item is changed by `+=` or `|=` with what may be the thing itself, or an item of it."""
     faults = []
@@ -108,6 +129,7 @@ class LoopsTest(unittest.TestCase):
         for path, text in sources().items():
             self.assertEqual(faults_of_loops(text), [], path)
             self.assertEqual(faults_of_held(text), [], path)
+            self.assertEqual(faults_of_kept(text), [], path)
             self.assertEqual(faults_of_sums(text), [], path)
 
     def test_lists_that_get_another_name(self):
@@ -120,6 +142,15 @@ class LoopsTest(unittest.TestCase):
         walk = "def f(self):\n    told = self.told\n    ones = self.all.get(1)\n    for x in {}:\n        told[x] = 1\n"
         self.assertEqual(faults_of_held(walk.format("zip(ones, ones)")), [5])
         self.assertEqual(faults_of_held(walk.format("list(zip(ones, ones))")), [])
+
+    def test_what_is_walked_in_place(self):
+        walk = "def f(self, box):\n    for at, x in {}:\n        self.kept[at].append(x)\n"
+        for told in ("enumerate(self.told)", "box.pairs()", "zip(self.told, [1])", "self.told[0]", "pairs_of(box)"):
+            self.assertEqual(faults_of_kept(walk.format(told)), [3], told)
+            self.assertEqual(faults_of_kept(walk.format(f"list({told})")), [], told)
+        self.assertEqual(faults_of_kept(walk.format("enumerate(list(self.told))")), [])
+        self.assertEqual(faults_of_kept("def f(self):\n    for xs in self.told:\n        xs[0] = 1\n"), [3])
+        self.assertEqual(faults_of_kept("def f(self):\n    ys = []\n    for x in self.told:\n        ys.append(x)\n"), [])
 
     def test_items_that_are_added_to_items(self):
         row = "def f(xs, at):\n    ys = [0]\n    {}\n    xs = ys\n"

@@ -29,7 +29,7 @@ class Twins:
         self._lasts = machine.last_numbers()
         # By letters and states: the lists of the next states, and their sets with a bit for each.
         self._laters = {}
-        for state, letter, later, _ in useful_arcs(machine):
+        for state, letter, later, _ in list(useful_arcs(machine)):
             self._laters.setdefault((letter, state), []).append(later)
         self._sets = {place: set_of(self._laters[place]) for place in self._laters}
         self._letters = machine.letters

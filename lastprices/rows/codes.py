@@ -55,8 +55,8 @@ class Codes:
         """Keeps the arcs of a machine, whose states stand behind those that are there."""
         begin = len(self._leaving)
         self._leaving.extend([[] for _ in range(len(machine))])
-        for at, letter in enumerate(self.alphabet):
-            for state, later, price in machine.moves(letter):
+        for at, letter in enumerate(list(self.alphabet)):
+            for state, later, price in list(machine.moves(letter)):
                 self._leaving[begin + state].append((at, begin + later, price))
                 if price > 0:
                     self._top = self.most + 1

@@ -107,7 +107,7 @@ class Closure:
                 if row not in numbers:
                     numbers[row] = row_number(row)
                     self._written[numbers[row]] = row
-                    for factor, table in zip(self._factors, self._tables):
+                    for factor, table in list(zip(self._factors, self._tables)):
                         table[row] = self._made_row(row, factor)
 
     def _made_row(self, row, factor):
