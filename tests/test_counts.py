@@ -2,13 +2,14 @@
 
 import inspect
 import itertools
+import random
 import unittest
 from unittest import mock
 
 from lastprices.base.machines import Machine
 from lastprices.errors import InvalidMachine, InvalidNumber, TooMany
 from lastprices.read import prices, subsets
-from lastprices.read.combined import free
+from lastprices.read.combined import free, turned
 from lastprices.read.prices import count_taken, each_taken
 from tests.force import least_price, some_machines, texts_up_to
 from tests.values import BLOCK, COUNT, NAMES_24, NO_MACHINES, NO_NUMBERS, check_refused, told_of
@@ -155,6 +156,60 @@ class TooManySetsTest(unittest.TestCase):
             self.assertEqual(count_taken(every, 2), 26 ** 2)
             with self.assertRaises(TooMany):
                 count_taken(every.without_arc("s", "q", "s"), 2)
+
+
+class NumberedSetsTest(unittest.TestCase):
+    def machines(self):
+        """Machines of few and of many states and letters."""
+        told = random.Random(29)
+        machines = [*some_machines(40), shifting(4), shifting(7), turned(shifting(6)), at_the_limit()]
+        for many in (5, 8, 13, 24):
+            places = [(one, letter, other) for one in NAMES_24[:many] for letter in "abyz" for other in NAMES_24[:many]]
+            machines.append(Machine(NAMES_24[:2], NAMES_24[many - 1:many], {place: 0 for place in told.sample(places, 3 * many)}))
+        return machines
+
+    def check(self, machine):
+        """All sets, and where the letters lead from them, are the same as step by step."""
+        sets, afters = subsets.numbered_sets(machine)
+        states = machine.states
+        told = [frozenset(state for at, state in enumerate(states) if bits >> at & 1) for bits in sets]
+        self.assertEqual(told[0], frozenset(machine.firsts))
+        self.assertEqual(len(set(told)), len(told))
+        self.assertEqual(len(afters), len(sets))
+        every = set(told) if len(sets) > 500 else set(sets_by_force(machine))
+        self.assertEqual(set(told), every)
+        for number in range(0, len(sets), 1 + len(sets) // 400):
+            for at, letter in enumerate(machine.letters):
+                later = frozenset(state for one in told[number] for state, _ in machine.steps(one, letter))
+                self.assertEqual(told[afters[number][at]], later, machine.lines)
+
+    def test_all_at_once_and_one_by_one(self):
+        for machine in self.machines():
+            for few in (2, 3, 10, 40):
+                for many in (1, 2, 7, 1000):
+                    if len(machine) < 10 or many == 1000:
+                        with mock.patch.object(subsets, "FEW", few), mock.patch.object(subsets, "MANY", many):
+                            self.check(machine)
+
+    def test_counts_by_both(self):
+        for machine in self.machines()[:46]:
+            told = [(count_taken(machine, length), list(each_taken(machine, length))) for length in range(4)]
+            with mock.patch.object(subsets, "FEW", 2), mock.patch.object(subsets, "MANY", 2):
+                again = [(count_taken(machine, length), list(each_taken(machine, length))) for length in range(4)]
+            self.assertEqual(again, told)
+            self.assertEqual([many for many, _ in told], [len(texts) for _, texts in told])
+
+    def test_sixteen_states_in_a_row(self):
+        names = ["s" + letter for letter in "abcdefghijklmnop"]
+        lines = ["first sa", "last sp", "arc sa a 0 sa", "arc sa b 0 sa", "arc sa b 0 sb"]
+        lines += [f"arc {one} {letter} 0 {other}" for one, other in zip(names[1:], names[2:]) for letter in "ab"]
+        for length in (0, 3, 200):
+            with self.assertRaises(TooMany) as caught:
+                count_taken(Machine.from_lines(*lines), length)
+            self.assertEqual(caught.exception.limit, 20000)
+        fewer = Machine.from_lines("first sa", "last so", *[line for line in lines[2:] if "sp" not in line])
+        self.assertEqual([count_taken(fewer, length) for length in (3, 13, 14, 20)], [0, 0, 2 ** 13, 2 ** 19])
+        self.assertEqual(next(each_taken(fewer, 14)), "b" + "a" * 13)
 
 
 class GeneratorTest(unittest.TestCase):

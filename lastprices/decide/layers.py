@@ -4,6 +4,7 @@ Rows have numbers here, in the order of the first ones of the shortest texts tha
 have no cap and are lowered: the least price of such a row is 0, and what was subtracted from it is its fall.
 """
 
+from lastprices.base.masks import ones_in
 from lastprices.errors import TooMany
 from lastprices.rows.codes import Codes
 from lastprices.rows.spread import MAX_TABLE
@@ -202,8 +203,3 @@ def check_rows(many):
     """Raises TooMany if there are more rows than a table can have."""
     if are_too_many(many):
         raise TooMany(MAX_TABLE)
-
-
-def ones_in(mask):
-    """How many bits of an integer are set."""
-    return f"{mask:b}".count("1")

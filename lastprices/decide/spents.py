@@ -4,7 +4,8 @@ For each row behind some letters there is one integer, with a field of some bits
 the way there, that of the least number lowest. So what is spent on the way to the next row is a shift.
 """
 
-from lastprices.decide.layers import Layers, ones_in
+from lastprices.base.masks import ones_in
+from lastprices.decide.layers import Layers
 
 # A machine keeps no more lowered rows than that.
 MAX_KEPT = 5000
