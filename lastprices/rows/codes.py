@@ -6,6 +6,7 @@ least of several prices is the `or` of their fields, and where letters lead from
 from its parts. There are three parts, each of some states beside each other. Parts come again far more often than rows.
 """
 
+from lastprices.base.masks import numbers_in
 from lastprices.base.words import is_integer
 
 # Fewer rows than that are brought in order one by one.
@@ -132,6 +133,15 @@ class Codes:
             return -1
         return sum([self._field << place for place, arcs in zip(self._places, self._leaving) if arcs])
 
+    def is_free(self):
+        """Whether nothing costs anything, so that a code has one bit for each state."""
+        return self._top == 0
+
+    def singles(self):
+        """By letters: where they lead from each single bit, lowest bits first; where nothing costs anything."""
+        ends = [self._single(1 << number) for number in range(self._many)]
+        return [[laters[at] for laters in ends] for at in range(len(self.alphabet))]
+
     def fields(self):
         """The lowest bits of all fields, and the highest ones."""
         lows = sum([1 << place for place in self._places])
@@ -187,6 +197,17 @@ class Codes:
             low = code & lows
             groups[code ^ low].append(ranks[low])
         return tuple([head + ends[rank] for head, high in heads for rank in sorted(groups[high])])
+
+    def rows_in(self, blocks):
+        """The ascending tuple of the rows of the codes in blocks."""
+        width, masks = blocks.tail_bits, blocks.masks
+        split = self._many - width
+        heads = self._half_rows([head << width for head in masks], self._places[:split])
+        tails = self._half_rows(list(range(1 << width)), self._places[split:])
+        ends = {mask: [] for mask in masks.values()}
+        for mask in list(ends):
+            ends[mask] = [tails[number][0] for number in numbers_in(mask)]
+        return tuple([head + tail for head, code in heads for tail in ends[masks[code >> width]]])
 
     def _half_rows(self, halves, places):
         """The list of the pairs of a half of a row and of its code, ascending, by the places of its states."""

@@ -20,14 +20,18 @@ class Spread:
 
     def grow(self):
         """Goes on with the codes behind one more letter: TooMany if more than a table can have are new."""
-        self._grow(len(self.befores) + MAX_TABLE, True)
+        self._grow(len(self.befores) + MAX_TABLE, 0)
 
     def grow_fully(self):
         """Goes on until there are no new codes: TooMany if there are more than a table can have."""
-        self._grow(MAX_TABLE, False)
+        self._grow(MAX_TABLE, MAX_TABLE)
 
-    def _grow(self, limit, once):
-        """Goes on with one layer or all: TooMany if there are more codes in all than a limit."""
+    def grow_beyond(self, many):
+        """Goes on until there are no new codes, or more than so many: TooMany as above."""
+        self._grow(MAX_TABLE, many)
+
+    def _grow(self, limit, enough):
+        """Goes on until there are no new codes, or more than are enough: TooMany if there are more than a limit."""
         befores, layer = self.befores, self.layer
         high, middle, low = self.codes.masks
         highs, middles, lows = self.codes.thirds
@@ -59,7 +63,7 @@ class Spread:
                 if near and len(befores) > limit:
                     raise TooMany(MAX_TABLE)
             layer = found
-            if once:
+            if len(befores) > enough:
                 break
         self.layer = layer
 

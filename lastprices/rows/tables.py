@@ -4,11 +4,15 @@ from lastprices.base.checks import check_letter, check_machine, check_number, ch
 from lastprices.base.ways import least_of, row_after, start_of
 from lastprices.base.words import is_integer
 from lastprices.errors import InvalidOperation, InvalidRow, InvalidText
+from lastprices.rows.blocks import Blocks
 from lastprices.rows.codes import Codes
 from lastprices.rows.spread import Spread
 
 MAX_CAP = 200
 MAX_TABLE = 20000
+
+# With more rows than that it is tried to find them in blocks.
+MANY = 1000
 
 
 def is_row(machine, cap, value):
@@ -53,10 +57,16 @@ class Table:
         self._cap = cap
         self._codes = Codes([machine], cap)
         self._spread = Spread(self._codes, [self._codes.first_code])
-        self._spread.grow_fully()
-        self._rows = self._codes.rows_of(self._spread.befores)
-        wrong = self._codes.wrong_ones(self._spread.befores)
-        self._wrong = self._codes.rows_of(wrong) if wrong else ()
+        # All codes in blocks, None where they were found one by one.
+        self._blocks = self._found_blocks()
+        if self._blocks is None:
+            self._spread.grow_fully()
+            self._rows = self._codes.rows_of(self._spread.befores)
+            wrong = self._codes.wrong_ones(self._spread.befores)
+            self._wrong = self._codes.rows_of(wrong) if wrong else ()
+        else:
+            self._rows = self._codes.rows_in(self._blocks)
+            self._wrong = ()
 
     @property
     def machine(self):
@@ -91,7 +101,7 @@ class Table:
     def after(self, row, letter):
         """The row to which a letter leads from a row of the table."""
         code = self._codes.code_of(row)
-        if code not in self._spread.befores:
+        if not self._has(code):
             raise InvalidOperation("this is no row of the table")
         letters = self._machine.letters
         if letter not in letters:
@@ -101,12 +111,30 @@ class Table:
     def text_to(self, row):
         """The first one of the shortest texts that lead to a row."""
         code = self._codes.code_of(row)
-        if code not in self._spread.befores:
+        if not self._has(code):
             raise InvalidOperation("this is no row of the table")
+        # Blocks do not tell texts.
+        self._spread.grow_fully()
         return self._spread.text_to(code)
 
+    def _found_blocks(self):
+        """The blocks of all codes, if there are many and they are found sooner so; None if not."""
+        if not self._codes.is_free():
+            return None
+        self._spread.grow_beyond(MANY)
+        if not self._spread.layer:
+            return None
+        blocks = Blocks(self._codes.singles())
+        return blocks if blocks.fill(list(self._spread.befores), self._spread.layer) else None
+
+    def _has(self, code):
+        """Whether a code is that of a row of the table; None is none."""
+        if self._blocks is None or code is None:
+            return code in self._spread.befores
+        return self._blocks.has(code)
+
     def __contains__(self, x):
-        return self._codes.code_of(x) in self._spread.befores
+        return self._has(self._codes.code_of(x))
 
     def __len__(self):
         return len(self._rows)
